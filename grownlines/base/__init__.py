@@ -1,0 +1,1 @@
+"""Integers, points, grids and rules."""

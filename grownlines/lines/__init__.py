@@ -1,0 +1,1 @@
+"""Schemes, the lines that grow from them, and places in these lines."""

@@ -1,0 +1,125 @@
+"""The lines of a scheme: how many steps they have, and the steps and points themselves."""
+
+from grownlines.base.points import plus
+from grownlines.base.rules import is_turn
+from grownlines.base.words import is_count
+from grownlines.errors import InvalidNumber, InvalidOperation, InvalidScheme, TooMany, UnknownLetter
+from grownlines.lines.schemes import Scheme
+from grownlines.lines.tallies import step_tallies, weight_of
+
+MAX_ORDER = 200
+MAX_STEPS = 5000
+
+
+def check_scheme(scheme):
+    """Refuse what is no scheme."""
+    if not isinstance(scheme, Scheme):
+        raise InvalidScheme("a scheme is asked for")
+
+
+def check_order(order):
+    """Refuse what is no order that may be passed."""
+    if not is_count(order) or order > MAX_ORDER:
+        raise InvalidNumber(order)
+
+
+def check_letter(scheme, letter):
+    """Refuse what is no letter of the scheme."""
+    if letter not in scheme.letters:
+        raise UnknownLetter(letter)
+
+
+def length_of(scheme, order):
+    """How many steps the line of an order has."""
+    check_scheme(scheme)
+    check_order(order)
+    return weight_of(scheme.axiom, step_tallies(scheme, order)[order])
+
+
+def letter_counts(scheme, order):
+    """The dict from all letters to how many steps of the line have them."""
+    counts = step_counts(scheme, order)
+    return {own: sum([counts[step] for step in counts if step[0] == own]) for own in scheme.letters}
+
+
+def step_counts(scheme, order):
+    """The dict from the steps of the line to how often it has them."""
+    check_scheme(scheme)
+    check_order(order)
+    counts = _added_up([(step, 1) for step in scheme.axiom])
+    for _ in range(order):
+        counts = _added_up([(new, counts[step]) for step in counts for new in _replaced(scheme, (step,))])
+    return {step: counts[step] for step in sorted(counts)}
+
+
+def _added_up(pairs):
+    counts = {}
+    for step, many in pairs:
+        counts[step] = counts.get(step, 0) + many
+    return counts
+
+
+def steps_of(scheme, order):
+    """The tuple of the steps of the line of an order."""
+    check_scheme(scheme)
+    check_order(order)
+    return _grown_by(scheme, scheme.axiom, order)
+
+
+def sequel(scheme, letter, order):
+    """The tuple of the steps that come from a step with this letter in the direction 0."""
+    check_scheme(scheme)
+    check_letter(scheme, letter)
+    check_order(order)
+    return _grown_by(scheme, ((letter, 0),), order)
+
+
+def grown(scheme, steps):
+    """The tuple of the steps by which a row of steps is replaced."""
+    check_scheme(scheme)
+    if not isinstance(steps, tuple) or not all([_is_step(scheme, step) for step in steps]):
+        raise InvalidOperation("a row of steps of the scheme is asked for")
+    return _grown_by(scheme, steps, 1)
+
+
+def _is_step(scheme, value):
+    if not isinstance(value, tuple) or len(value) != 2:
+        return False
+    return value[0] in scheme.letters and is_turn(scheme.grid, value[1])
+
+
+def _grown_by(scheme, steps, order):
+    if weight_of(steps, step_tallies(scheme, order)[order]) > MAX_STEPS:
+        raise TooMany(MAX_STEPS)
+    line = steps
+    for _ in range(order):
+        line = _replaced(scheme, line)
+    return line
+
+
+def _replaced(scheme, steps):
+    return tuple([new for letter, direction in steps for new in scheme[letter].drawn(direction)])
+
+
+def each_step(scheme, order):
+    """The steps of the line, one by one."""
+    check_scheme(scheme)
+    check_order(order)
+    waiting = [(step, order) for step in scheme.axiom[::-1]]
+    while waiting:
+        step, left = waiting.pop()
+        if left == 0:
+            yield step
+        else:
+            waiting.extend([(new, left - 1) for new in _replaced(scheme, (step,))[::-1]])
+
+
+def each_point(scheme, order):
+    """The points of all visits of the line, one by one."""
+    # Wrong arguments are refused where the first step is asked for.
+    point = (0, 0)
+    for _, direction in each_step(scheme, order):
+        yield point
+        point = plus(point, scheme.grid.units[direction])
+    if not scheme.is_closed:
+        yield point

@@ -1,0 +1,91 @@
+import unittest
+
+from grownlines.base.grids import Grid, Vector
+from grownlines.base.rules import Rule
+from grownlines.base.words import is_count, is_integer, is_letter, is_point
+from grownlines.lines.grown import (each_point, grown, length_of, letter_counts, sequel, step_counts, steps_of)
+from grownlines.lines.places import (address_of, end_of, is_address, kind_at, nth_step, number_of, point_at, step_at)
+from grownlines.lines.schemes import Scheme
+
+# The examples of the document, as they stand there.
+VALUES = '''
+DRAGON = Scheme.from_lines("grid square", "axiom a0", "rule a a0 b1", "rule b a1 b0")
+FLAKE = Scheme.from_lines("grid triangle", "axiom a0 a4 a2", "rule a a0 a1 a5 a0")
+'''
+
+STAGES = {
+    "Stage 1: errors and words": r'''
+>>> [is_integer(10 ** 400), is_count(True), is_letter("ab"), is_point((3, -2)), is_point([3, -2])]
+[False, False, False, True, False]
+''',
+    "Stage 2: grids": r'''
+>>> square, triangle = Grid("square"), Grid("triangle")
+>>> [triangle.product((0, 1), (0, 1)), triangle.turned((2, 1), 3), triangle.conjugate_of((2, 1)), triangle.norm_of((2, 1)), square.quotient((-4, 0), (1, 1))]
+[(-1, 1), (-2, -1), (3, -1), 7, (-2, 2)]
+>>> [square.quotient((1, 0), (1, 1)), triangle.direction_of((1, -1)), square.alternate((0, 2), (5, 3)), triangle.alternate((0, 2), (3, 4))]
+[None, 5, True, False]
+>>> vector = Vector(square, (1, 1))
+>>> [str(vector * vector), (vector.power(100) // vector.power(98)).point, (-vector).norm, vector[1]]
+['0,2', (0, 2), 2, 1]
+''',
+    "Stage 3: rules": r'''
+>>> rule = Rule(Grid("square"), (("a", 0), ("b", 1)))
+>>> [str(rule), rule.starts, rule.end, rule.drawn(3), str(rule.backward()), str(rule.mirrored())]
+['a0 b1', ((0, 0), (1, 0)), (1, 1), (('a', 3), ('b', 0)), 'b1 a0', 'a0 b3']
+>>> [str(rule + rule), "b" in rule, ("b", 0) in rule, rule[1], str(rule.renamed({"a": "b", "b": "b"}))]
+['a0 b1 a0 b1', True, False, ('b', 1), 'b0 b1']
+''',
+    "Stage 4: schemes": r'''
+>>> [DRAGON.growth, DRAGON.is_closed, FLAKE.is_closed, DRAGON.is_even, str(DRAGON["b"]), str(FLAKE)]
+[(1, 1), False, True, True, 'a1 b0', 'scheme of 1 letters on the triangle grid']
+>>> [DRAGON.lines, DRAGON.with_line("axiom b2 b1").axiom, DRAGON.with_line("rule b a1 a0").used]
+[('grid square', 'axiom a0', 'rule a a0 b1', 'rule b a1 b0'), (('b', 2), ('b', 1)), ('a', 'b')]
+''',
+    "Stage 5: grown lines": r'''
+>>> [length_of(DRAGON, 200) == 2 ** 200, length_of(FLAKE, 3), steps_of(DRAGON, 2), letter_counts(DRAGON, 3)]
+[True, 192, (('a', 0), ('b', 1), ('a', 2), ('b', 1)), {'a': 4, 'b': 4}]
+>>> [step_counts(DRAGON, 2), sequel(DRAGON, "b", 1), grown(DRAGON, (("b", 3),)), list(each_point(FLAKE, 0))]
+[{('a', 0): 1, ('a', 2): 1, ('b', 1): 2}, (('a', 1), ('b', 0)), (('a', 0), ('b', 3)), [(0, 0), (1, 0), (1, -1)]]
+''',
+    "Stage 6: places": r'''
+>>> [step_at(DRAGON, 4, 9), point_at(DRAGON, 4, 11), point_at(DRAGON, 4, 16), step_at(FLAKE, 200, 0)]
+[('b', 3), (-2, 1), (-4, 0), ('a', 0)]
+>>> [address_of(DRAGON, 4, 11), number_of(DRAGON, (0, 1, 0, 1, 1)), is_address(DRAGON, (0, 2)), kind_at(DRAGON, 4, 11)]
+[(0, 1, 0, 1, 1), 11, False, ('a', 'b', 3)]
+>>> [end_of(DRAGON, 100) == (-(2 ** 50), 0), nth_step(DRAGON, 100, "b", 10 ** 20), point_at(FLAKE, 1, 11), address_of(FLAKE, 2, 0)]
+[True, 200000000000000000001, (1, -1), (0, 0, 0)]
+''',
+}
+
+
+class Examples(unittest.TestCase):
+    def names(self):
+        """The names of this module, and the values that most examples use."""
+        known = dict(globals())
+        exec(VALUES, known)
+        return known
+
+    def check(self, text):
+        """Each line behind `>>> ` is carried out; one that is an expression is followed by its result."""
+        known = self.names()
+        lines = text.strip().split("\n")
+        results = 0
+        for line, following in zip(lines, lines[1:] + [">>> "]):
+            if not line.startswith(">>> "):
+                continue
+            if following.startswith(">>> "):
+                exec(line[4:], known)
+            else:
+                self.assertEqual(repr(eval(line[4:], known)), following, line)
+                results += 1
+        self.assertEqual(results, sum(not line.startswith(">>> ") for line in lines))
+        self.assertGreater(results, 0)
+
+    def test_all_stages(self):
+        for name, text in STAGES.items():
+            with self.subTest(name):
+                self.check(text)
+
+
+if __name__ == "__main__":
+    unittest.main()
