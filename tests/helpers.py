@@ -1,9 +1,11 @@
 """Values of every kind, known schemes, and lines that are grown by the words of the document alone."""
 
 import copy
+import random
 
 from grownlines.base.grids import Grid, Vector
 from grownlines.base.rules import Rule
+from grownlines.errors import InvalidScheme
 from grownlines.lines.schemes import Scheme
 
 SQUARE = Grid("square")
@@ -24,6 +26,15 @@ LONG = Scheme.from_lines(
     "grid triangle", "axiom a0 b1 c2 d3 e4 f5 a0 a0 a0 a0 a0 a0",
     *[f"rule {letter} a0 b1 c2 d3 e4 f5 a0 a0 a0 a0 a0 a0" for letter in "abcdef"])
 SCHEMES = (DRAGON, FLAKE, UNEVEN, THERE_AND_BACK, GOSPER, LONG)
+
+BACK = Scheme.from_lines("grid square", "axiom a0", "rule a a0 a0 a2 a0")
+ROAD = Scheme.from_lines("grid square", "axiom a0", "rule a a0 a0")
+LEVY = Scheme.from_lines("grid square", "axiom a0", "rule a a0 a1")
+LOOP = Scheme.from_lines("grid square", "axiom a0 a0 a1 a2 a3 a3", "rule a a0 a0")
+# A closed line of two steps, whose edges are one.
+TWO = Scheme.from_lines("grid triangle", "axiom a1 a4", "rule a a0 a1 a5 a0")
+# Ends that alternate in the triangle grid.
+STAR = Scheme.from_lines("grid triangle", "axiom a0 a0 a2 a4 a4 a2 a0", "rule a a0 a1")
 
 UNITS = {
     "square": [(1, 0), (0, 1), (-1, 0), (0, -1)],
@@ -134,4 +145,107 @@ def short_lines(most):
         order = 0
         while len(line_of(scheme, order)) <= most:
             yield scheme, order
+            order += 1
+
+
+def sights_of(scheme, line):
+    """The visits of a line as triples (kind, direction, point), from the steps beside them."""
+    many = len(UNITS[scheme.lines[0][5:]])
+    points = points_of(scheme, line)
+    closed = points[-1] == (0, 0)
+    sights = []
+    for number in range(len(line) if closed else len(line) + 1):
+        before = line[number - 1] if closed or number > 0 else None
+        after = line[number] if number < len(line) else None
+        turn = (after[1] - before[1]) % many if before and after else 0
+        kind = (before[0] if before else "", after[0] if after else "", turn)
+        sights.append((kind, (after or before)[1], points[number]))
+    return sights
+
+
+def addresses_of_line(scheme, order):
+    """The addresses of all visits, one order after the other."""
+    line = axiom_of(scheme)
+    addresses = [(number,) for number in range(len(visits_of(scheme, line)))]
+    for _ in range(order):
+        following = []
+        for number, address in enumerate(addresses):
+            many = len(grow(scheme, line[number:number + 1])) if number < len(line) else 1
+            following.extend(address + (index,) for index in range(many))
+        line, addresses = grow(scheme, line), following
+    return addresses
+
+
+def in_turn(name, point, turn):
+    """A point, turned to the left so many times."""
+    for _ in range(turn % len(UNITS[name])):
+        point = product(name, point, (0, 1))
+    return point
+
+
+def alternating(many, ends, others):
+    """Whether two pairs of ends are four different ones and take turns around a point."""
+    around = [(0 if end in ends else 1) for end in range(many) if end in ends + others]
+    return around in ([0, 1, 0, 1], [1, 0, 1, 0])
+
+
+def faulty_pairs(scheme, line, fault):
+    """All pairs of numbers with a fault, by a comparison of each with each."""
+    many = len(UNITS[scheme.lines[0][5:]])
+    points = points_of(scheme, line)
+    sights = sights_of(scheme, line)
+    if fault == "edge":
+        edges = [sorted(pair) for pair in zip(points, points[1:])]
+        return [(one, other) for other in range(len(edges)) for one in range(other) if edges[one] == edges[other]]
+    pairs = []
+    for other in range(len(sights)):
+        for one in range(other):
+            if points[one] == points[other] and (fault == "point" or crossing(many, sights[one], sights[other])):
+                pairs.append((one, other))
+    return pairs
+
+
+def crossing(many, one, other):
+    if "" in one[0] or "" in other[0]:
+        return False
+    ends = [(direction, (direction - kind[2] + many // 2) % many) for kind, direction, point in (one, other)]
+    return alternating(many, *ends)
+
+
+def random_schemes(seed, many):
+    """Schemes of both grids, of one to three letters, with rules of different lengths."""
+    draw = random.Random(seed)
+    found = []
+    while len(found) < many:
+        name = draw.choice(["square", "triangle"])
+        half = len(UNITS[name]) // 2
+        turns = [draw.choice([0, 0, 0, draw.randrange(2 * half)]) for _ in range(draw.randrange(2, 5))]
+        letters = draw.choice(["a", "ab", "abc"])
+        lines = []
+        for letter in letters:
+            row = draw.sample(turns, len(turns))
+            if draw.random() < 0.3:
+                turn = draw.randrange(half)
+                row = [turn] + row + [turn + half] if draw.random() < 0.5 else row + [turn, turn + half]
+            lines.append(f"rule {letter} " + " ".join(f"{draw.choice(letters)}{turn}" for turn in row))
+        axiom = draw.choice([[0], [0], [1, 0], [0, half], [0, 2, 1], [0, 1, half, half + 1]])
+        lines.append("axiom " + " ".join(f"{draw.choice(letters)}{turn}" for turn in axiom))
+        try:
+            found.append(Scheme.from_lines(f"grid {name}", *lines))
+        except InvalidScheme:
+            pass
+    return found
+
+
+MIXED = SCHEMES + (BACK, ROAD, LEVY, LOOP, TWO, STAR) + tuple(random_schemes(5, 24))
+
+
+def orders_within(schemes, most):
+    """Pairs of schemes and orders, with their lines, that have at most so many steps."""
+    for scheme in schemes:
+        line = axiom_of(scheme)
+        order = 0
+        while len(line) <= most:
+            yield scheme, order, line
+            line = grow(scheme, line)
             order += 1

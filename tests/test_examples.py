@@ -6,6 +6,9 @@ from grownlines.base.words import is_count, is_integer, is_letter, is_point
 from grownlines.lines.grown import (each_point, grown, length_of, letter_counts, sequel, step_counts, steps_of)
 from grownlines.lines.places import (address_of, end_of, is_address, kind_at, nth_step, number_of, point_at, step_at)
 from grownlines.lines.schemes import Scheme
+from grownlines.measure.boxes import area, box, farthest, total_turn
+from grownlines.visits.kinds import coming, count_kinds, kinds_of, visit_at, visits
+from grownlines.visits.meetings import crowds, faults_of, first_meeting, meetings, outline
 
 # The examples of the document, as they stand there.
 VALUES = '''
@@ -54,6 +57,25 @@ STAGES = {
 [(0, 1, 0, 1, 1), 11, False, ('a', 'b', 3)]
 >>> [end_of(DRAGON, 100) == (-(2 ** 50), 0), nth_step(DRAGON, 100, "b", 10 ** 20), point_at(FLAKE, 1, 11), address_of(FLAKE, 2, 0)]
 [True, 200000000000000000001, (1, -1), (0, 0, 0)]
+''',
+    "Stage 7: kinds of visits": r'''
+>>> [kinds_of(DRAGON), coming(DRAGON, ("b", "a", 1))]
+[(('', 'a', 0), ('a', '', 0), ('a', 'b', 1), ('a', 'b', 3), ('b', '', 0), ('b', 'a', 1), ('b', 'a', 3)), ((('b', 'a', 1), 0, (0, 0)), (('a', 'b', 1), 1, (1, 0)))]
+>>> [visits(DRAGON, 1), visit_at(DRAGON, 4, (0, 0, 1, 1, 1)), count_kinds(FLAKE, 1)]
+[((('', 'a', 0), 0, (0, 0)), (('a', 'b', 1), 1, (1, 0)), (('b', '', 0), 1, (1, 1))), (('a', 'b', 3), 1, (-2, 1)), {('a', 'a', 1): 6, ('a', 'a', 4): 6}]
+''',
+    "Stage 8: boxes and areas": r'''
+>>> [box(DRAGON, 4), area(DRAGON, 2), total_turn(DRAGON, 4), farthest(DRAGON, 4, (0, 1)), farthest(DRAGON, 4, (-1, 0))]
+[(-4, -1, 1, 2), 2, 1, (2, 4), (4, 15)]
+>>> [area(FLAKE, 0), area(FLAKE, 1), total_turn(FLAKE, 200), box(FLAKE, 1)]
+[-1, -12, -6, (0, -3, 4, 1)]
+''',
+    "Stage 10: meetings by force": r'''
+>>> [list(meetings(DRAGON, 4, "point")), faults_of(DRAGON, 4), crowds(DRAGON, 4), first_meeting(DRAGON, "point")]
+[[(7, 11)], ('point',), {(-2, 1): (7, 11)}, (4, 7, 11)]
+>>> loop = Scheme.from_lines("grid square", "axiom a0 a0 a1 a2 a3 a3", "rule a a0 a0")
+>>> [list(meetings(loop, 0, "cross")), list(meetings(loop, 0, "edge")), faults_of(loop, 1), outline(FLAKE, 0)]
+[[(1, 5)], [], ('point', 'cross'), {((0, 0), (1, -1)): (2,), ((0, 0), (1, 0)): (0,), ((1, -1), (1, 0)): (1,)}]
 ''',
 }
 

@@ -18,6 +18,9 @@ INTERFACE = {
     "lines.schemes": "Scheme",
     "lines.grown": "length_of letter_counts step_counts steps_of sequel each_step each_point grown",
     "lines.places": "step_at point_at end_of address_of number_of is_address kind_at steps_with nth_step",
+    "visits.kinds": "is_kind kinds_of coming visits visit_at is_address_of count_kinds",
+    "measure.boxes": "farthest box area total_turn",
+    "visits.meetings": "meetings has_met faults_of crowds outline first_meeting",
 }
 METHODS = {
     "Grid": "unit direction_of product norm_of conjugate_of turned quotient alternate __len__ __iter__ __eq__ __str__",

@@ -8,36 +8,16 @@ from grownlines.lines.places import (address_of, end_of, is_address, kind_at, nt
                                      steps_with)
 from grownlines.lines.schemes import Scheme
 
-from tests.helpers import (DRAGON, FLAKE, LONG, SCHEMES, THERE_AND_BACK, UNEVEN, UNITS, VALUES, axiom_of, grow, line_of,
-                           others, points_of, product, raised_by, same, short_lines, visits_of, within)
+from tests.helpers import (DRAGON, FLAKE, LONG, SCHEMES, THERE_AND_BACK, UNEVEN, UNITS, VALUES, addresses_of_line,
+                           axiom_of, line_of, others, points_of, product, raised_by, same, short_lines, sights_of,
+                           visits_of, within)
 
 OF_NUMBERS = [step_at, point_at, address_of, kind_at]
 
 
 def kinds_of_line(scheme, line):
-    """The kinds of all visits, from the steps beside them."""
-    many = len(scheme.grid)
-    closed = points_of(scheme, line)[-1] == (0, 0)
-    kinds = []
-    for number in range(len(line) if closed else len(line) + 1):
-        before = line[number - 1] if closed or number > 0 else None
-        after = line[number] if number < len(line) else None
-        turn = (after[1] - before[1]) % many if before and after else 0
-        kinds.append((before[0] if before else "", after[0] if after else "", turn))
-    return kinds
-
-
-def addresses_of_line(scheme, order):
-    """The addresses of all visits, one order after the other."""
-    line = axiom_of(scheme)
-    addresses = [(number,) for number in range(len(visits_of(scheme, line)))]
-    for _ in range(order):
-        following = []
-        for number, address in enumerate(addresses):
-            many = len(grow(scheme, line[number:number + 1])) if number < len(line) else 1
-            following.extend(address + (index,) for index in range(many))
-        line, addresses = grow(scheme, line), following
-    return addresses
+    """The kinds of all visits."""
+    return [kind for kind, direction, point in sights_of(scheme, line)]
 
 
 class ShortLines(unittest.TestCase):

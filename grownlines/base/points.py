@@ -60,3 +60,16 @@ def trail(grid, directions):
     for direction in directions:
         points.append(plus(points[-1], grid.units[direction]))
     return points
+
+
+def in_powers(grid, base, digits):
+    """The point with these digits to a base: the last one, the one before times the base, and so on."""
+    # Neighbours are joined, round by round, so that great points are multiplied a few times only.
+    row = digits
+    power = base
+    while len(row) > 1:
+        if len(row) % 2 == 1:
+            row = [(0, 0)] + row
+        row = [plus(times(grid, row[at], power), row[at + 1]) for at in range(0, len(row), 2)]
+        power = times(grid, power, power)
+    return row[0]

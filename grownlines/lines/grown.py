@@ -5,7 +5,7 @@ from grownlines.base.rules import is_turn
 from grownlines.base.words import is_count
 from grownlines.errors import InvalidNumber, InvalidOperation, InvalidScheme, TooMany, UnknownLetter
 from grownlines.lines.schemes import Scheme
-from grownlines.lines.tallies import step_tallies, weight_of
+from grownlines.lines.tallies import added_up, step_tallies, weight_of
 
 MAX_ORDER = 200
 MAX_STEPS = 5000
@@ -46,17 +46,10 @@ def step_counts(scheme, order):
     """The dict from the steps of the line to how often it has them."""
     check_scheme(scheme)
     check_order(order)
-    counts = _added_up([(step, 1) for step in scheme.axiom])
+    counts = added_up([(step, 1) for step in scheme.axiom])
     for _ in range(order):
-        counts = _added_up([(new, counts[step]) for step in counts for new in _replaced(scheme, (step,))])
+        counts = added_up([(new, counts[step]) for step in counts for new in _replaced(scheme, (step,))])
     return {step: counts[step] for step in sorted(counts)}
-
-
-def _added_up(pairs):
-    counts = {}
-    for step, many in pairs:
-        counts[step] = counts.get(step, 0) + many
-    return counts
 
 
 def steps_of(scheme, order):

@@ -136,14 +136,17 @@ def number_of(scheme, address):
 def is_address(scheme, value):
     """Whether the value is the address of a visit, of an order up to 200."""
     check_scheme(scheme)
-    if not isinstance(value, tuple) or not 1 <= len(value) <= MAX_ORDER + 1:
+    return isinstance(value, tuple) and 1 <= len(value) <= MAX_ORDER + 1 and leads_to_visit(scheme, value)
+
+
+def leads_to_visit(scheme, numbers):
+    """Whether a tuple is the address of a visit, of an order of any size."""
+    if not all([is_count(index) for index in numbers]):
         return False
-    if not all([is_count(index) for index in value]):
-        return False
-    if value[0] == len(scheme.axiom):
+    if numbers[0] == len(scheme.axiom):
         # From the last visit of an open line, which has no step out, only number 0 comes.
-        return not scheme.is_closed and not any([index > 0 for index in value[1:]])
-    return _is_trace(scheme, value)
+        return not scheme.is_closed and not any([index > 0 for index in numbers[1:]])
+    return _is_trace(scheme, numbers)
 
 
 def _is_trace(scheme, value):
@@ -161,10 +164,11 @@ def kind_at(scheme, order, number):
     before = steps - 1 if scheme.is_closed and number == 0 else number - 1
     step_in = _step_by(scheme, levels, before) if before >= 0 else None
     step_out = _step_by(scheme, levels, number) if number < steps else None
-    return _kind_between(scheme.grid, step_in, step_out)
+    return kind_between(scheme.grid, step_in, step_out)
 
 
-def _kind_between(grid, step_in, step_out):
+def kind_between(grid, step_in, step_out):
+    """The kind of a visit with these two steps, None for one that is missing."""
     if step_in is None:
         return ("", step_out[0], 0)
     if step_out is None:

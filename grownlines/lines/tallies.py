@@ -27,3 +27,11 @@ def letter_tallies(scheme, order, letter):
 def weight_of(row, level):
     """The weight of what comes from a row of items."""
     return sum([level[letter] for letter, turn in row])
+
+
+def added_up(pairs):
+    """The dict from what is counted to the sum of its numbers."""
+    counts = {}
+    for counted, many in pairs:
+        counts[counted] = counts.get(counted, 0) + many
+    return counts

@@ -1,0 +1,1 @@
+"""What can be measured of a line: boxes, areas and turns."""

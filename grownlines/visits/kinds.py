@@ -1,0 +1,152 @@
+"""Kinds of visits, the visits of a line, and what comes from them."""
+
+from grownlines.base.points import in_powers, trail, turned_by
+from grownlines.base.rules import is_turn
+from grownlines.base.words import is_count
+from grownlines.errors import InvalidNumber, InvalidOperation, TooMany
+from grownlines.lines.grown import MAX_STEPS, check_order, check_scheme, length_of, steps_of
+from grownlines.lines.places import kind_between, leads_to_visit
+from grownlines.lines.tallies import added_up
+
+# The greatest order of which a visit is told by an address.
+MAX_ADDRESS_ORDER = 20000
+
+
+def check_address_order(order):
+    """Refuse what is no order of which a visit is told by an address."""
+    if not is_count(order) or order > MAX_ADDRESS_ORDER:
+        raise InvalidNumber(order)
+
+
+def check_kind(scheme, kind):
+    """Refuse what has not the form of a kind."""
+    if not is_kind(scheme, kind):
+        raise InvalidOperation("a kind is two letters and a turn")
+
+
+def is_kind(scheme, value):
+    """Whether the value has the form of a kind of visits."""
+    check_scheme(scheme)
+    if not isinstance(value, tuple) or len(value) != 3 or not is_turn(scheme.grid, value[2]):
+        return False
+    before, after, turn = value
+    if before == "" or after == "":
+        return turn == 0 and (before in scheme.letters or after in scheme.letters)
+    return before in scheme.letters and after in scheme.letters
+
+
+def kinds_of(scheme):
+    """The ascending tuple of the kinds that visits of some order have."""
+    check_scheme(scheme)
+    met = {kind: True for kind, direction, point in first_visits(scheme)}
+    waiting = list(met)
+    while waiting:
+        for kind, _, _ in what_comes(scheme, waiting.pop()):
+            if kind not in met:
+                met[kind] = True
+                waiting.append(kind)
+    return tuple(sorted(list(met)))
+
+
+def coming(scheme, kind):
+    """The triples (kind, turn, vector) of what comes from a visit of a kind in the direction 0."""
+    check_scheme(scheme)
+    check_kind(scheme, kind)
+    return what_comes(scheme, kind)
+
+
+def what_comes(scheme, kind):
+    """As `coming`, of a kind that is known to be one."""
+    before, after, turn = kind
+    if after == "":
+        letter, last_turn = scheme[before].row[-1]
+        return (((letter, "", 0), last_turn, (0, 0)),)
+    rule = scheme[after]
+    ahead = None if before == "" else scheme[before].drawn(-turn % len(scheme.grid.units))[-1]
+    return tuple(_along(scheme.grid, ahead, rule.row, rule.starts))
+
+
+def _along(grid, ahead, steps, points):
+    """The visits at which these steps begin, behind a step that is ahead of them all."""
+    befores = [ahead] + list(steps[:-1])
+    return [(kind_between(grid, before, step), step[1], point) for before, step, point in zip(befores, steps, points)]
+
+
+def visits_along(scheme, steps):
+    """The list of the visits of a line with these steps."""
+    grid = scheme.grid
+    points = trail(grid, [direction for letter, direction in steps])
+    if scheme.is_closed:
+        return _along(grid, steps[-1], steps, points)
+    last = (kind_between(grid, steps[-1], None), steps[-1][1], points[-1])
+    return _along(grid, None, steps, points) + [last]
+
+
+def first_visits(scheme):
+    """The list of the visits of the line of order 0."""
+    return visits_along(scheme, scheme.axiom)
+
+
+def many_visits(scheme, order):
+    """How many visits the line of an order has."""
+    return length_of(scheme, order) + (0 if scheme.is_closed else 1)
+
+
+def visits(scheme, order):
+    """The tuple of the visits of a line as triples (kind, direction, point)."""
+    check_scheme(scheme)
+    check_order(order)
+    if many_visits(scheme, order) > MAX_STEPS:
+        raise TooMany(MAX_STEPS)
+    return tuple(visits_along(scheme, steps_of(scheme, order)))
+
+
+def visit_at(scheme, order, address):
+    """The triple of the visit with an address."""
+    if not is_address_of(scheme, order, address):
+        raise InvalidOperation("an address of a visit of this order is asked for")
+    return visit_by(scheme, address)
+
+
+def visit_by(scheme, address):
+    """As `visit_at`, of an address that is known to be one."""
+    grid = scheme.grid
+    known = {}
+    kind, direction, point = first_visits(scheme)[address[0]]
+    digits = [point]
+    for number in address[1:]:
+        if kind not in known:
+            known[kind] = what_comes(scheme, kind)
+        kind, turn, vector = known[kind][number]
+        digits.append(turned_by(grid, vector, direction))
+        direction = (direction + turn) % len(grid.units)
+    return (kind, direction, in_powers(grid, scheme.growth, digits))
+
+
+def is_address_of(scheme, order, value):
+    """Whether the value is the address of a visit of an order."""
+    check_scheme(scheme)
+    check_address_order(order)
+    return isinstance(value, tuple) and len(value) == order + 1 and leads_to_visit(scheme, value)
+
+
+def count_kinds(scheme, order):
+    """The dict from the kinds of visits of a line to how many there are."""
+    check_scheme(scheme)
+    check_order(order)
+    comes = {kind: [own for own, turn, vector in what_comes(scheme, kind)] for kind in kinds_of(scheme)}
+    # The visits from number 1 on are told by the letter of the step out alone.
+    inner = {kind[1]: comes[kind][1:] for kind in comes}
+    counts = added_up([(kind, 1) for kind, direction, point in first_visits(scheme)])
+    for _ in range(order):
+        steps = added_up([(kind[1], counts[kind]) for kind in counts])
+        ahead = [(comes[kind][0], counts[kind]) for kind in counts]
+        counts = added_up(ahead + [(own, steps[letter]) for letter in steps for own in inner[letter]])
+    return {kind: counts[kind] for kind in sorted(list(counts))}
+
+
+def ends_of(grid, kind, direction):
+    """The ends of the step in and of the step out of a visit, None if one of these is missing."""
+    if kind[0] == "" or kind[1] == "":
+        return None
+    return ((direction - kind[2] + grid.half) % len(grid.units), direction)
