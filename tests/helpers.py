@@ -249,3 +249,41 @@ def orders_within(schemes, most):
             yield scheme, order, line
             line = grow(scheme, line)
             order += 1
+
+
+def norm(name, point):
+    a, b = point
+    return a * a + b * b + (a * b if name == "triangle" else 0)
+
+
+def stand_between(name, one, other):
+    """What one visit sees of another one, both as triples (kind, direction, point)."""
+    vector = (other[2][0] - one[2][0], other[2][1] - one[2][1])
+    return (one[0], other[0], (other[1] - one[1]) % len(UNITS[name]), in_turn(name, vector, -one[1]))
+
+
+def near_pairs(scheme, line, far):
+    """The triples (number, number, stand) of all pairs of visits whose vector has at most this norm."""
+    name = scheme.lines[0][5:]
+    sights = sights_of(scheme, line)
+    triples = []
+    for number, one in enumerate(sights):
+        for later in range(number + 1, len(sights)):
+            other = sights[later]
+            if norm(name, (other[2][0] - one[2][0], other[2][1] - one[2][1])) <= far:
+                triples.append((number, later, stand_between(name, one, other)))
+    return triples
+
+
+def fault_shown(scheme, stand, fault):
+    """Whether a stand shows a fault, by the two visits drawn beside one another."""
+    name = scheme.lines[0][5:]
+    many = len(UNITS[name])
+    kind, other, turn, vector = stand
+    if fault == "point":
+        return vector == (0, 0)
+    if fault == "cross":
+        return vector == (0, 0) and crossing(many, (kind, 0, (0, 0)), (other, turn, vector))
+    if kind[1] == "" or other[1] == "":
+        return False
+    return {(0, 0), UNITS[name][0]} == {vector, add(vector, UNITS[name][turn])}

@@ -3,12 +3,16 @@ import unittest
 from grownlines.base.grids import Grid, Vector
 from grownlines.base.rules import Rule
 from grownlines.base.words import is_count, is_integer, is_letter, is_point
+from grownlines.decide.papers import first_order, is_clear, is_paper, lift, meeting, paper
+from grownlines.decide.stands import coming_stands, is_far, is_shown, reach, stand_of, stands_within
+from grownlines.decide.tables import Table, pairs_to
 from grownlines.lines.grown import (each_point, grown, length_of, letter_counts, sequel, step_counts, steps_of)
 from grownlines.lines.places import (address_of, end_of, is_address, kind_at, nth_step, number_of, point_at, step_at)
 from grownlines.lines.schemes import Scheme
 from grownlines.measure.boxes import area, box, farthest, total_turn
 from grownlines.visits.kinds import coming, count_kinds, kinds_of, visit_at, visits
 from grownlines.visits.meetings import crowds, faults_of, first_meeting, meetings, outline
+from grownlines.visits.points import count_at, is_passed, steps_on, visits_at
 
 # The examples of the document, as they stand there.
 VALUES = '''
@@ -70,12 +74,45 @@ STAGES = {
 >>> [area(FLAKE, 0), area(FLAKE, 1), total_turn(FLAKE, 200), box(FLAKE, 1)]
 [-1, -12, -6, (0, -3, 4, 1)]
 ''',
+    "Stage 9: visits at a point": r'''
+>>> BACK = Scheme.from_lines("grid square", "axiom a0", "rule a a0 a0 a2 a0")
+>>> [visits_at(DRAGON, 4, (-2, 1)), steps_on(DRAGON, 4, (0, 2), (0, 1)), is_passed(DRAGON, 4, (0, -1)), is_passed(DRAGON, 4, None)]
+[(7, 11), (3,), False, False]
+>>> [visits_at(BACK, 1, (1, 0)), steps_on(BACK, 1, (1, 0), (2, 0)), count_at(BACK, 2, (3, 0)), count_at(BACK, 200, (1, 0))]
+[(1, 3), (1, 2, 3), 6, 2]
+''',
     "Stage 10: meetings by force": r'''
 >>> [list(meetings(DRAGON, 4, "point")), faults_of(DRAGON, 4), crowds(DRAGON, 4), first_meeting(DRAGON, "point")]
 [[(7, 11)], ('point',), {(-2, 1): (7, 11)}, (4, 7, 11)]
 >>> loop = Scheme.from_lines("grid square", "axiom a0 a0 a1 a2 a3 a3", "rule a a0 a0")
 >>> [list(meetings(loop, 0, "cross")), list(meetings(loop, 0, "edge")), faults_of(loop, 1), outline(FLAKE, 0)]
 [[(1, 5)], [], ('point', 'cross'), {((0, 0), (1, -1)): (2,), ((0, 0), (1, 0)): (0,), ((1, -1), (1, 0)): (1,)}]
+''',
+    "Stage 11: stands": r'''
+>>> [reach(DRAGON), reach(FLAKE), stands_within(DRAGON, ("b", "a", 1))]
+[6, 3, {(0, 1): (('b', 'a', 1), ('a', 'b', 1), 1, (1, 0))}]
+>>> seen = stand_of(DRAGON, 4, (0, 0, 1, 1, 1), (0, 1, 0, 1, 1))
+>>> [seen, [is_shown(DRAGON, seen, fault) for fault in ("point", "edge", "cross")], is_far(DRAGON, seen)]
+[(('a', 'b', 3), ('a', 'b', 3), 2, (0, 0)), [True, False, False], False]
+>>> coming_stands(DRAGON, seen)
+{(0, 0): (('b', 'a', 3), ('b', 'a', 3), 2, (0, 0)), (0, 1): (('b', 'a', 3), ('a', 'b', 3), 1, (-1, 0)), (1, 0): (('a', 'b', 3), ('b', 'a', 3), 3, (0, -1)), (1, 1): (('a', 'b', 3), ('a', 'b', 3), 2, (0, -2))}
+''',
+    "Stage 12: tables": r'''
+>>> table = Table(DRAGON)
+>>> [table.order_with("point"), table.order_with("edge"), table.order_with("cross"), seen in table, table.order_of(seen)]
+[4, None, None, True, 4]
+>>> [Table(FLAKE).order_with(fault) for fault in ("point", "edge", "cross")]
+[None, None, None]
+>>> list(pairs_to(DRAGON, 0))
+[(0, 1, (('', 'a', 0), ('a', '', 0), 0, (1, 0)))]
+''',
+    "Stage 13: papers": r'''
+>>> [is_clear(DRAGON, "edge"), paper(DRAGON, "point")[0], meeting(DRAGON, "point"), first_order(FLAKE, "point")]
+[True, 'meets', (4, 7, 11), None]
+>>> [is_paper(DRAGON, "point", ("meets", (0, 0, 1, 1, 1), (0, 1, 0, 1, 1))), is_paper(DRAGON, "cross", ("clear", table.kinds, table.stands))]
+[True, True]
+>>> lift(DRAGON, (0, 0), (0, 1))
+(4, (0, 0, 1, 1, 1), (0, 1, 0, 1, 1))
 ''',
 }
 
@@ -87,9 +124,8 @@ class Examples(unittest.TestCase):
         exec(VALUES, known)
         return known
 
-    def check(self, text):
+    def check(self, text, known):
         """Each line behind `>>> ` is carried out; one that is an expression is followed by its result."""
-        known = self.names()
         lines = text.strip().split("\n")
         results = 0
         for line, following in zip(lines, lines[1:] + [">>> "]):
@@ -104,9 +140,11 @@ class Examples(unittest.TestCase):
         self.assertGreater(results, 0)
 
     def test_all_stages(self):
+        # Examples also use names of earlier ones.
+        known = self.names()
         for name, text in STAGES.items():
             with self.subTest(name):
-                self.check(text)
+                self.check(text, known)
 
 
 if __name__ == "__main__":

@@ -21,6 +21,10 @@ INTERFACE = {
     "visits.kinds": "is_kind kinds_of coming visits visit_at is_address_of count_kinds",
     "measure.boxes": "farthest box area total_turn",
     "visits.meetings": "meetings has_met faults_of crowds outline first_meeting",
+    "visits.points": "count_at is_passed visits_at steps_on",
+    "decide.stands": "reach is_stand stand_of is_far is_shown first_stands stands_within coming_stands",
+    "decide.tables": "Table is_closed_under pairs_to",
+    "decide.papers": "is_clear first_order paper is_paper meeting lift",
 }
 METHODS = {
     "Grid": "unit direction_of product norm_of conjugate_of turned quotient alternate __len__ __iter__ __eq__ __str__",
@@ -28,6 +32,7 @@ METHODS = {
     "Rule": "from_text drawn backward mirrored renamed __add__ __getitem__ __contains__ __len__ __iter__ __eq__ "
             "__str__",
     "Scheme": "from_lines __getitem__ with_line without __contains__ __len__ __iter__ __eq__ __str__",
+    "Table": "order_of pair_of wrong order_with __contains__ __len__ __iter__ __eq__ __str__",
 }
 
 # Small files, each of which breaks the rule beside it.

@@ -4,23 +4,13 @@ from grownlines.base.points import norm_in, raised, times, trail, turned_by
 from grownlines.base.words import is_point
 from grownlines.errors import InvalidPoint
 from grownlines.lines.grown import check_order, check_scheme
+from grownlines.lines.links import links_of
 from grownlines.lines.places import number_of
 from grownlines.visits.kinds import count_kinds
 
 
 def _value(weights, point):
     return weights[0] * point[0] + weights[1] * point[1]
-
-
-def _links(scheme):
-    """For each step that lines have: where the steps that come from it begin, and these steps."""
-    grid = scheme.grid
-    steps = [(letter, direction) for letter in scheme.used for direction in range(len(grid.units))]
-    links = {}
-    for letter, direction in steps:
-        starts = [turned_by(grid, start, direction) for start in scheme[letter].starts]
-        links[(letter, direction)] = list(zip(starts, scheme[letter].drawn(direction)))
-    return links
 
 
 def _levels(scheme, order, weights, links):
@@ -76,7 +66,7 @@ def farthest(scheme, order, weights):
     check_order(order)
     if not is_point(weights):
         raise InvalidPoint("weights are a pair of integers")
-    links = _links(scheme)
+    links = links_of(scheme)
     levels = _levels(scheme, order, weights, links)
     totals = _totals(scheme, weights, levels, 0)
     best = max(totals)
@@ -88,7 +78,7 @@ def box(scheme, order):
     """The least first and second parts, and the greatest ones, of the points of all visits."""
     check_scheme(scheme)
     check_order(order)
-    levels = _levels(scheme, order, (1, 0), _links(scheme))
+    levels = _levels(scheme, order, (1, 0), links_of(scheme))
     half = scheme.grid.half
     # Turned by 1, a point has the opposite of its second part as its first one, in both grids.
     right, down, back, high = [max(_totals(scheme, (1, 0), levels, turn)) for turn in (0, 1, half, half + 1)]

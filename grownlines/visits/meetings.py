@@ -54,7 +54,8 @@ def _by_places(marks):
     numbers = _numbers(marks)
     places = {}
     for place, ends in numbers:
-        places.setdefault(place, {})[ends] = numbers[(place, ends)]
+        there = places.setdefault(place, {})
+        there[ends] = numbers[(place, ends)]
     return places
 
 

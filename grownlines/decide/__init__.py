@@ -1,0 +1,1 @@
+"""Stands, and what they decide of lines of all orders."""

@@ -1,0 +1,122 @@
+"""The table of a scheme: all stands that are not far of its lines of all orders."""
+
+from grownlines.base.points import norm_in
+from grownlines.decide.searches import first_seen, has_all, is_kind_seen, numbers_along, search
+from grownlines.decide.stands import far_norm, is_stand, reach, seen_from, shows
+from grownlines.errors import InvalidOperation, InvalidStand
+from grownlines.lines.grown import check_scheme
+from grownlines.visits.kinds import is_kind, visits
+from grownlines.visits.meetings import FAULTS, check_fault
+
+MAX_TABLE = 20000
+
+
+def _ascends(values):
+    return all([one < other for one, other in zip(values, values[1:])])
+
+
+def are_kinds(scheme, value):
+    """Whether the value is an ascending tuple of kinds."""
+    return isinstance(value, tuple) and all([is_kind(scheme, kind) for kind in value]) and _ascends(value)
+
+
+def are_near_stands(scheme, value):
+    """Whether the value is an ascending tuple of stands that are not far."""
+    if not isinstance(value, tuple) or not all([is_stand(scheme, stand) for stand in value]):
+        return False
+    bound = far_norm(scheme)
+    return all([norm_in(scheme.grid, stand[3]) <= bound for stand in value]) and _ascends(value)
+
+
+def is_closed_under(scheme, kinds, stands):
+    """Whether two tuples, of kinds and of stands, have all that must be there."""
+    check_scheme(scheme)
+    if not are_kinds(scheme, kinds):
+        raise InvalidOperation("an ascending tuple of kinds is asked for")
+    if not are_near_stands(scheme, stands):
+        raise InvalidOperation("an ascending tuple of stands that are not far is asked for")
+    return has_all(scheme, kinds, stands)
+
+
+def _first_order_text(order):
+    return "none" if order is None else str(order)
+
+
+class Table:
+    """The least set of stands that has those of all lines, but far ones."""
+
+    def __init__(self, scheme):
+        check_scheme(scheme)
+        origins = search(scheme, first_seen(scheme, far_norm(scheme)), MAX_TABLE)
+        self._origins = origins
+        self.scheme = scheme
+        self.kinds = tuple(sorted([seen for seen in origins if is_kind_seen(seen)]))
+        self.stands = tuple(sorted([seen for seen in origins if not is_kind_seen(seen)]))
+        self._wrong = {fault: tuple([stand for stand in self.stands if shows(scheme.grid, stand, fault)])
+                       for fault in FAULTS}
+        self._first_orders = {fault: min([origins[stand][0] for stand in self._wrong[fault]], default=None)
+                              for fault in FAULTS}
+
+    def order_of(self, stand):
+        """The least order at which two visits of a line have this stand."""
+        if stand not in self:
+            raise InvalidStand("a stand of the table is asked for")
+        return self._origins[stand][0]
+
+    def pair_of(self, stand):
+        """The addresses of two visits of this order with this stand."""
+        if stand not in self:
+            raise InvalidStand("a stand of the table is asked for")
+        pairs = numbers_along(self._origins, stand)
+        return (tuple([one for one, other in pairs]), tuple([other for one, other in pairs]))
+
+    def wrong(self, fault):
+        """The ascending tuple of the stands that show a fault."""
+        check_fault(fault)
+        return self._wrong[fault]
+
+    def order_with(self, fault):
+        """The first order for a fault, None if the scheme is clear of it."""
+        check_fault(fault)
+        return self._first_orders[fault]
+
+    def __contains__(self, value):
+        return is_stand(self.scheme, value) and value in self._origins
+
+    def __len__(self):
+        return len(self.stands)
+
+    def __iter__(self):
+        return iter(self.stands)
+
+    def __eq__(self, other):
+        return isinstance(other, Table) and self.scheme == other.scheme
+
+    def __str__(self):
+        orders = [_first_order_text(self._first_orders[fault]) for fault in FAULTS]
+        return f"table of {len(self.stands)} stands, first orders {', '.join(orders)}"
+
+
+def _cell_of(width, point):
+    return (point[0] // width, point[1] // width)
+
+
+def _around(cell):
+    return [(cell[0] + right, cell[1] + up) for right in (-1, 0, 1) for up in (-1, 0, 1)]
+
+
+def pairs_to(scheme, order):
+    """The triples (number, number, stand) of all pairs of visits of an order, far stands left out."""
+    along = visits(scheme, order)
+    bound = far_norm(scheme)
+    # A vector with parts that are greater than twice the reach is far, in both grids.
+    width = 2 * reach(scheme)
+    cells = {}
+    for number, visit in enumerate(along):
+        cells.setdefault(_cell_of(width, visit[2]), []).append(number)
+    for number, visit in enumerate(along):
+        near = [own for cell in _around(_cell_of(width, visit[2])) for own in cells.get(cell, []) if own > number]
+        for later in sorted(near):
+            stand = seen_from(scheme.grid, visit, along[later])
+            if norm_in(scheme.grid, stand[3]) <= bound:
+                yield (number, later, stand)
