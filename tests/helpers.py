@@ -36,6 +36,20 @@ TWO = Scheme.from_lines("grid triangle", "axiom a1 a4", "rule a a0 a1 a5 a0")
 # Ends that alternate in the triangle grid.
 STAR = Scheme.from_lines("grid triangle", "axiom a0 a0 a2 a4 a4 a2 a0", "rule a a0 a1")
 
+# Six letters with twelve items each, and three with four.
+SIX = Scheme.from_lines(
+    "grid triangle", "axiom a0 b1 c2 d3 e4 f5",
+    "rule a a0 b1 c5 d0 e2 f4 a0 b3 c0 d1 e5 f0", "rule b b1 c5 d0 e2 f4 a0 b3 c0 d1 e5 f0 a0",
+    "rule c c5 d0 e2 f4 a0 b3 c0 d1 e5 f0 a0 b1", "rule d d0 e2 f4 a0 b3 c0 d1 e5 f0 a0 b1 c5",
+    "rule e e2 f4 a0 b3 c0 d1 e5 f0 a0 b1 c5 d0", "rule f f4 a0 b3 c0 d1 e5 f0 a0 b1 c5 d0 e2")
+THREE = Scheme.from_lines("grid square", "axiom a0 c1", "rule a a0 b1 c0 a3", "rule b b1 c3 a0 c0", "rule c a0 a0 b1 c3")
+# As SIX, but with rules of different lengths and different items.
+RAGGED = Scheme.from_lines(
+    "grid triangle", "axiom f1 a0 b1 c2 d3 e4 f5",
+    "rule a f1 e5 b1 e0 a0 f0 e0 b5 d4 c0 b2 c3", "rule b a3 f0 e5 b0 a5 d4 d2 a1 f0 d1 b0 e0",
+    "rule c d2 e0 d1 f5 e4 d1 d0 e0 d5 e0", "rule d b3 c1 c0 c4 e0 e0 e5 b2 a0 d1 d5 a0",
+    "rule e e0 a3 e1 b5 b0 a0 f5 c1 a0", "rule f d1 d0 f0 d1 b5 b0 d5 e0 c4 b3 b2 f0")
+
 UNITS = {
     "square": [(1, 0), (0, 1), (-1, 0), (0, -1)],
     "triangle": [(1, 0), (0, 1), (-1, 1), (-1, 0), (0, -1), (1, -1)],

@@ -7,10 +7,12 @@ from grownlines.lines.grown import (each_point, each_step, grown, length_of, let
                                     steps_of)
 from grownlines.lines.schemes import Scheme
 
-from tests.helpers import (DRAGON, FLAKE, LONG, SCHEMES, UNEVEN, VALUES, grow, line_of, others, raised_by, same,
+from tests.helpers import (DRAGON, FLAKE, LONG, RAGGED, SCHEMES, SIX, THREE, UNEVEN, VALUES, grow, line_of, others, raised_by, same,
                            short_lines, visits_of, within)
 
 ROAD = Scheme.from_lines("grid square", "axiom a0", "rule a a0 a0")
+
+GREAT = (SIX, THREE, RAGGED) + SCHEMES
 
 
 def first_of(generator):
@@ -105,6 +107,56 @@ class Lines(unittest.TestCase):
         self.assertEqual(raised_by(self, TooMany, sequel, DRAGON, "b", 13).limit, 5000)
         self.assertEqual(raised_by(self, TooMany, sequel, DRAGON, "a", 200).limit, 5000)
         self.assertEqual(raised_by(self, TooMany, grown, DRAGON, (("a", 0),) * 6000).limit, 5000)
+
+
+class CountsOfGreatOrders(unittest.TestCase):
+    """Counts told of one order, against one another and against those one order lower."""
+
+    def test_they_agree(self):
+        for scheme in GREAT:
+            for order in (200, 199, 64, 33, 1, 0):
+                steps = step_counts(scheme, order)
+                letters = letter_counts(scheme, order)
+                self.assertEqual(list(steps), sorted(steps))
+                self.assertEqual(list(letters), list(scheme.letters))
+                self.assertEqual(sum(steps.values()), length_of(scheme, order))
+                self.assertTrue(all(many > 0 for many in steps.values()))
+                for letter in scheme.letters:
+                    self.assertEqual(sum(steps[step] for step in steps if step[0] == letter), letters[letter])
+
+    def test_they_come_from_one_order_lower(self):
+        for scheme in GREAT:
+            for order in (200, 199, 64, 33, 1):
+                steps, letters = {}, {letter: 0 for letter in scheme.letters}
+                for step, many in step_counts(scheme, order - 1).items():
+                    for new in grow(scheme, [step]):
+                        steps[new] = steps.get(new, 0) + many
+                for letter, many in letter_counts(scheme, order - 1).items():
+                    for own, _ in grow(scheme, [(letter, 0)]):
+                        letters[own] += many
+                self.assertEqual(step_counts(scheme, order), steps)
+                self.assertEqual(letter_counts(scheme, order), letters)
+
+    def test_short_lines(self):
+        for scheme in GREAT:
+            for order in (0, 1, 2, 3):
+                line = line_of(scheme, order)
+                steps = {step: line.count(step) for step in sorted(set(line))}
+                self.assertTrue(same(step_counts(scheme, order), steps))
+                self.assertEqual(length_of(scheme, order), len(line))
+
+    def test_lengths_of_sequels(self):
+        # At most 5000 steps, however long the rules of each letter are.
+        for scheme in (RAGGED, UNEVEN, SIX):
+            for letter in scheme.letters:
+                line = [(letter, 0)]
+                for order in range(5):
+                    if len(line) <= 5000:
+                        self.assertTrue(same(sequel(scheme, letter, order), tuple(line)))
+                    else:
+                        raised_by(self, TooMany, sequel, scheme, letter, order)
+                        break
+                    line = grow(scheme, line)
 
 
 class Errors(unittest.TestCase):

@@ -8,9 +8,9 @@ from grownlines.lines.places import (address_of, end_of, is_address, kind_at, nt
                                      steps_with)
 from grownlines.lines.schemes import Scheme
 
-from tests.helpers import (DRAGON, FLAKE, LONG, SCHEMES, THERE_AND_BACK, UNEVEN, UNITS, VALUES, addresses_of_line,
-                           axiom_of, line_of, others, points_of, product, raised_by, same, short_lines, sights_of,
-                           visits_of, within)
+from tests.helpers import (DRAGON, FLAKE, LONG, RAGGED, SCHEMES, SIX, THERE_AND_BACK, THREE, UNEVEN, UNITS, VALUES,
+                           addresses_of_line, axiom_of, line_of, others, points_of, product, raised_by, same,
+                           short_lines, sights_of, visits_of, within)
 
 OF_NUMBERS = [step_at, point_at, address_of, kind_at]
 
@@ -100,7 +100,7 @@ class LongLines(unittest.TestCase):
     def drawn(self, many):
         """Schemes and orders with numbers of steps, the first and last ones among them."""
         draw = random.Random(11)
-        for scheme in SCHEMES:
+        for scheme in SCHEMES + (SIX, THREE, RAGGED):
             for order in [200, 199, 100] + [draw.randrange(5, 200) for _ in range(many)]:
                 length = length_of(scheme, order)
                 numbers = [0, 1, length // 2, length - 2, length - 1]
@@ -177,6 +177,23 @@ class LongLines(unittest.TestCase):
                 raised_by(self, InvalidNumber, call, scheme, 200, -1)
                 call(scheme, 200, length - 1)
             self.assertEqual(steps_of(scheme, 0)[0], axiom_of(scheme)[0])
+
+
+class PlacesAndDrawnLines(unittest.TestCase):
+    def test_long_rules(self):
+        for scheme, order in [(SIX, 2), (THREE, 4), (RAGGED, 2)]:
+            line = line_of(scheme, order)
+            visits = visits_of(scheme, line)
+            self.assertTrue(same([step_at(scheme, order, number) for number in range(len(line))], line))
+            self.assertTrue(same([point_at(scheme, order, number) for number in range(len(visits))], visits))
+            addresses = addresses_of_line(scheme, order)
+            self.assertEqual([address_of(scheme, order, number) for number in range(len(visits))], addresses)
+            self.assertEqual([number_of(scheme, address) for address in addresses], list(range(len(visits))))
+            for letter in scheme.letters:
+                numbers = [number for number, step in enumerate(line) if step[0] == letter]
+                self.assertEqual([nth_step(scheme, order, letter, index) for index in range(len(numbers))], numbers)
+                self.assertEqual([steps_with(scheme, order, letter, number) for number in numbers],
+                                 list(range(len(numbers))))
 
 
 class Errors(unittest.TestCase):

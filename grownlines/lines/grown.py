@@ -5,7 +5,7 @@ from grownlines.base.rules import is_turn
 from grownlines.base.words import is_count
 from grownlines.errors import InvalidNumber, InvalidOperation, InvalidScheme, TooMany, UnknownLetter
 from grownlines.lines.schemes import Scheme
-from grownlines.lines.tallies import added_up, step_tallies, weight_of
+from grownlines.lines.tallies import letters_after, many_after
 
 MAX_ORDER = 200
 MAX_STEPS = 5000
@@ -33,23 +33,59 @@ def length_of(scheme, order):
     """How many steps the line of an order has."""
     check_scheme(scheme)
     check_order(order)
-    return weight_of(scheme.axiom, step_tallies(scheme, order)[order])
+    return many_after(scheme, scheme.axiom, order)
 
 
 def letter_counts(scheme, order):
     """The dict from all letters to how many steps of the line have them."""
-    counts = step_counts(scheme, order)
-    return {own: sum([counts[step] for step in counts if step[0] == own]) for own in scheme.letters}
+    check_scheme(scheme)
+    check_order(order)
+    return letters_after(scheme, scheme.axiom, order)
 
 
 def step_counts(scheme, order):
     """The dict from the steps of the line to how often it has them."""
     check_scheme(scheme)
     check_order(order)
-    counts = added_up([(step, 1) for step in scheme.axiom])
+    # The counts of a letter are kept in one integer, side by side by their directions: to turn all its steps
+    # is to shift it, and what is shifted out comes in again at the other end.
+    width = many_after(scheme, scheme.axiom, order).bit_length()
+    shifts = [direction * width for direction in range(len(scheme.grid.units))]
+    packed = [sum([1 << shifts[direction] for own, direction in scheme.axiom if own == letter])
+              for letter in scheme.letters]
+    members, rows = _sources(scheme)
     for _ in range(order):
-        counts = added_up([(new, counts[step]) for step in counts for new in _replaced(scheme, (step,))])
-    return {step: counts[step] for step in sorted(counts)}
+        packed = _packed_after(packed, members, rows, shifts, len(shifts) * width)
+    mask = (1 << width) - 1
+    counts = {}
+    for letter, sums in zip(scheme.letters, packed):
+        for direction, shift in enumerate(shifts):
+            counts[(letter, direction)] = (sums >> shift) & mask
+    return {step: counts[step] for step in counts if counts[step] > 0}
+
+
+def _sources(scheme):
+    """What the steps of the next order come from.
+
+    That is the pair of the list of groups of letters, each with rules of the same items, and of the list of what
+    comes to each letter: for each item the number of its group times all turns, and its own turn.
+    """
+    many = len(scheme.grid.units)
+    groups = {}
+    for at, letter in enumerate(scheme.letters):
+        groups.setdefault(tuple(sorted(scheme[letter].row)), []).append(at)
+    rows = [[many * number + turn for number, items in enumerate(groups) for own, turn in items if own == letter]
+            for letter in scheme.letters]
+    return ([groups[items] for items in groups], rows)
+
+
+def _packed_after(packed, members, rows, shifts, whole):
+    """The packed counts of the next order."""
+    totals = [sum([packed[at] for at in group]) for group in members]
+    turned = [total << shift for total in totals for shift in shifts]
+    sums = [sum([turned[at] for at in row]) for row in rows]
+    mask = (1 << whole) - 1
+    return [(counts & mask) + (counts >> whole) for counts in sums]
 
 
 def steps_of(scheme, order):
@@ -82,7 +118,7 @@ def _is_step(scheme, value):
 
 
 def _grown_by(scheme, steps, order):
-    if weight_of(steps, step_tallies(scheme, order)[order]) > MAX_STEPS:
+    if many_after(scheme, steps, order) > MAX_STEPS:
         raise TooMany(MAX_STEPS)
     line = steps
     for _ in range(order):

@@ -13,50 +13,64 @@ def _value(weights, point):
     return weights[0] * point[0] + weights[1] * point[1]
 
 
-def _levels(scheme, order, weights, links):
-    """By orders: for each step the greatest value of a visit that comes from it, and the item to follow.
+def _plan(scheme):
+    """What comes from each step, with numbers instead of steps and of places where steps begin.
 
-    Values are told from the beginning of the step; of equal ones the first is followed.
+    That is the triple of the dict from steps to their numbers, of the list of places, and of the list, by the
+    numbers of steps, of the lists of the pairs of a place and of the step that begins there.
     """
-    starts = {start: True for step in links for start, _ in links[step]}
-    levels = [{step: (0, 0) for step in links}]
+    links = links_of(scheme)
+    numbers = {step: at for at, step in enumerate(list(links))}
+    places = list({start: True for step in links for start, new in links[step]})
+    places_by = {place: at for at, place in enumerate(places)}
+    rows = [[(places_by[start], numbers[new]) for start, new in links[step]] for step in links]
+    return (numbers, places, rows)
+
+
+def _levels(scheme, order, weights, plan):
+    """By orders: the values of all places, and of each step the greatest value of a visit that comes from it.
+
+    Values are told from the beginning of the step.
+    """
+    numbers, places, rows = plan
+    levels = [([], [0] * len(rows))]
     power = (1, 0)
     for _ in range(order):
-        last = levels[-1]
+        last = levels[-1][1]
         # Values of products with a power are values with other weights, found once for all steps.
-        moved = (_value(weights, power), _value(weights, times(scheme.grid, (0, 1), power)))
-        values = {start: _value(moved, start) for start in starts}
-        level = {}
-        for step in links:
-            totals = [values[start] + last[new][0] for start, new in links[step]]
-            best = max(totals)
-            level[step] = (best, totals.index(best))
-        levels.append(level)
+        u = _value(weights, power)
+        v = _value(weights, times(scheme.grid, (0, 1), power))
+        values = [u * x + v * y for x, y in places]
+        levels.append((values, [max([values[at] + last[step] for at, step in row]) for row in rows]))
         power = times(scheme.grid, power, scheme.growth)
     return levels
 
 
-def _totals(scheme, weights, levels, turn):
+def _totals(scheme, weights, plan, levels, turn):
     """The greatest values of what comes from each visit of order 0 of the line, turned."""
     grid = scheme.grid
     power = turned_by(grid, raised(grid, scheme.growth, len(levels) - 1), turn)
     points = trail(grid, [direction for letter, direction in scheme.axiom])
     values = [_value(weights, times(grid, point, power)) for point in points]
+    numbers, best = (plan[0], levels[-1][1])
     many = len(grid.units)
-    ahead = [levels[-1][(letter, (direction + turn) % many)][0] for letter, direction in scheme.axiom]
+    ahead = [best[numbers[(letter, (direction + turn) % many)]] for letter, direction in scheme.axiom]
     totals = [value + more for value, more in zip(values, ahead)]
     return totals if scheme.is_closed else totals + values[-1:]
 
 
-def _address_by(scheme, levels, links, index):
-    """The address to which the items to follow lead from a visit of order 0."""
-    address = [index]
+def _address_by(scheme, plan, levels, index):
+    """The address of the first visit with the greatest value of those that come from a visit of order 0."""
+    numbers, places, rows = plan
     if index == len(scheme.axiom):
         return (index,) + (0,) * (len(levels) - 1)
-    step = scheme.axiom[index]
-    for level in levels[:0:-1]:
-        address.append(level[step][1])
-        step = links[step][address[-1]][1]
+    address = [index]
+    step = numbers[scheme.axiom[index]]
+    for order in range(len(levels) - 1, 0, -1):
+        values, best = levels[order]
+        last = levels[order - 1][1]
+        address.append([values[at] + last[new] for at, new in rows[step]].index(best[step]))
+        step = rows[step][address[-1]][1]
     return tuple(address)
 
 
@@ -66,22 +80,23 @@ def farthest(scheme, order, weights):
     check_order(order)
     if not is_point(weights):
         raise InvalidPoint("weights are a pair of integers")
-    links = links_of(scheme)
-    levels = _levels(scheme, order, weights, links)
-    totals = _totals(scheme, weights, levels, 0)
+    plan = _plan(scheme)
+    levels = _levels(scheme, order, weights, plan)
+    totals = _totals(scheme, weights, plan, levels, 0)
     best = max(totals)
-    address = _address_by(scheme, levels, links, totals.index(best))
-    return (best, number_of(scheme, address))
+    return (best, number_of(scheme, _address_by(scheme, plan, levels, totals.index(best))))
 
 
 def box(scheme, order):
     """The least first and second parts, and the greatest ones, of the points of all visits."""
     check_scheme(scheme)
     check_order(order)
-    levels = _levels(scheme, order, (1, 0), links_of(scheme))
+    plan = _plan(scheme)
+    levels = _levels(scheme, order, (1, 0), plan)
     half = scheme.grid.half
     # Turned by 1, a point has the opposite of its second part as its first one, in both grids.
-    right, down, back, high = [max(_totals(scheme, (1, 0), levels, turn)) for turn in (0, 1, half, half + 1)]
+    right, down, back, high = [max(_totals(scheme, (1, 0), plan, levels, turn))
+                               for turn in (0, 1, half, half + 1)]
     return (-back, -down, right, high)
 
 

@@ -6,7 +6,7 @@ from grownlines.base.words import is_count
 from grownlines.errors import InvalidNumber, InvalidOperation, TooMany
 from grownlines.lines.grown import MAX_STEPS, check_order, check_scheme, length_of, steps_of
 from grownlines.lines.places import kind_between, leads_to_visit
-from grownlines.lines.tallies import added_up
+from grownlines.lines.tallies import letters_by_orders
 
 # The greatest order of which a visit is told by an address.
 MAX_ADDRESS_ORDER = 20000
@@ -137,12 +137,24 @@ def count_kinds(scheme, order):
     comes = {kind: [own for own, turn, vector in what_comes(scheme, kind)] for kind in kinds_of(scheme)}
     # The visits from number 1 on are told by the letter of the step out alone.
     inner = {kind[1]: comes[kind][1:] for kind in comes}
-    counts = added_up([(kind, 1) for kind, direction, point in first_visits(scheme)])
-    for _ in range(order):
-        steps = added_up([(kind[1], counts[kind]) for kind in counts])
-        ahead = [(comes[kind][0], counts[kind]) for kind in counts]
-        counts = added_up(ahead + [(own, steps[letter]) for letter in steps for own in inner[letter]])
-    return {kind: counts[kind] for kind in sorted(list(counts))}
+    levels = letters_by_orders(scheme, scheme.axiom, order)
+    counts = {}
+    for kind, _, _ in first_visits(scheme):
+        _add_along(counts, comes, kind, [0] * order + [1])
+    for letter in scheme.used:
+        # As many visits of each inner kind come at each order as there are steps of the order before.
+        many = [level[letter] for level in levels[:order][::-1]]
+        for kind in inner[letter]:
+            _add_along(counts, comes, kind, many)
+    return {kind: counts[kind] for kind in sorted(list(counts)) if counts[kind] > 0}
+
+
+def _add_along(counts, comes, kind, many):
+    """Add these numbers to the counts of a kind and of the kinds that come from it with the number 0, in turn."""
+    own = kind
+    for more in many:
+        counts[own] = counts.get(own, 0) + more
+        own = comes[own][0]
 
 
 def ends_of(grid, kind, direction):

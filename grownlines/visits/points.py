@@ -102,25 +102,26 @@ def _many_found(search):
 def _numbers_found(scheme, order, search):
     """The ascending list of the numbers of the steps that were searched."""
     links, rests, levels = search
-    weights = step_tallies(scheme, order)
+    groups, weights_ahead = step_tallies(scheme, order)
     # For each step the numbers of the found ones that come from it, from the first step that comes from it on.
     numbers = {key: [0] for key in levels[-1]}
     for at in range(order, -1, -1):
+        weights = {letter: weights_ahead[order - at][groups[letter]] for letter in groups}
         below = {}
         for key in levels[at]:
-            found = _numbered(_following(scheme, links, key, rests[at]), weights[order - at], numbers)
+            found = _numbered(_following(scheme, links, key, rests[at]), weights, numbers)
             if len(found) > 0:
                 below[key] = found
         numbers = below
     return numbers.get((_ROOT, (0, 0)), [])
 
 
-def _numbered(row, weight, numbers):
+def _numbered(row, weights, numbers):
     found = []
     ahead = 0
     for step, offset in row:
         found.extend([ahead + number for number in numbers.get((step, offset), [])])
-        ahead = ahead + weight[step[0]]
+        ahead = ahead + weights[step[0]]
     return found
 
 
@@ -150,11 +151,14 @@ def is_passed(scheme, order, value):
 
 def visits_at(scheme, order, point):
     """The ascending tuple of the numbers of the visits at a point."""
-    if count_at(scheme, order, point) > MAX_LISTED:
-        raise TooMany(MAX_LISTED)
-    numbers = _numbers_found(scheme, order, _visits_found(scheme, order, point))
+    check_scheme(scheme)
+    check_order(order)
+    _check_point(point)
+    search = _visits_found(scheme, order, point)
     last = [length_of(scheme, order)] if _is_end(scheme, order, point) else []
-    return tuple(numbers + last)
+    if _many_found(search) + len(last) > MAX_LISTED:
+        raise TooMany(MAX_LISTED)
+    return tuple(_numbers_found(scheme, order, search) + last)
 
 
 def steps_on(scheme, order, one, other):
