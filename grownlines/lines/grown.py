@@ -51,8 +51,7 @@ def step_counts(scheme, order):
     # is to shift it, and what is shifted out comes in again at the other end.
     width = many_after(scheme, scheme.axiom, order).bit_length()
     shifts = [direction * width for direction in range(len(scheme.grid.units))]
-    packed = [sum([1 << shifts[direction] for own, direction in scheme.axiom if own == letter])
-              for letter in scheme.letters]
+    packed = [sum([1 << shifts[turn] for own, turn in scheme.axiom if own == letter]) for letter in scheme.letters]
     members, rows = _sources(scheme)
     for _ in range(order):
         packed = _packed_after(packed, members, rows, shifts, len(shifts) * width)
