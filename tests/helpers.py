@@ -36,13 +36,25 @@ TWO = Scheme.from_lines("grid triangle", "axiom a1 a4", "rule a a0 a1 a5 a0")
 # Ends that alternate in the triangle grid.
 STAR = Scheme.from_lines("grid triangle", "axiom a0 a0 a2 a4 a4 a2 a0", "rule a a0 a1")
 
+# Open lines of 4999 and of 5000 steps, and a closed one of 5001, at order 4; the open ones have no edge twice before.
+NEARLY = Scheme.from_lines(
+    "grid triangle", "axiom c0 a0 b0 b0 b0", "rule a a0 a0 a1 b5 b0", "rule b b0 a1 b5 b1 b5 b0", "rule c a0 d0 b0 a0",
+    "rule d b0 e0 a0 b1 b5", "rule e a0 b0 b0 f0", "rule f a0 a0 a3 a0 a0 a0")
+FULL = Scheme.from_lines(
+    "grid triangle", "axiom a0 a0 a0 b0 b0 b0 b0 b0 c0 a0 a0", "rule a a0 b0 b0 b0", "rule b a0 b1 b5 a0 b0",
+    "rule c a0 d0 a1 b5 a0", "rule d b0 a0 a0 e1 a5", "rule e a0 b0 f0 a0", "rule f a0 a0 a3 a0 a0 a0")
+OVER = Scheme.from_lines(
+    "grid triangle", "axiom a0 a0 b2 a2 c4 c4", "rule a c1 a5 a1 a5 c0 b0", "rule b c0 a0 c0 c1 b5",
+    "rule c c0 a1 b5 c0 c0")
+
 # Six letters with twelve items each, and three with four.
 SIX = Scheme.from_lines(
     "grid triangle", "axiom a0 b1 c2 d3 e4 f5",
     "rule a a0 b1 c5 d0 e2 f4 a0 b3 c0 d1 e5 f0", "rule b b1 c5 d0 e2 f4 a0 b3 c0 d1 e5 f0 a0",
     "rule c c5 d0 e2 f4 a0 b3 c0 d1 e5 f0 a0 b1", "rule d d0 e2 f4 a0 b3 c0 d1 e5 f0 a0 b1 c5",
     "rule e e2 f4 a0 b3 c0 d1 e5 f0 a0 b1 c5 d0", "rule f f4 a0 b3 c0 d1 e5 f0 a0 b1 c5 d0 e2")
-THREE = Scheme.from_lines("grid square", "axiom a0 c1", "rule a a0 b1 c0 a3", "rule b b1 c3 a0 c0", "rule c a0 a0 b1 c3")
+THREE = Scheme.from_lines(
+    "grid square", "axiom a0 c1", "rule a a0 b1 c0 a3", "rule b b1 c3 a0 c0", "rule c a0 a0 b1 c3")
 # As SIX, but with rules of different lengths and different items.
 RAGGED = Scheme.from_lines(
     "grid triangle", "axiom f1 a0 b1 c2 d3 e4 f5",

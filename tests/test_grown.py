@@ -7,8 +7,8 @@ from grownlines.lines.grown import (each_point, each_step, grown, length_of, let
                                     steps_of)
 from grownlines.lines.schemes import Scheme
 
-from tests.helpers import (DRAGON, FLAKE, LONG, RAGGED, SCHEMES, SIX, THREE, UNEVEN, VALUES, grow, line_of, others, raised_by, same,
-                           short_lines, visits_of, within)
+from tests.helpers import (DRAGON, FLAKE, LONG, RAGGED, SCHEMES, SIX, THREE, UNEVEN, VALUES, grow, line_of, others,
+                           raised_by, same, short_lines, visits_of, within)
 
 ROAD = Scheme.from_lines("grid square", "axiom a0", "rule a a0 a0")
 

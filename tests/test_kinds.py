@@ -8,9 +8,9 @@ from grownlines.lines.places import address_of, kind_at, point_at, step_at
 from grownlines.lines.schemes import Scheme
 from grownlines.visits.kinds import (coming, count_kinds, is_address_of, is_kind, kinds_of, visit_at, visits)
 
-from tests.helpers import (BACK, DRAGON, FLAKE, GOSPER, LONG, MIXED, SCHEMES, THERE_AND_BACK, UNEVEN, UNITS, VALUES, add,
-                           addresses_of_line, axiom_of, grow, in_turn, line_of, orders_within, others, product,
-                           raised_by, same, sights_of, visits_of, within)
+from tests.helpers import (BACK, DRAGON, FLAKE, FULL, GOSPER, LONG, MIXED, NEARLY, OVER, SCHEMES, THERE_AND_BACK,
+                           UNEVEN, UNITS, VALUES, add, addresses_of_line, axiom_of, grow, in_turn, line_of,
+                           orders_within, others, product, raised_by, same, sights_of, visits_of, within)
 
 
 def is_scheme(value):
@@ -85,7 +85,8 @@ class Kinds(unittest.TestCase):
                 place = product(name, point, growth)
                 for own, turn, vector in coming(scheme, kind):
                     self.assertIn(turn, range(len(UNITS[name])))
-                    found.append((own, (direction + turn) % len(UNITS[name]), add(place, in_turn(name, vector, direction))))
+                    way = (direction + turn) % len(UNITS[name])
+                    found.append((own, way, add(place, in_turn(name, vector, direction))))
             self.assertTrue(same(found, expected))
 
     def test_what_comes_from_kinds_that_no_line_has(self):
@@ -116,11 +117,10 @@ class Kinds(unittest.TestCase):
         closed = Scheme.from_lines("grid square", "axiom a0 a0 a1 a1 a2 a2 a3 a3", "rule a a0 a0 a0 a0 a0")
         self.assertEqual(len(visits(closed, 4)), 5000)
         self.assertEqual(raised_by(self, TooMany, visits, closed, 5).limit, 5000)
-        near = Scheme.from_lines("grid square", "axiom a0 a0 a0 b0", "rule a a0 a0 a0 b0 a0 a0 a0 a0 a0 a0 a0",
-                                 "rule b a0 a0 a0 b0 a0 a0 a0 a0 a0 a0 b0")
-        self.assertEqual(length_of(near, 2), 484)
-        self.assertEqual(len(visits(near, 2)), 485)
-        raised_by(self, TooMany, visits, near, 3)
+        self.assertEqual(len(visits(NEARLY, 4)), 5000)
+        self.assertEqual(raised_by(self, TooMany, visits, FULL, 4).limit, 5000)
+        self.assertEqual(length_of(OVER, 4), 5001)
+        self.assertEqual(raised_by(self, TooMany, visits, OVER, 4).limit, 5000)
         self.assertEqual(len(visits(DRAGON, 12)), 4097)
         for order in (13, 14, 200):
             self.assertEqual(raised_by(self, TooMany, visits, DRAGON, order).limit, 5000)
@@ -184,8 +184,8 @@ class Addresses(unittest.TestCase):
             for value in ((0,) * 20000, (0,) * 20002, (0,) * 20000 + (12,), (0,) * 9000 + (12,) + (0,) * 11000):
                 self.check(scheme, 20000, value, False)
             for order in (20001, 10 ** 399):
-                self.assertEqual(raised_by(self, InvalidNumber, is_address_of, scheme, order, (0,) * 20002).value, order)
-                self.assertEqual(raised_by(self, InvalidNumber, visit_at, scheme, order, (0,) * 20002).value, order)
+                for call in (is_address_of, visit_at):
+                    self.assertEqual(raised_by(self, InvalidNumber, call, scheme, order, (0,) * 20002).value, order)
 
     def test_the_way_to_order_20000(self):
         # What is told of an order by the visit of the order before.
@@ -245,8 +245,8 @@ class Errors(unittest.TestCase):
                 self.assertIs(raised_by(self, InvalidNumber, call, DRAGON, value, None).value, value)
 
     def test_what_is_no_kind(self):
-        wrong = [("", "", 0), ("a", "c", 0), ("a", "", 1), ("", "b", 3), ("a", "b", 4), ("a", "b", -1), ("a", "b", True),
-                 ["a", "b", 0], ("a", "b"), ("a", "b", 0, 0), "ab0"]
+        wrong = [("", "", 0), ("a", "c", 0), ("a", "", 1), ("", "b", 3), ("a", "b", 4), ("a", "b", -1),
+                 ("a", "b", True), ["a", "b", 0], ("a", "b"), ("a", "b", 0, 0), "ab0"]
         for value in VALUES + wrong:
             raised_by(self, InvalidOperation, coming, DRAGON, value)
 

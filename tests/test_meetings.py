@@ -1,13 +1,14 @@
 import unittest
 
 from grownlines.errors import InvalidNumber, InvalidOperation, InvalidScheme, TooMany
+from grownlines.lines.grown import length_of
 from grownlines.lines.schemes import Scheme
 from grownlines.visits import meetings as module
 from grownlines.visits.meetings import (FAULTS, crowds, faults_of, first_meeting, has_met, meetings, outline)
 
-from tests.helpers import (BACK, DRAGON, FLAKE, GOSPER, LEVY, LOOP, MIXED, ROAD, STAR, TWO, alternating, axiom_of,
-                           faulty_pairs, grow, line_of, orders_within, others, points_of, raised_by, same, sights_of,
-                           within)
+from tests.helpers import (BACK, DRAGON, FLAKE, FULL, GOSPER, LEVY, LOOP, MIXED, ROAD, STAR, TWO, alternating,
+                           axiom_of, faulty_pairs, grow, line_of, orders_within, others, points_of, raised_by, same,
+                           sights_of, within)
 
 
 def is_scheme(value):
@@ -20,7 +21,7 @@ def asked(scheme, order, fault):
 
 
 # Closed lines of 5000 and of 4998 steps, open ones of 5000 and 5120, at the order told.
-FULL = Scheme.from_lines("grid square", "axiom a0 a0 a1 a1 a2 a2 a3 a3", "rule a a0 a0 a0 a0 a0")
+AROUND = Scheme.from_lines("grid square", "axiom a0 a0 a1 a1 a2 a2 a3 a3", "rule a a0 a0 a0 a0 a0")
 STRAIGHT = Scheme.from_lines("grid square", "axiom a0 a0 a0 a0 a0 a0 a0 a0", "rule a a0 a0 a0 a0 a0")
 TENS = Scheme.from_lines("grid square", "axiom a0 a0 a0 a0 a0 a0 a0 a0 a0 a0", "rule a a0 a0")
 # A line that goes between two points all the time.
@@ -60,7 +61,8 @@ class AgainstAllPairs(unittest.TestCase):
     def test_closed_lines_of_two_steps(self):
         self.assertEqual(list(meetings(TWO, 0, "edge")), [(0, 1)])
         self.assertEqual(faults_of(TWO, 0), ("edge",))
-        self.assertEqual(faults_of(TWO, 1), tuple(fault for fault in FAULTS if faulty_pairs(TWO, line_of(TWO, 1), fault)))
+        met = tuple(fault for fault in FAULTS if faulty_pairs(TWO, line_of(TWO, 1), fault))
+        self.assertEqual(faults_of(TWO, 1), met)
 
     def test_crosses_in_the_triangle_grid(self):
         line = axiom_of(STAR)
@@ -74,7 +76,7 @@ class AgainstAllPairs(unittest.TestCase):
 
     def check_ways(self, one, other, third):
         # Ways back to the point lead around it, so that just the steps beside it matter.
-        turns = [0, one] + [(one + turn) % 6 for turn in (2, 4)] + [other] + [(other + turn) % 6 for turn in (2, 4)] + [third]
+        turns = [0] + [(way + turn) % 6 for way in (one, other) for turn in (0, 2, 4)] + [third]
         scheme = Scheme.from_lines("grid triangle", "axiom " + " ".join(f"a{turn}" for turn in turns), "rule a a0 a0")
         expected = sorted(faulty_pairs(scheme, axiom_of(scheme), "cross"))
         self.assertEqual(list(meetings(scheme, 0, "cross")), expected, turns)
@@ -139,6 +141,13 @@ class AgainstAllPairs(unittest.TestCase):
             self.assertIsNone(first_meeting(scheme, "cross"))
 
 
+    def test_a_first_meeting_in_a_line_of_5000_steps(self):
+        edges = outline(FULL, 4)
+        least = min(edges[edge][:2] for edge in edges if len(edges[edge]) > 1)
+        self.assertEqual(length_of(FULL, 4), 5000)
+        self.assertEqual(first_meeting(FULL, "edge"), (4, *least))
+
+
 class WhatIsTrueFromOrderToOrder(unittest.TestCase):
     def test_points_stay(self):
         for scheme in MIXED:
@@ -156,14 +165,14 @@ class WhatIsTrueFromOrderToOrder(unittest.TestCase):
 
 class Limits(unittest.TestCase):
     def test_5000_steps(self):
-        self.assertEqual(list(meetings(FULL, 4, "point")), [])
+        self.assertEqual(list(meetings(AROUND, 4, "point")), [])
         self.assertEqual(list(meetings(STRAIGHT, 4, "edge")), [])
         self.assertEqual(faults_of(STRAIGHT, 4), ())
-        self.assertEqual(len(outline(FULL, 4)), 5000)
+        self.assertEqual(len(outline(AROUND, 4)), 5000)
         self.assertEqual(crowds(STRAIGHT, 4), {})
 
     def test_more_steps(self):
-        for scheme, order in [(FULL, 5), (STRAIGHT, 5), (TENS, 9), (DRAGON, 13), (BACK, 200)]:
+        for scheme, order in [(AROUND, 5), (STRAIGHT, 5), (TENS, 9), (DRAGON, 13), (BACK, 200)]:
             for fault in FAULTS:
                 self.assertEqual(raised_by(self, TooMany, asked, scheme, order, fault).limit, 5000)
                 self.assertEqual(raised_by(self, TooMany, has_met, scheme, order, fault).limit, 5000)

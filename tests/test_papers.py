@@ -1,5 +1,6 @@
 import random
 import unittest
+from unittest import mock
 
 from grownlines.decide.papers import first_order, is_clear, is_paper, lift, meeting, paper
 from grownlines.decide.stands import reach, stand_of
@@ -9,8 +10,9 @@ from grownlines.lines.schemes import Scheme
 from grownlines.visits.kinds import is_address_of, visit_at
 from grownlines.visits.meetings import FAULTS, first_meeting, outline
 
-from tests.helpers import (BACK, DRAGON, FLAKE, GOSPER, LEVY, MIXED, ROAD, STAR, TWO, UNEVEN, VALUES, addresses_of_line,
-                           fault_shown, faulty_pairs, line_of, norm, orders_within, others, raised_by, same, visits_of)
+from tests.helpers import (BACK, DRAGON, FLAKE, FULL, GOSPER, LEVY, MIXED, NEARLY, ROAD, STAR, TWO, UNEVEN, VALUES,
+                           addresses_of_line, fault_shown, faulty_pairs, line_of, norm, orders_within, others,
+                           raised_by, same, visits_of)
 from tests.test_tables import DENSE, closure, small
 
 
@@ -204,22 +206,22 @@ class Meetings(unittest.TestCase):
         self.assertEqual(meeting(EARLY, "point"), (5, 2, 4))
         self.assertIsNone(meeting(LATE, "cross"))
 
+    def test_first_orders_above_200(self):
+        # No scheme at hand has so late a first order: what is told of it is put in its place.
+        for order, limit in [(201, 200), (20000, 200), (200, 5000), (13, 5000)]:
+            with mock.patch("grownlines.decide.papers.first_order", return_value=order):
+                self.assertEqual(raised_by(self, TooMany, meeting, DRAGON, "point").limit, limit)
+
     def test_5000_visits(self):
-        # Open lines of 4999 and of 5000 steps, with one visit more.
-        scheme = Scheme.from_lines("grid triangle", "axiom c0 a0 b0 b0 b0", "rule a a0 a0 a1 b5 b0",
-                                   "rule b b0 a1 b5 b1 b5 b0", "rule c a0 d0 b0 a0", "rule d b0 e0 a0 b1 b5",
-                                   "rule e a0 b0 b0 f0", "rule f a0 a0 a3 a0 a0 a0")
-        edges = outline(scheme, 4)
+        # Open lines of 4999 and of 5000 steps have one visit more.
+        edges = outline(NEARLY, 4)
         self.assertEqual(sum(len(edges[edge]) for edge in edges), 4999)
         least = min(edges[edge][:2] for edge in edges if len(edges[edge]) > 1)
-        self.assertEqual(meeting(scheme, "edge"), (4, *least))
-        scheme = Scheme.from_lines("grid triangle", "axiom a0 a0 a0 b0 b0 b0 b0 b0 c0 a0 a0", "rule a a0 b0 b0 b0",
-                                   "rule b a0 b1 b5 a0 b0", "rule c a0 d0 a1 b5 a0", "rule d b0 a0 a0 e1 a5",
-                                   "rule e a0 b0 f0 a0", "rule f a0 a0 a3 a0 a0 a0")
-        edges = outline(scheme, 4)
+        self.assertEqual(meeting(NEARLY, "edge"), (4, *least))
+        edges = outline(FULL, 4)
         self.assertEqual(sum(len(edges[edge]) for edge in edges), 5000)
-        self.assertEqual(first_order(scheme, "edge"), 4)
-        self.assertEqual(raised_by(self, TooMany, meeting, scheme, "edge").limit, 5000)
+        self.assertEqual(first_order(FULL, "edge"), 4)
+        self.assertEqual(raised_by(self, TooMany, meeting, FULL, "edge").limit, 5000)
 
 
 class Lifts(unittest.TestCase):

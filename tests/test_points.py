@@ -31,6 +31,9 @@ THOUSAND = Scheme.from_lines("grid square", "axiom a0 a2 a0 a2 a0 a2 a0 a2", "ru
 # With 1001 visits at (5, 0).
 MORE = Scheme.from_lines("grid square", "axiom a0 b2 a0 a2 a0 b2", "rule a b0 b2 b0 a2 b0 a2 b0 a2 b0 a2 a0 a0",
                          "rule b b0 a2 b0 b2 a0 b2 a0 a2 b0 a0")
+# Open, with 1000 visits at the end, which is another one.
+LAST = Scheme.from_lines("grid square", "axiom a0 b2 b0 b2 a0 b2 a0", "rule a a0 b0 a0 a2 a0 a2 b2 a0 a0 b2",
+                         "rule b b0 b2 b2 b0 b0 b2 b0 a2 b0 b0 b0 b2")
 # With 1000 steps, and with 1001, between (7, 0) and (8, 0).
 EDGE = Scheme.from_lines("grid square", "axiom a0 b2 a0 b2 b0 b2 a0 a2", "rule a a0 a2 a0 a0",
                          "rule b a0 b2 b0 b2 b0 b2 b0 a2 b0 a2 b0 a0")
@@ -161,6 +164,8 @@ class Limits(unittest.TestCase):
     def test_more_visits(self):
         self.assertEqual(count_at(MORE, 3, (5, 0)), 1001)
         self.assertEqual(raised_by(self, TooMany, visits_at, MORE, 3, (5, 0)).limit, 1000)
+        self.assertEqual(count_at(LAST, 3, end_of(LAST, 3)), 1001)
+        self.assertEqual(raised_by(self, TooMany, visits_at, LAST, 3, end_of(LAST, 3)).limit, 1000)
         self.assertEqual(raised_by(self, TooMany, visits_at, THERE_AND_BACK, 200, (2, 0)).limit, 1000)
         self.assertGreater(count_at(THERE_AND_BACK, 200, (2, 0)), 10 ** 40)
 

@@ -12,9 +12,10 @@ from grownlines.lines.schemes import Scheme
 from grownlines.visits.kinds import coming, kinds_of, visit_at
 from grownlines.visits.meetings import FAULTS
 
-from tests.helpers import (DRAGON, FLAKE, GOSPER, LONG, MIXED, SCHEMES, STAR, THERE_AND_BACK, TWO, UNEVEN, UNITS, VALUES,
-                           add, addresses_of_line, axiom_of, fault_shown, faulty_pairs, grow, in_turn, line_of, norm,
-                           orders_within, others, points_of, product, raised_by, same, sights_of, stand_between, within)
+from tests.helpers import (DRAGON, FLAKE, GOSPER, LONG, MIXED, SCHEMES, STAR, THERE_AND_BACK, TWO, UNEVEN, UNITS,
+                           VALUES, add, addresses_of_line, axiom_of, fault_shown, faulty_pairs, grow, in_turn,
+                           line_of, norm, orders_within, others, points_of, product, raised_by, same, sights_of,
+                           stand_between, within)
 
 SEEN = (("a", "b", 3), ("a", "b", 3), 2, (0, 0))
 
@@ -239,7 +240,8 @@ class Shown(unittest.TestCase):
     def test_steps_that_are_missing(self):
         for kind, other, expected in [
                 (("", "a", 0), ("a", "a", 2), [True, False, False]), (("", "a", 0), ("a", "a", 0), [True, True, False]),
-                (("a", "", 0), ("a", "a", 0), [True, False, False]), (("a", "a", 0), ("a", "", 0), [True, False, False])]:
+                (("a", "", 0), ("a", "a", 0), [True, False, False]),
+                (("a", "a", 0), ("a", "", 0), [True, False, False])]:
             stand = (kind, other, 0 if expected[1] or "" in (kind[1], other[1]) else 1, (0, 0))
             self.assertEqual([is_shown(DRAGON, stand, fault) for fault in FAULTS], expected)
         # Ways that cross at a right angle, and the same ways if one of them begins or ends there.

@@ -191,7 +191,15 @@ class Values(unittest.TestCase):
 
     def test_too_many_stands(self):
         self.assertEqual(raised_by(self, TooMany, Table, DENSE).limit, 20000)
-        # Schemes of which the tables are near the limit, on both sides.
+        # Tables of 19997 and of 20009 stands, both with 40 kinds.
+        below = Scheme.from_lines("grid square", "axiom a0", "rule a b0 a3 b0", "rule b c0 a0 c3", "rule c d0 c0 a3",
+                                  "rule d c3 b0 b0")
+        above = Scheme.from_lines("grid triangle", "axiom a0", "rule a a0 d3 d0 b0", "rule b e3 b0 a0 e0",
+                                  "rule c c0 f0 e0 d3", "rule d a0 a0 e0 b3", "rule e b0 b3 f0 d0",
+                                  "rule f a0 b3 c0 d0")
+        self.assertEqual(len(Table(below)), 19997)
+        self.assertEqual(raised_by(self, TooMany, Table, above).limit, 20000)
+        self.assertEqual([len(own) for own in closure(above, (), ())], [40, 20009])
         known = [scheme for scheme, _ in tabled()]
         great = [scheme for scheme in MIXED if scheme not in known]
         self.assertTrue(great)
