@@ -6,6 +6,7 @@ from grownlines.base.words import is_count
 from grownlines.errors import InvalidNumber, InvalidOperation, InvalidScheme, TooMany, UnknownLetter
 from grownlines.lines.schemes import Scheme
 from grownlines.lines.tallies import letters_after, many_after
+from grownlines.lines.turns import directions_after
 
 MAX_ORDER = 200
 MAX_STEPS = 5000
@@ -47,44 +48,9 @@ def step_counts(scheme, order):
     """The dict from the steps of the line to how often it has them."""
     check_scheme(scheme)
     check_order(order)
-    # The counts of a letter are kept in one integer, side by side by their directions: to turn all its steps
-    # is to shift it, and what is shifted out comes in again at the other end.
-    width = many_after(scheme, scheme.axiom, order).bit_length()
-    shifts = [direction * width for direction in range(len(scheme.grid.units))]
-    packed = [sum([1 << shifts[turn] for own, turn in scheme.axiom if own == letter]) for letter in scheme.letters]
-    members, rows = _sources(scheme)
-    for _ in range(order):
-        packed = _packed_after(packed, members, rows, shifts, len(shifts) * width)
-    mask = (1 << width) - 1
-    counts = {}
-    for letter, sums in zip(scheme.letters, packed):
-        for direction, shift in enumerate(shifts):
-            counts[(letter, direction)] = (sums >> shift) & mask
-    return {step: counts[step] for step in counts if counts[step] > 0}
-
-
-def _sources(scheme):
-    """What the steps of the next order come from.
-
-    That is the pair of the list of groups of letters, each with rules of the same items, and of the list of what
-    comes to each letter: for each item the number of its group times all turns, and its own turn.
-    """
-    many = len(scheme.grid.units)
-    groups = {}
-    for at, letter in enumerate(scheme.letters):
-        groups.setdefault(tuple(sorted(scheme[letter].row)), []).append(at)
-    rows = [[many * number + turn for number, items in enumerate(groups) for own, turn in items if own == letter]
-            for letter in scheme.letters]
-    return ([groups[items] for items in groups], rows)
-
-
-def _packed_after(packed, members, rows, shifts, whole):
-    """The packed counts of the next order."""
-    totals = [sum([packed[at] for at in group]) for group in members]
-    turned = [total << shift for total in totals for shift in shifts]
-    sums = [sum([turned[at] for at in row]) for row in rows]
-    mask = (1 << whole) - 1
-    return [(counts & mask) + (counts >> whole) for counts in sums]
+    counts = directions_after(scheme, order)
+    return {(letter, direction): many for letter in counts for direction, many in enumerate(counts[letter])
+            if many > 0}
 
 
 def steps_of(scheme, order):

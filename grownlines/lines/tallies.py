@@ -68,19 +68,19 @@ def _matrix(scheme):
     return [[row.count(letter) for letter in scheme.letters] for row in rows]
 
 
-def _joined(one, other):
+def joined(one, other):
     """The product of two matrices."""
     columns = list(zip(*other))
     return [[sum([left * right for left, right in zip(row, column)]) for column in columns] for row in one]
 
 
-def _powered(matrix, many):
-    """The product of so many equal matrices, at least one."""
+def powered(matrix, many, join):
+    """The product of so many equal matrices, at least one, by a function that joins two."""
     if many == 1:
         return matrix
-    half = _powered(matrix, many // 2)
-    whole = _joined(half, half)
-    return _joined(whole, matrix) if many % 2 == 1 else whole
+    half = powered(matrix, many // 2, join)
+    whole = join(half, half)
+    return join(whole, matrix) if many % 2 == 1 else whole
 
 
 def _counted(scheme, row):
@@ -97,7 +97,7 @@ def letters_after(scheme, row, order):
     """The dict from all letters to how many steps with them come, by an order, from a row of items or steps."""
     counts = _counted(scheme, row)
     if order > 0:
-        counts = _joined([counts], _powered(_matrix(scheme), order))[0]
+        counts = joined([counts], powered(_matrix(scheme), order, joined))[0]
     return _by_letters(scheme, counts)
 
 
@@ -107,7 +107,7 @@ def letters_by_orders(scheme, row, order):
     counts = _counted(scheme, row)
     found = [_by_letters(scheme, counts)]
     for _ in range(order):
-        counts = _joined([counts], matrix)[0]
+        counts = joined([counts], matrix)[0]
         found.append(_by_letters(scheme, counts))
     return found
 
