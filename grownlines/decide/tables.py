@@ -1,6 +1,6 @@
 """The table of a scheme: all stands that are not far of its lines of all orders."""
 
-from grownlines.base.points import norm_in
+from grownlines.base.points import minus, norm_in
 from grownlines.decide.searches import first_seen, has_all, is_kind_seen, numbers_along, search
 from grownlines.decide.stands import far_norm, is_stand, reach, seen_from, shows
 from grownlines.errors import InvalidOperation, InvalidStand
@@ -109,14 +109,13 @@ def pairs_to(scheme, order):
     """The triples (number, number, stand) of all pairs of visits of an order, far stands left out."""
     along = visits(scheme, order)
     bound = far_norm(scheme)
-    # A vector with parts that are greater than twice the reach is far, in both grids.
-    width = 2 * reach(scheme)
+    # The parts of a vector that is not far are less than 6 / 5 of the reach, in both grids.
+    width = reach(scheme) + reach(scheme) // 5 + 1
     cells = {}
     for number, visit in enumerate(along):
         cells.setdefault(_cell_of(width, visit[2]), []).append(number)
     for number, visit in enumerate(along):
-        near = [own for cell in _around(_cell_of(width, visit[2])) for own in cells.get(cell, []) if own > number]
+        around = [own for cell in _around(_cell_of(width, visit[2])) for own in cells.get(cell, []) if own > number]
+        near = [own for own in around if norm_in(scheme.grid, minus(along[own][2], visit[2])) <= bound]
         for later in sorted(near):
-            stand = seen_from(scheme.grid, visit, along[later])
-            if norm_in(scheme.grid, stand[3]) <= bound:
-                yield (number, later, stand)
+            yield (number, later, seen_from(scheme.grid, visit, along[later]))

@@ -8,6 +8,7 @@ matrices as numbers are: where two lists meet, one is turned by the other.
 
 from grownlines.lines.tallies import joined, powered
 
+
 def _most(matrix):
     """How many steps a row has at most."""
     return max([sum([sum(counts) for counts in row]) for row in matrix])
