@@ -32,7 +32,7 @@ def _levels(scheme, order, weights, plan):
 
     Values are told from the beginning of the step.
     """
-    numbers, places, rows = plan
+    _, places, rows = plan
     levels = [([], [0] * len(rows))]
     power = (1, 0)
     for _ in range(order):
@@ -52,7 +52,8 @@ def _totals(scheme, weights, plan, levels, turn):
     power = turned_by(grid, raised(grid, scheme.growth, len(levels) - 1), turn)
     points = trail(grid, [direction for letter, direction in scheme.axiom])
     values = [_value(weights, times(grid, point, power)) for point in points]
-    numbers, best = (plan[0], levels[-1][1])
+    numbers = plan[0]
+    best = levels[-1][1]
     many = len(grid.units)
     ahead = [best[numbers[(letter, (direction + turn) % many)]] for letter, direction in scheme.axiom]
     totals = [value + more for value, more in zip(values, ahead)]
@@ -61,7 +62,7 @@ def _totals(scheme, weights, plan, levels, turn):
 
 def _address_by(scheme, plan, levels, index):
     """The address of the first visit with the greatest value of those that come from a visit of order 0."""
-    numbers, places, rows = plan
+    numbers, _, rows = plan
     if index == len(scheme.axiom):
         return (index,) + (0,) * (len(levels) - 1)
     address = [index]
