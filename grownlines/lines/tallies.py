@@ -74,13 +74,13 @@ def joined(one, other):
     return [[sum([left * right for left, right in zip(row, column)]) for column in columns] for row in one]
 
 
-def powered(matrix, many, join):
-    """The product of so many equal matrices, at least one, by a function that joins two."""
+def powered(matrix, many, multiply):
+    """The product of so many equal matrices, at least one, by a function that multiplies two."""
     if many == 1:
         return matrix
-    half = powered(matrix, many // 2, join)
-    whole = join(half, half)
-    return join(whole, matrix) if many % 2 == 1 else whole
+    half = powered(matrix, many // 2, multiply)
+    whole = multiply(half, half)
+    return multiply(whole, matrix) if many % 2 == 1 else whole
 
 
 def _counted(scheme, row):
