@@ -31,6 +31,8 @@ FUNCTIONS = (ast.FunctionDef, ast.AsyncFunctionDef, ast.Lambda)
 WHOLE = set("any all min max sum sorted".split())
 ITERATING = set("list tuple dict sorted sum min max any all enumerate zip".split())
 LIBRARY = ("heapq", "math", "itertools")
+CHANGING = set("append clear extend insert pop remove reverse setdefault update add discard sort".split())
+PASSING = set("enumerate zip reversed".split())
 
 
 def faults(path, text, package):
@@ -40,7 +42,7 @@ def faults(path, text, package):
         for child in ast.iter_child_nodes(node):
             child.parent = node
     found = characters_and_sizes(text, tree) + imports(path, tree, package) + module_level(tree)
-    for check in (names, statements, values, calls, classes, sets):
+    for check in (names, statements, values, calls, classes, sets, loops):
         found += check(tree)
     found += generators(tree, package)
     return [f"{path}: {fault}" for fault in found]
@@ -319,3 +321,68 @@ def generators(tree, package):
             if not taken and not looped and not isinstance(parent, ast.YieldFrom):
                 found.append(f"L23 {node.lineno}: a generator is kept")
     return found
+
+
+def loops(tree):
+    """What a loop or a comprehension walks is not changed in it, under no name that a function has for it."""
+    found = []
+    for function in ast.walk(tree):
+        if isinstance(function, ast.FunctionDef):
+            same = aliases(function)
+            for loop in ast.walk(function):
+                if isinstance(loop, (ast.For, ast.ListComp, ast.SetComp, ast.DictComp, ast.GeneratorExp)):
+                    walked = [other for name in names_walked(loop) for other in same.get(name, {name})]
+                    found += [f"L23 {part.lineno}: a loop changes what it walks"
+                              for part in inside(loop) if name_changed(part) in walked]
+    return found
+
+
+def inside(loop):
+    """What is carried out again and again; a statement behind which the loop is left counts, too."""
+    bodies = loop.body if isinstance(loop, ast.For) else [loop]
+    return [part for body in bodies for part in ast.walk(body)]
+
+
+def written(node):
+    """A name, or a row of attributes of one, as it is written; None for all else."""
+    return ast.unparse(node) if isinstance(node, (ast.Name, ast.Attribute)) else None
+
+
+def aliases(function):
+    """The dict from names to all names that one value may have in a function."""
+    same = {}
+    for node in ast.walk(function):
+        if isinstance(node, ast.Assign) and written(node.value):
+            for target in node.targets:
+                if written(target):
+                    names = same.get(written(target), {written(target)}) | same.get(
+                        written(node.value), {written(node.value)})
+                    same.update({name: names for name in names})
+    return same
+
+
+def names_walked(loop):
+    walked = [loop.iter] if isinstance(loop, ast.For) else [part.iter for part in loop.generators]
+    found = []
+    while walked:
+        node = walked.pop()
+        if written(node):
+            found.append(written(node))
+        if isinstance(node, ast.IfExp):
+            walked += [node.body, node.orelse]
+        if isinstance(node, ast.BoolOp):
+            walked += node.values
+        if isinstance(node, ast.Call) and getattr(node.func, "id", "") in PASSING:
+            walked += node.args
+        if isinstance(node, ast.Call) and getattr(node.func, "attr", "") in ("items", "keys", "values"):
+            walked.append(node.func.value)
+    return found
+
+
+def name_changed(node):
+    """The name of what a call or an assignment changes."""
+    if isinstance(node, ast.Call) and getattr(node.func, "attr", "") in CHANGING:
+        return written(node.func.value)
+    if isinstance(node, ast.Subscript) and isinstance(node.ctx, (ast.Store, ast.Del)):
+        return written(node.value)
+    return None

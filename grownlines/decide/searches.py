@@ -68,6 +68,22 @@ def coming_from(scheme, bound, ways, seen):
     return _from_stand(scheme, bound, ways, seen)
 
 
+def _following(scheme, bound, ways, origins, level, most):
+    """The list of what comes from this level and was not found before; its origins are kept."""
+    found = []
+    order = origins[level[0]][0] + 1
+    many = len([seen for seen in origins if not is_kind_seen(seen)])
+    for seen in level:
+        for own, numbers in coming_from(scheme, bound, ways, seen):
+            if own not in origins:
+                origins[own] = (order, seen, numbers)
+                found.append(own)
+                many = many + (0 if is_kind_seen(own) else 1)
+        if many > most:
+            raise TooMany(most)
+    return found
+
+
 def search(scheme, beginnings, most):
     """The dict from all that comes from the beginnings to its origin.
 
@@ -78,20 +94,8 @@ def search(scheme, beginnings, most):
     ways = {}
     origins = {seen: (0, None, numbers) for seen, numbers in beginnings}
     level = list(origins)
-    kinds = len([seen for seen in level if is_kind_seen(seen)])
-    order = 0
     while len(level) > 0:
-        order += 1
-        following = []
-        for seen in level:
-            for own, numbers in coming_from(scheme, bound, ways, seen):
-                if own not in origins:
-                    origins[own] = (order, seen, numbers)
-                    following.append(own)
-                    kinds = kinds + (1 if is_kind_seen(own) else 0)
-            if len(origins) - kinds > most:
-                raise TooMany(most)
-        level = following
+        level = _following(scheme, bound, ways, origins, level, most)
     return origins
 
 
