@@ -3,6 +3,8 @@ import unittest
 from grownlines.base.grids import Grid, Vector
 from grownlines.base.rules import Rule
 from grownlines.base.words import is_count, is_integer, is_letter, is_point
+from grownlines.decide.counts import count_meetings, cycle_of, is_faulty, layer, orders_of
+from grownlines.decide.likeness import agreement, are_alike, is_likeness_paper, parting, turn_between
 from grownlines.decide.papers import first_order, is_clear, is_paper, lift, meeting, paper
 from grownlines.decide.stands import coming_stands, is_far, is_shown, reach, stand_of, stands_within
 from grownlines.decide.tables import Table, pairs_to
@@ -10,8 +12,9 @@ from grownlines.lines.grown import (each_point, grown, length_of, letter_counts,
 from grownlines.lines.places import (address_of, end_of, is_address, kind_at, nth_step, number_of, point_at, step_at)
 from grownlines.lines.schemes import Scheme
 from grownlines.measure.boxes import area, box, farthest, total_turn
+from grownlines.use.changes import begun_scheme, least_scheme, mirrored_scheme, powered, reversed_scheme
 from grownlines.visits.kinds import coming, count_kinds, kinds_of, visit_at, visits
-from grownlines.visits.meetings import crowds, faults_of, first_meeting, meetings, outline
+from grownlines.visits.meetings import FAULTS, crowds, faults_of, first_meeting, meetings, outline
 from grownlines.visits.points import count_at, is_passed, steps_on, visits_at
 
 # The examples of the document, as they stand there.
@@ -113,6 +116,27 @@ STAGES = {
 [True, True]
 >>> lift(DRAGON, (0, 0), (0, 1))
 (4, (0, 0, 1, 1, 1), (0, 1, 0, 1, 1))
+''',
+    "Stage 14: meetings counted": r'''
+>>> ROAD = Scheme.from_lines("grid square", "axiom a0", "rule a a0 a0")
+>>> [[count_meetings(BACK, 1, fault) for fault in FAULTS], count_meetings(DRAGON, 4, "point"), count_meetings(FLAKE, 200, "point")]
+[[2, 3, 0], 1, 0]
+>>> [cycle_of(ROAD), len(layer(ROAD, 0)), len(layer(ROAD, 2)), len(layer(ROAD, 10 ** 300)), orders_of(ROAD, "point"), is_faulty(BACK, 10 ** 300, "edge")]
+[(3, 1), 1, 8, 9, ((), ()), True]
+''',
+    "Stage 15: likeness": r'''
+>>> LEVY = Scheme.from_lines("grid square", "axiom a0", "rule a a0 a1")
+>>> SAME = Scheme.from_lines("grid square", "axiom q1", "rule p q1 p0", "rule q q0 p1")
+>>> [parting(DRAGON, LEVY), agreement(DRAGON, LEVY, 4), are_alike(DRAGON, SAME), turn_between(DRAGON, SAME), turn_between(LEVY, DRAGON)]
+[(2, 2), 2, False, 1, None]
+>>> [parting(DRAGON, SAME), is_likeness_paper(LEVY, LEVY, ("alike", (("a", "a"),))), is_likeness_paper(DRAGON, LEVY, ("parts", 3, 2))]
+[(0, 0), True, True]
+''',
+    "Stage 16: changed schemes": r'''
+>>> [reversed_scheme(DRAGON).lines[1:], mirrored_scheme(DRAGON).lines[2:], str(powered(DRAGON, 2)["a"]), powered(DRAGON, 3).growth]
+[('axiom a2', 'rule a b1 a0', 'rule b b0 a1'), ('rule a a0 b3', 'rule b a3 b0'), 'a0 b1 a2 b1', (-2, 2)]
+>>> [begun_scheme(FLAKE, 2).axiom, least_scheme(DRAGON) == DRAGON, least_scheme(DRAGON.with_line("rule b b0 a1")).lines[1:]]
+[(('a', 2), ('a', 0), ('a', 4)), True, ('axiom a0', 'rule a a0 a1')]
 ''',
 }
 

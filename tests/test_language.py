@@ -25,6 +25,10 @@ INTERFACE = {
     "decide.stands": "reach is_stand stand_of is_far is_shown first_stands stands_within coming_stands",
     "decide.tables": "Table is_closed_under pairs_to",
     "decide.papers": "is_clear first_order paper is_paper meeting lift",
+    "decide.counts": "count_meetings layer cycle_of is_faulty orders_of",
+    "decide.likeness": "are_alike parting agreement turn_between likeness_paper is_likeness_paper",
+    "use.changes": "turned_scheme mirrored_scheme reversed_scheme begun_scheme renamed_scheme powered spared "
+                   "least_scheme",
 }
 METHODS = {
     "Grid": "unit direction_of product norm_of conjugate_of turned quotient alternate __len__ __iter__ __eq__ __str__",

@@ -1,13 +1,16 @@
 """Papers: what shows that a scheme is clear of a fault, or that it meets it."""
 
-from grownlines.base.points import norm_in
-from grownlines.decide.searches import has_all, numbers_along, search
-from grownlines.decide.stands import far_norm, seen_from, shows
-from grownlines.decide.tables import MAX_TABLE, Table, are_kinds, are_near_stands
+from grownlines.decide.codes import Codes
+from grownlines.decide.found import Found
+from grownlines.decide.judged import are_kinds, has_all, runs_of
+from grownlines.decide.nearness import Nearness
+from grownlines.decide.searches import chain_of, numbers_along, search
+from grownlines.decide.stands import seen_from, shows
+from grownlines.decide.tables import MAX_TABLE
 from grownlines.errors import InvalidOperation, TooMany
 from grownlines.lines.grown import MAX_ORDER, check_scheme
 from grownlines.lines.places import leads_to_visit
-from grownlines.visits.kinds import MAX_ADDRESS_ORDER, many_visits, visit_by
+from grownlines.visits.kinds import MAX_ADDRESS_ORDER, kinds_from, many_visits, visit_by
 from grownlines.visits.meetings import MAX_FORCE, check_fault, meetings
 
 
@@ -15,7 +18,7 @@ def first_order(scheme, fault):
     """The first order of the scheme for a fault, None if it is clear of it."""
     check_scheme(scheme)
     check_fault(fault)
-    return Table(scheme).order_with(fault)
+    return Found(scheme, MAX_TABLE).order_with(fault)
 
 
 def is_clear(scheme, fault):
@@ -27,13 +30,13 @@ def paper(scheme, fault):
     """A paper for the scheme and a fault."""
     check_scheme(scheme)
     check_fault(fault)
-    table = Table(scheme)
-    order = table.order_with(fault)
-    for stand in table.wrong(fault):
-        if table.order_of(stand) == order:
-            one, other = table.pair_of(stand)
-            return ("meets", one, other)
-    return ("clear", table.kinds, table.stands)
+    found = Found(scheme, MAX_TABLE)
+    wrong = found.wrong(fault)
+    if len(wrong) == 0:
+        return ("clear", found.codes.kinds, found.stands())
+    _, code = min([(found.order_of(code), code) for code in wrong])
+    one, other = found.pair_of(scheme, code)
+    return ("meets", one, other)
 
 
 def is_paper(scheme, fault, value):
@@ -48,11 +51,13 @@ def is_paper(scheme, fault, value):
 
 
 def _is_clear_paper(scheme, fault, kinds, stands):
-    if not are_kinds(scheme, kinds) or not are_near_stands(scheme, stands):
+    if not are_kinds(scheme, kinds):
         return False
-    if any([shows(scheme.grid, stand, fault) for stand in stands]):
+    nearness = Nearness(scheme)
+    runs = runs_of(scheme, nearness, stands)
+    if runs is None or any([shows(scheme.grid, stand, fault) for stand in stands]):
         return False
-    return has_all(scheme, kinds, stands)
+    return has_all(scheme, nearness, kinds, runs)
 
 
 def _are_addresses(scheme, one, other):
@@ -93,12 +98,16 @@ def lift(scheme, one, other):
     if not _are_addresses(scheme, one, other):
         raise InvalidOperation("addresses of two visits of one order are asked for")
     start = _stand_between(scheme, one, other)
-    if norm_in(scheme.grid, start[3]) > far_norm(scheme):
+    nearness = Nearness(scheme)
+    if not nearness.is_near(start[3]):
         return None
-    origins = search(scheme, [(start, (0, 0))], MAX_TABLE)
-    met = [(origins[stand][0], stand) for stand in origins if shows(scheme.grid, stand, "point")]
+    codes = Codes(scheme, nearness, kinds_from(scheme, start[:2]))
+    origins, pairs = search(codes, [codes.code_of(start)], 0, MAX_TABLE)
+    met = [code for code in codes.close_codes(pairs)
+           if code in origins and shows(scheme.grid, codes.seen(code), "point")]
     if len(met) == 0:
         return None
-    pairs = numbers_along(origins, min(met)[1])[1:]
+    _, code = min([(len(chain_of(origins, code)), code) for code in met])
+    pairs = numbers_along(scheme, [codes.seen(own) for own in chain_of(origins, code)])
     return (len(one) - 1 + len(pairs), one + tuple([number for number, _ in pairs]),
             other + tuple([number for _, number in pairs]))

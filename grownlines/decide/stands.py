@@ -20,11 +20,16 @@ def reach(scheme):
     check_scheme(scheme)
     grid = scheme.grid
     norm = norm_in(grid, scheme.growth)
-    greatest = max([norm_in(grid, start) for letter in scheme.letters for start in scheme[letter].starts])
+    greatest = greatest_start(scheme)
     less = 0
     while not _is_wide(less, norm, greatest):
         less += 1
     return less + 1
+
+
+def greatest_start(scheme):
+    """The greatest norm of a point at which a step of a rule begins."""
+    return max([norm_in(scheme.grid, start) for letter in scheme.letters for start in scheme[letter].starts])
 
 
 def _is_wide(less, norm, greatest):

@@ -1,31 +1,16 @@
 """The table of a scheme: all stands that are not far of its lines of all orders."""
 
 from grownlines.base.points import minus, norm_in
-from grownlines.decide.searches import first_seen, has_all, is_kind_seen, numbers_along, search
+from grownlines.decide.found import Found
+from grownlines.decide.judged import are_kinds, has_all, runs_of
+from grownlines.decide.nearness import Nearness
 from grownlines.decide.stands import far_norm, is_stand, reach, seen_from, shows
 from grownlines.errors import InvalidOperation, InvalidStand
 from grownlines.lines.grown import check_scheme
-from grownlines.visits.kinds import is_kind, visits
+from grownlines.visits.kinds import visits
 from grownlines.visits.meetings import FAULTS, check_fault
 
 MAX_TABLE = 20000
-
-
-def _ascends(values):
-    return all([one < other for one, other in zip(values, values[1:])])
-
-
-def are_kinds(scheme, value):
-    """Whether the value is an ascending tuple of kinds."""
-    return isinstance(value, tuple) and all([is_kind(scheme, kind) for kind in value]) and _ascends(value)
-
-
-def are_near_stands(scheme, value):
-    """Whether the value is an ascending tuple of stands that are not far."""
-    if not isinstance(value, tuple) or not all([is_stand(scheme, stand) for stand in value]):
-        return False
-    bound = far_norm(scheme)
-    return all([norm_in(scheme.grid, stand[3]) <= bound for stand in value]) and _ascends(value)
 
 
 def is_closed_under(scheme, kinds, stands):
@@ -33,9 +18,11 @@ def is_closed_under(scheme, kinds, stands):
     check_scheme(scheme)
     if not are_kinds(scheme, kinds):
         raise InvalidOperation("an ascending tuple of kinds is asked for")
-    if not are_near_stands(scheme, stands):
+    nearness = Nearness(scheme)
+    runs = runs_of(scheme, nearness, stands)
+    if runs is None:
         raise InvalidOperation("an ascending tuple of stands that are not far is asked for")
-    return has_all(scheme, kinds, stands)
+    return has_all(scheme, nearness, kinds, runs)
 
 
 def _first_order_text(order):
@@ -47,28 +34,27 @@ class Table:
 
     def __init__(self, scheme):
         check_scheme(scheme)
-        origins = search(scheme, first_seen(scheme, far_norm(scheme)), MAX_TABLE)
-        self._origins = origins
+        found = Found(scheme, MAX_TABLE)
+        self._found = found
         self.scheme = scheme
-        self.kinds = tuple(sorted([seen for seen in origins if is_kind_seen(seen)]))
-        self.stands = tuple(sorted([seen for seen in origins if not is_kind_seen(seen)]))
-        self._wrong = {fault: tuple([stand for stand in self.stands if shows(scheme.grid, stand, fault)])
-                       for fault in FAULTS}
-        self._first_orders = {fault: min([origins[stand][0] for stand in self._wrong[fault]], default=None)
-                              for fault in FAULTS}
+        self.kinds = found.codes.kinds
+        self.stands = found.stands()
+        self._wrong = {fault: tuple(found.codes.stands_of(found.wrong(fault), found.pairs)) for fault in FAULTS}
+        self._first_orders = {fault: found.order_with(fault) for fault in FAULTS}
+
+    def _code(self, stand):
+        """The number of a stand of the table."""
+        if stand not in self:
+            raise InvalidStand("a stand of the table is asked for")
+        return self._found.codes.code_of(stand)
 
     def order_of(self, stand):
         """The least order at which two visits of a line have this stand."""
-        if stand not in self:
-            raise InvalidStand("a stand of the table is asked for")
-        return self._origins[stand][0]
+        return self._found.order_of(self._code(stand))
 
     def pair_of(self, stand):
         """The addresses of two visits of this order with this stand."""
-        if stand not in self:
-            raise InvalidStand("a stand of the table is asked for")
-        pairs = numbers_along(self._origins, stand)
-        return (tuple([one for one, other in pairs]), tuple([other for one, other in pairs]))
+        return self._found.pair_of(self.scheme, self._code(stand))
 
     def wrong(self, fault):
         """The ascending tuple of the stands that show a fault."""
@@ -81,7 +67,7 @@ class Table:
         return self._first_orders[fault]
 
     def __contains__(self, value):
-        return is_stand(self.scheme, value) and value in self._origins
+        return is_stand(self.scheme, value) and self._found.codes.code_of(value) in self._found.origins
 
     def __len__(self):
         return len(self.stands)

@@ -38,7 +38,12 @@ def is_kind(scheme, value):
 def kinds_of(scheme):
     """The ascending tuple of the kinds that visits of some order have."""
     check_scheme(scheme)
-    met = {kind: True for kind, direction, point in first_visits(scheme)}
+    return kinds_from(scheme, [kind for kind, direction, point in first_visits(scheme)])
+
+
+def kinds_from(scheme, kinds):
+    """The ascending tuple of these kinds and of those that come from them, by any number of orders."""
+    met = {kind: True for kind in kinds}
     waiting = list(met)
     while waiting:
         for kind, _, _ in what_comes(scheme, waiting.pop()):
