@@ -30,6 +30,7 @@ NO_BEGINNINGS = ("_wall", "_pe_", "_dcw_", "_enum_", "_cm_", "_twin_re_", "_lay_
 FUNCTIONS = (ast.FunctionDef, ast.AsyncFunctionDef, ast.Lambda)
 WHOLE = set("any all min max sum sorted".split())
 ITERATING = set("list tuple dict sorted sum min max any all enumerate zip".split())
+FREE = {"__init__", "__enter__", "__exit__", "__call__"}
 LIBRARY = ("heapq", "math", "itertools")
 CHANGING = set("append clear extend insert pop remove reverse setdefault update add discard sort".split())
 PASSING = set("enumerate zip reversed".split())
@@ -183,7 +184,7 @@ def statements(tree):
             found.append(f"L6 {node.lineno}: a statement that is not allowed")
         if isinstance(node, ast.Raise) and not (node.exc is None or isinstance(node.exc, ast.Call)):
             found.append(f"L19 {node.lineno}: an error that is not created on the spot")
-        if isinstance(node, ast.ExceptHandler) and (node.type is None or "KeyError" not in ast.dump(node.type)):
+        if isinstance(node, ast.ExceptHandler) and getattr(node.type, "id", "") not in caught_freely(tree):
             found.append(f"L19 {node.lineno}: a handler to look at")
         if isinstance(node, ast.AugAssign) and not isinstance(node.value, ast.Constant):
             found.append(f"L5 {node.lineno}: += of what is no literal")
@@ -195,6 +196,13 @@ def statements(tree):
             found += [f"L4 {node.lineno}: a default that is not plain" for default in defaults
                       if not isinstance(default, (ast.Constant, ast.Tuple, ast.UnaryOp))]
     return found
+
+
+def caught_freely(tree):
+    """The errors of the package that a file knows, and those of Python that are caught freely."""
+    own = [alias.name for node in tree.body if isinstance(node, ast.ImportFrom) and node.module == f"{PACKAGE}.errors"
+           for alias in node.names]
+    return own + ["KeyError", "ZeroDivisionError"]
 
 
 def values(tree):
@@ -250,6 +258,8 @@ def classes(tree):
     for node in ast.walk(tree):
         if not isinstance(node, ast.ClassDef):
             continue
+        if node.name.startswith("_"):
+            found.append(f"L12 {node.lineno}: the class {node.name}")
         methods = [part for part in node.body if isinstance(part, ast.FunctionDef)]
         given = [method.name for method in methods]
         found += [f"L5 {node.lineno}: {name} is not allowed" for name in given
@@ -277,7 +287,7 @@ def method_faults(method):
     found = []
     if method.name == "__init__" and returned:
         found.append(f"L28 {method.lineno}: __init__ returns")
-    if method.name != "__init__" and stored:
+    if method.name in SPECIAL - FREE and stored:
         found.append(f"L5 {method.lineno}: {method.name} changes an attribute")
     for value in returned:
         called = getattr(getattr(value, "func", None), "id", getattr(getattr(value, "func", None), "attr", ""))

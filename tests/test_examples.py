@@ -8,10 +8,15 @@ from grownlines.decide.likeness import agreement, are_alike, is_likeness_paper, 
 from grownlines.decide.papers import first_order, is_clear, is_paper, lift, meeting, paper
 from grownlines.decide.stands import coming_stands, is_far, is_shown, reach, stand_of, stands_within
 from grownlines.decide.tables import Table, pairs_to
+from grownlines.errors import Refused
 from grownlines.lines.grown import (each_point, grown, length_of, letter_counts, sequel, step_counts, steps_of)
 from grownlines.lines.places import (address_of, end_of, is_address, kind_at, nth_step, number_of, point_at, step_at)
 from grownlines.lines.schemes import Scheme
 from grownlines.measure.boxes import area, box, farthest, total_turn
+from grownlines.text.pictures import picture, read_picture
+from grownlines.text.shell import Shell
+from grownlines.text.texts import read_paper, read_stand, write_address, write_scheme, write_stand
+from grownlines.use.bench import Bench
 from grownlines.use.changes import begun_scheme, least_scheme, mirrored_scheme, powered, reversed_scheme
 from grownlines.visits.kinds import coming, count_kinds, kinds_of, visit_at, visits
 from grownlines.visits.meetings import FAULTS, crowds, faults_of, first_meeting, meetings, outline
@@ -138,6 +143,24 @@ STAGES = {
 >>> [begun_scheme(FLAKE, 2).axiom, least_scheme(DRAGON) == DRAGON, least_scheme(DRAGON.with_line("rule b b0 a1")).lines[1:]]
 [(('a', 2), ('a', 0), ('a', 4)), True, ('axiom a0', 'rule a a0 a1')]
 ''',
+    "Stage 17: a bench": r'''
+>>> bench = Bench(DRAGON)
+>>> [bench.demand(("clear", "edge")), bench.demand(("late", "point", 4)), str(bench), "axiom a0" in bench]
+[(), (), 'bench with 4 lines, 2 pledges', True]
+>>> bench.draw("rule b a0 b1")
+raises Refused
+>>> [bench.repairs("point"), Bench(LEVY).repairs("edge"), Bench(FLAKE).demand(("draws", FLAKE))]
+[(), (), ()]
+''',
+    "Stage 18: texts, pictures and a shell": r'''
+>>> [write_stand((("a", "b", 1), ("", "a", 0), 2, (-1, 3))), read_stand("a.b.1 -.a.0 2 -1,3"), write_address((0, 1, 3)), read_paper("meets 0/1 0/3")]
+['a.b.1 -.a.0 2 -1,3', (('a', 'b', 1), ('', 'a', 0), 2, (-1, 3)), '0/1/3', ('meets', (0, 1), (0, 3))]
+>>> [picture(DRAGON, 2), read_picture("+-+")]
+['+\n|\n+-+\n  |\n+-+', (((0, 0), (1, 0)), (((0, 0), (1, 0)),))]
+>>> shell = Shell(write_scheme(DRAGON))
+>>> [shell("first point"), shell("clear cross"), shell("length 10"), shell("at 4 7"), shell("count point 4"), shell("picture 1"), shell("fly"), len(shell)]
+['4', 'yes', '1024', '-2,1', '1', '  +;   |; +-+', 'what', 6]
+''',
 }
 
 
@@ -157,6 +180,10 @@ class Examples(unittest.TestCase):
                 continue
             if following.startswith(">>> "):
                 exec(line[4:], known)
+            elif following.startswith("raises "):
+                with self.assertRaises(known[following.split(" ")[1]]):
+                    eval(line[4:], known)
+                results += 1
             else:
                 self.assertEqual(repr(eval(line[4:], known)), following, line)
                 results += 1

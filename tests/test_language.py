@@ -27,6 +27,10 @@ INTERFACE = {
     "decide.papers": "is_clear first_order paper is_paper meeting lift",
     "decide.counts": "count_meetings layer cycle_of is_faulty orders_of",
     "decide.likeness": "are_alike parting agreement turn_between likeness_paper is_likeness_paper",
+    "use.bench": "Bench",
+    "text.texts": "write_scheme read_scheme write_stand read_stand write_address read_address write_paper read_paper",
+    "text.pictures": "picture read_picture",
+    "text.shell": "Shell",
     "use.changes": "turned_scheme mirrored_scheme reversed_scheme begun_scheme renamed_scheme powered spared "
                    "least_scheme",
 }
@@ -36,6 +40,8 @@ METHODS = {
     "Rule": "from_text drawn backward mirrored renamed __add__ __getitem__ __contains__ __len__ __iter__ __eq__ "
             "__str__",
     "Scheme": "from_lines __getitem__ with_line without __contains__ __len__ __iter__ __eq__ __str__",
+    "Bench": "draw erase demand waive undo redo repairs trial during twin __contains__ __len__ __iter__ __eq__ __str__",
+    "Shell": "answer bench __call__ __len__",
     "Table": "order_of pair_of wrong order_with __contains__ __len__ __iter__ __eq__ __str__",
 }
 
@@ -47,7 +53,8 @@ BROKEN = [
     ("L15", "from grownlines.errors import LineError\ndef f(LineError):\n    return 1\n"),
     ("L5", "class A:\n    def __hash__(self):\n        return 1\n"),
     ("L5", "class A:\n    def __getitem__(self, at):\n        return 1\n"),
-    ("L5", "class A:\n    def set_it(self):\n        self.it = 1\n"),
+    ("L5", "class A:\n    def __bool__(self):\n        self.it = 1\n        return True\n"), ("L12", "class _A:\n    pass\n"),
+    ("L19", "def f(k):\n    try:\n        k()\n    except TypeError:\n        return 1\n"),
     ("L5", "def f(k, n):\n    k += n\n    return k\n"), ("L6", "def f():\n    global A\n"),
     ("L7", "A = 1.5\n"), ("L7", "def f(a):\n    return a / 2\n"), ("L7", "def f(a):\n    return any(x for x in a)\n"),
     ("L8", "def f(a):\n    return hash(a)\n"), ("L10", "A = '" + "a" * 120 + "'\n"), ("L10", "A = 1\n" + "\n" * 400),

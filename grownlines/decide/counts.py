@@ -36,7 +36,7 @@ def count_meetings(scheme, order, fault):
     wrong = found.wrong(fault)
     if len(wrong) == 0:
         return 0
-    places = found.places()
+    places = found.indexes()
     rows = found.rows()
     # What leads to no such pair is left out: the others are numbered anew.
     leads = {place: at for at, place in enumerate(_leading(rows, [places[code] for code in wrong]))}
@@ -54,12 +54,12 @@ def _check_great_order(order):
         raise InvalidNumber(order)
 
 
-class _Layers:
+class Layers:
     """The layers of a scheme, with the kinds of visits, from order 0 on until they repeat."""
 
     def __init__(self, scheme):
         found = Found(scheme, MAX_TABLE)
-        places = found.places()
+        places = found.indexes()
         sets = sets_until(found.rows(), [places[code] for code in found.firsts], MAX_CYCLE)
         if sets is None:
             raise TooMany(MAX_CYCLE)
@@ -83,7 +83,7 @@ def layer(scheme, order):
     """The ascending tuple of the stands that are not far of the pairs of visits of an order."""
     check_scheme(scheme)
     _check_great_order(order)
-    layers = _Layers(scheme)
+    layers = Layers(scheme)
     codes = list(layers.places)
     there = [codes[place] for place in members_of(layers.at(order))]
     return tuple(layers.found.stands_of(sorted([code for code in there if code >= 0])))
@@ -92,7 +92,7 @@ def layer(scheme, order):
 def cycle_of(scheme):
     """The turn and the period: from the turn on all layers and kinds of visits come again after the period."""
     check_scheme(scheme)
-    layers = _Layers(scheme)
+    layers = Layers(scheme)
     return (layers.turn, layers.period)
 
 
@@ -101,7 +101,7 @@ def is_faulty(scheme, order, fault):
     check_scheme(scheme)
     _check_great_order(order)
     check_fault(fault)
-    layers = _Layers(scheme)
+    layers = Layers(scheme)
     return layers.at(order) & layers.faulty(fault) != 0
 
 
@@ -109,7 +109,7 @@ def orders_of(scheme, fault):
     """The orders of lines with a fault below the turn, and of those from there on for one period."""
     check_scheme(scheme)
     check_fault(fault)
-    layers = _Layers(scheme)
+    layers = Layers(scheme)
     faulty = layers.faulty(fault)
     orders = [order for order, mask in enumerate(layers.sets) if mask & faulty != 0]
     return (tuple([order for order in orders if order < layers.turn]),

@@ -23,7 +23,7 @@ class Found:
         """The list of the stands with these numbers."""
         return self.codes.stands_of(codes, self.pairs)
 
-    def stands(self):
+    def all_stands(self):
         """The ascending tuple of all stands."""
         return tuple(self.stands_of(sorted([code for code in self.origins if code >= 0])))
 
@@ -49,11 +49,11 @@ class Found:
         pairs = [first_numbers(scheme, chain[0])] + numbers_along(scheme, chain)
         return (tuple([one for one, other in pairs]), tuple([other for one, other in pairs]))
 
-    def places(self):
+    def indexes(self):
         """The dict from all numbers to their places in the order of `origins`."""
         return {code: place for place, code in enumerate(self.origins)}
 
     def rows(self):
         """For each place the list of the places of what comes from it."""
-        places = self.places()
+        places = self.indexes()
         return [[places[own] for own in row] for row in self.codes.all_coming(self.origins)]

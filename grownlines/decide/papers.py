@@ -33,7 +33,7 @@ def paper(scheme, fault):
     found = Found(scheme, MAX_TABLE)
     wrong = found.wrong(fault)
     if len(wrong) == 0:
-        return ("clear", found.codes.kinds, found.stands())
+        return ("clear", found.codes.kinds, found.all_stands())
     _, code = min([(found.order_of(code), code) for code in wrong])
     one, other = found.pair_of(scheme, code)
     return ("meets", one, other)

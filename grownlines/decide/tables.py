@@ -38,7 +38,7 @@ class Table:
         self._found = found
         self.scheme = scheme
         self.kinds = found.codes.kinds
-        self.stands = found.stands()
+        self.stands = found.all_stands()
         self._wrong = {fault: tuple(found.codes.stands_of(found.wrong(fault), found.pairs)) for fault in FAULTS}
         self._first_orders = {fault: found.order_with(fault) for fault in FAULTS}
 
