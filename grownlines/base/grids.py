@@ -1,6 +1,6 @@
 """The two grids, and their points as vectors with operators."""
 
-from grownlines.base.points import divided, flipped, minus, norm_in, plus, raised, times, turned_by
+from grownlines.base.points import divided, flipped, minus, norm_in, plus, raised, take_turns, times, turned_by
 from grownlines.base.words import is_integer, is_point, write_integer
 from grownlines.errors import InvalidGrid, InvalidNumber, InvalidOperation, InvalidPoint, NoQuotient
 
@@ -80,11 +80,7 @@ class Grid:
         # A pair of integers has the form of a point, whatever it stands for.
         if not is_point(ends) or not is_point(others):
             raise InvalidOperation("two directions are a pair of integers")
-        many = len(self.units)
-        width = (ends[1] - ends[0]) % many
-        one = (others[0] - ends[0]) % many
-        two = (others[1] - ends[0]) % many
-        return len(set([0, width, one, two])) == 4 and (one < width) != (two < width)
+        return take_turns(len(self.units), ends, others)
 
     def __len__(self):
         return len(self.units)

@@ -54,6 +54,16 @@ def raised(grid, point, many):
     return times(grid, whole, point) if many % 2 == 1 else whole
 
 
+def take_turns(many, ends, others):
+    """Whether two pairs of directions, of so many, are four different ones that alternate around a point."""
+    width = (ends[1] - ends[0]) % many
+    one = (others[0] - ends[0]) % many
+    two = (others[1] - ends[0]) % many
+    if 0 in (width, one, two) or width in (one, two):
+        return False
+    return (one < width) != (two < width)
+
+
 def trail(grid, directions):
     """The list of the points to which unit steps lead from (0, 0), this one included."""
     points = [(0, 0)]

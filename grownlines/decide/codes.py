@@ -8,6 +8,7 @@ stand is the same for all stands with equal families, turns and vectors, but for
 """
 
 from grownlines.base.points import turned_by
+from grownlines.decide.stands import may_show, showing
 from grownlines.visits.kinds import what_comes
 
 
@@ -56,54 +57,50 @@ class Codes:
         return [kind_code(self.ranks[kind]) for kind, turn, point in triples] + self.among(triples)
 
     def pair(self, number):
-        """Where the rows of two kinds begin, and what their visits number 0 add to the numbers in a row."""
+        """What leads from the numbers of stands with two kinds to their rows, and what is added to those in a row."""
         one, other = divmod(number, len(self.kinds))
-        begin = (self._families[one] * len(self._rows) + self._families[other]) * self.size
+        families = self._families[one] * len(self._rows) + self._families[other]
         high = self.ranks[self.children[one][0][0]] * len(self.kinds) * self.size
         low = self.ranks[self.children[other][0][0]] * self.size
-        return (begin, (0, low, high, high + low))
+        return ((families - number) * self.size, (0, low, high, high + low))
 
     def _block(self, number):
-        """What comes from two families at a turn, by the visits that come from the first one.
+        """What comes from two families at a turn, by pairs of a visit from the first and of one from the other.
 
-        That is where each of them is, the places of near points turned backward by it, and for each visit that
-        comes from the other one where it is, which of the sums of the pair belongs to it, and the rest of the number.
+        That is the vector between them as an integer, if the families are at one point, which of the sums of a pair
+        is added, the rest of the number without its place, and the places of near points, turned backward.
         """
-        if number in self._blocks:
-            return self._blocks[number]
         families, turn = divmod(number, self._many)
         one, other = divmod(families, len(self._rows))
         nearness = self.nearness
-        seconds = [(second, kind, turn + more, nearness.wide(turned_by(nearness.grid, start, turn)))
+        seconds = [(second, self.ranks[kind] * self.size, turn + more,
+                    nearness.wide(turned_by(nearness.grid, start, turn)))
                    for second, (kind, more, start) in enumerate(self._rows[other])]
         found = []
         for first, (kind, back, start) in enumerate(self._rows[one]):
-            high = 0 if first == 0 else self.ranks[kind] * len(self.kinds) * self.size
-            row = []
-            for second, met, own, place in seconds:
-                low = 0 if second == 0 else self.ranks[met] * self.size
-                which = (2 if first == 0 else 0) + (1 if second == 0 else 0)
-                row.append((place, which, high + low + (own - back) % self._many * self.span))
-            found.append((nearness.wide(start), nearness.turned(back), row))
-        self._blocks[number] = found
+            high = self.ranks[kind] * len(self.kinds) * self.size
+            place = nearness.wide(start)
+            turned = nearness.turned(back)
+            for second, low, own, there in seconds:
+                rest = (high if first > 0 else 0) + (low if second > 0 else 0) + (own - back) % self._many * self.span
+                found.append((there - place, (0 if first > 0 else 2) + (0 if second > 0 else 1), rest, turned))
         return found
 
     def row(self, number):
-        """What comes from two families at a turn and a vector: pairs of which sum of the pair is added to a number.
+        """What comes from two families at a turn and a vector: pairs of which sum of a pair is added to a number.
 
         It stands in the order of the visits that come, and has no far stands.
         """
         block, place = divmod(number, self.span)
-        base = self.nearness.bases[place]
-        found = []
+        nearness = self.nearness
+        base = nearness.bases[place]
         if base is None:
-            return found
-        for start, turned, seconds in self._block(block):
-            own = base - start
-            for there, which, rest in seconds:
-                if own + there in turned:
-                    found.append((which, rest + turned[own + there]))
-        return found
+            return []
+        if block not in self._blocks:
+            self._blocks[block] = self._block(block)
+        near = nearness.places
+        return [(which, rest + turned[base + more]) for more, which, rest, turned in self._blocks[block]
+                if base + more in near]
 
     def coming_kinds(self, rank):
         """The list of the numbers of all kinds and stands that come from a visit of the kind with this rank."""
@@ -118,33 +115,48 @@ class Codes:
             if code < 0:
                 found.append(self.coming_kinds(kind_code(code)))
                 continue
-            pair, rest = divmod(code, self.size)
+            pair = code // self.size
             if pair not in pairs:
                 pairs[pair] = self.pair(pair)
-            begin, sums = pairs[pair]
-            if begin + rest not in rows:
-                rows[begin + rest] = self.row(begin + rest)
-            found.append([own + sums[which] for which, own in rows[begin + rest]])
+            lead, sums = pairs[pair]
+            if code + lead not in rows:
+                rows[code + lead] = self.row(code + lead)
+            found.append([own + sums[which] for which, own in rows[code + lead]])
         return found
 
     def seen(self, code):
         """The kind or the stand with a number."""
-        return self.kinds[kind_code(code)] if code < 0 else self.stands_of([code], [code // self.size])[0]
+        if code < 0:
+            return self.kinds[kind_code(code)]
+        pair, rest = divmod(code, self.size)
+        one, other = divmod(pair, len(self.kinds))
+        turn, place = divmod(rest, self.span)
+        return (self.kinds[one], self.kinds[other], turn, self.nearness.points[place])
 
-    def stands_of(self, codes, pairs):
-        """The list of the stands with these numbers; their pairs of kinds are among these ones."""
-        many = len(self.kinds)
+    def stands_of(self, codes):
+        """The list of the stands with these numbers."""
         size = self.size
-        heads = {pair: (self.kinds[pair // many], self.kinds[pair % many]) for pair in pairs}
+        heads = [(kind, other) for kind in self.kinds for other in self.kinds]
         tails = [(turn, point) for turn in range(self._many) for point in self.nearness.points]
         return [heads[code // size] + tails[code % size] for code in codes]
 
-    def close_codes(self, pairs):
-        """The ascending list of the numbers of the stands that may show faults, of these pairs of kinds."""
+    def possible_pairs(self):
+        """The list of the pairs of kinds that stands may have: the last visit sees none, and none sees the first."""
+        many = len(self.kinds)
+        return [one * many + other for one, kind in enumerate(self.kinds) for other, met in enumerate(self.kinds)
+                if kind[1] != "" and met[0] != ""]
+
+    def close_codes(self, pairs, fault):
+        """The ascending list of the numbers of all stands with these pairs of kinds that may show a fault."""
         nearness = self.nearness
-        places = [nearness.places[nearness.wide(vector)] for vector in ((0, 0), nearness.grid.units[0])]
-        return [pair * self.size + turn * self.span + place for pair in sorted(pairs) for turn in range(self._many)
-                for place in places]
+        tails = [turn * self.span + nearness.places[nearness.wide(vector)]
+                 for turn, vector in showing(nearness.grid, fault)]
+        return [pair * self.size + tail for pair in sorted(pairs) for tail in tails]
+
+    def shows(self, code, fault):
+        """Whether the stand with one of these numbers shows the fault."""
+        kind, other, turn, _ = self.seen(code)
+        return may_show(self.nearness.grid, kind, other, turn, fault)
 
     def code_of(self, stand):
         """The number of a tuple that has the form of a stand; None if it is far, or its kinds are none of these."""

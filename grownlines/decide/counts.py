@@ -86,7 +86,7 @@ def layer(scheme, order):
     layers = Layers(scheme)
     codes = list(layers.places)
     there = [codes[place] for place in members_of(layers.at(order))]
-    return tuple(layers.found.stands_of(sorted([code for code in there if code >= 0])))
+    return tuple(layers.found.codes.stands_of(sorted([code for code in there if code >= 0])))
 
 
 def cycle_of(scheme):

@@ -3,40 +3,50 @@
 from grownlines.decide.codes import Codes
 from grownlines.decide.nearness import Nearness
 from grownlines.decide.searches import chain_of, first_numbers, numbers_along, search
-from grownlines.decide.stands import shows
+from grownlines.errors import TooMany
 from grownlines.visits.kinds import first_visits, kinds_of
 
 
 class Found:
     """The numbers of all kinds and stands of the table of a scheme; `firsts` are those of order 0, as often as there.
 
-    `origins` tells for each number from which one it comes first.
+    `origins` tells for each number from which one it comes first. If a fault is told, what has greater orders than
+    the first stand that shows it may be missing.
     """
 
-    def __init__(self, scheme, most):
+    def __init__(self, scheme, most, fault=None):
         codes = Codes(scheme, Nearness(scheme), kinds_of(scheme))
+        firsts = codes.first_codes(first_visits(scheme))
+        possible = codes.possible_pairs()
+        goals = {}
+        # Only if there cannot be too many stands, the last ones need not be counted.
+        if fault is not None and len(possible) * codes.size <= most:
+            goals = {code: True for code in codes.close_codes(possible, fault) if codes.shows(code, fault)}
+        found = search(codes, firsts, most + len(codes.kinds), goals)
+        if found is None:
+            raise TooMany(most)
         self.codes = codes
-        self.firsts = codes.first_codes(first_visits(scheme))
-        self.origins, self.pairs = search(codes, self.firsts, len(codes.kinds), most)
-
-    def stands_of(self, codes):
-        """The list of the stands with these numbers."""
-        return self.codes.stands_of(codes, self.pairs)
-
-    def all_stands(self):
-        """The ascending tuple of all stands."""
-        return tuple(self.stands_of(sorted([code for code in self.origins if code >= 0])))
+        self.firsts = firsts
+        self.origins = found[0]
+        self._pairs = found[1] if len(goals) == 0 else possible
 
     def wrong(self, fault):
         """The ascending list of the numbers of the stands that show a fault."""
-        codes = self.codes
-        close = [code for code in codes.close_codes(self.pairs) if code in self.origins]
-        shown = zip(close, codes.stands_of(close, self.pairs))
-        return [code for code, stand in shown if shows(codes.nearness.grid, stand, fault)]
+        return [code for code in self.codes.close_codes(self._pairs, fault)
+                if code in self.origins and self.codes.shows(code, fault)]
+
+    def all_stands(self):
+        """The ascending tuple of all stands."""
+        # The numbers of kinds are the least ones, and all kinds are found.
+        return tuple(self.codes.stands_of(sorted(list(self.origins))[len(self.codes.kinds):]))
 
     def order_with(self, fault):
         """The least order of a stand that shows a fault, None if there is none."""
-        return min([self.order_of(code) for code in self.wrong(fault)], default=None)
+        return self.first_of(self.wrong(fault))[0]
+
+    def first_of(self, codes):
+        """The pair of the least order of these numbers and of the least number of this order, twice None if none."""
+        return min([(self.order_of(code), code) for code in codes], default=(None, None))
 
     def order_of(self, code):
         """The least order at which the stand with a number is there."""

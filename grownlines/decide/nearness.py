@@ -32,6 +32,7 @@ class Nearness:
         # Wide enough for each point that is looked up: what comes with a near vector is at most twelve steps away.
         self.side = 6 * width * (abs(growth[0]) + abs(growth[1])) + 100
         self.points = _near_points(grid, width, self.bound)
+        self.spots = {point: place for place, point in enumerate(self.points)}
         self.places = {self.wide(point): place for place, point in enumerate(self.points)}
         self.bases = self._bases(scheme, own_reach)
         self._turned = {}

@@ -2,7 +2,7 @@
 
 from grownlines.decide.codes import Codes
 from grownlines.decide.found import Found
-from grownlines.decide.judged import are_kinds, has_all, runs_of
+from grownlines.decide.judged import told_of
 from grownlines.decide.nearness import Nearness
 from grownlines.decide.searches import chain_of, numbers_along, search
 from grownlines.decide.stands import seen_from, shows
@@ -18,7 +18,7 @@ def first_order(scheme, fault):
     """The first order of the scheme for a fault, None if it is clear of it."""
     check_scheme(scheme)
     check_fault(fault)
-    return Found(scheme, MAX_TABLE).order_with(fault)
+    return Found(scheme, MAX_TABLE, fault).order_with(fault)
 
 
 def is_clear(scheme, fault):
@@ -30,11 +30,10 @@ def paper(scheme, fault):
     """A paper for the scheme and a fault."""
     check_scheme(scheme)
     check_fault(fault)
-    found = Found(scheme, MAX_TABLE)
-    wrong = found.wrong(fault)
-    if len(wrong) == 0:
+    found = Found(scheme, MAX_TABLE, fault)
+    order, code = found.first_of(found.wrong(fault))
+    if order is None:
         return ("clear", found.codes.kinds, found.all_stands())
-    _, code = min([(found.order_of(code), code) for code in wrong])
     one, other = found.pair_of(scheme, code)
     return ("meets", one, other)
 
@@ -51,13 +50,8 @@ def is_paper(scheme, fault, value):
 
 
 def _is_clear_paper(scheme, fault, kinds, stands):
-    if not are_kinds(scheme, kinds):
-        return False
-    nearness = Nearness(scheme)
-    runs = runs_of(scheme, nearness, stands)
-    if runs is None or any([shows(scheme.grid, stand, fault) for stand in stands]):
-        return False
-    return has_all(scheme, nearness, kinds, runs)
+    told = told_of(scheme, kinds, stands)
+    return told is not None and not told.shows(fault) and told.is_complete()
 
 
 def _are_addresses(scheme, one, other):
@@ -102,12 +96,14 @@ def lift(scheme, one, other):
     if not nearness.is_near(start[3]):
         return None
     codes = Codes(scheme, nearness, kinds_from(scheme, start[:2]))
-    origins, pairs = search(codes, [codes.code_of(start)], 0, MAX_TABLE)
-    met = [code for code in codes.close_codes(pairs)
-           if code in origins and shows(scheme.grid, codes.seen(code), "point")]
+    found = search(codes, [codes.code_of(start)], MAX_TABLE, {})
+    if found is None:
+        raise TooMany(MAX_TABLE)
+    origins, pairs = found
+    met = [(len(chain_of(origins, code)), code) for code in codes.close_codes(pairs, "point") if code in origins]
     if len(met) == 0:
         return None
-    _, code = min([(len(chain_of(origins, code)), code) for code in met])
+    _, code = min(met)
     pairs = numbers_along(scheme, [codes.seen(own) for own in chain_of(origins, code)])
     return (len(one) - 1 + len(pairs), one + tuple([number for number, _ in pairs]),
             other + tuple([number for _, number in pairs]))

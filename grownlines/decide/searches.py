@@ -5,7 +5,6 @@ They go through the numbers of kinds and stands, in the order in which these are
 
 from grownlines.decide.codes import kind_code
 from grownlines.decide.stands import coming_stands, first_stands, stands_within
-from grownlines.errors import TooMany
 from grownlines.visits.kinds import first_visits, what_comes
 
 # How many numbers are followed until it is looked whether there are too many.
@@ -25,11 +24,11 @@ def _following(codes, origins, plan, part):
         if code < 0:
             row, sums = ([(0, own) for own in codes.coming_kinds(kind_code(code))], (0,))
         else:
-            pair, rest = divmod(code, size)
+            pair = code // size
             if pair not in pairs:
                 pairs[pair] = codes.pair(pair)
-            begin, sums = pairs[pair]
-            number = begin + rest
+            lead, sums = pairs[pair]
+            number = code + lead
             if number in rows:
                 row = rows[number]
             else:
@@ -43,22 +42,30 @@ def _following(codes, origins, plan, part):
     return found
 
 
-def search(codes, beginnings, kinds, most):
-    """All that comes from the beginnings, and the list of the pairs of the kinds of stands.
+def _level_after(codes, origins, plan, level, most):
+    """The list of all that comes from a level and was not found before, if not more than so many are found then."""
+    found = []
+    for at in range(0, len(level), _PART):
+        found.extend(_following(codes, origins, plan, level[at:at + _PART]))
+        if len(origins) > most:
+            return None
+    return found
+
+
+def search(codes, beginnings, most, goals):
+    """All that comes from the beginnings, and the list of the pairs of kinds of the stands from which something comes.
 
     That is the dict from the numbers, in the order in which they are found, to that from which each comes first,
-    None for a beginning. So many of the numbers are those of kinds.
+    None for a beginning. It ends with the order of the first one that is among the goals, if there is one.
+    It is None if more than so many are found.
     """
     origins = {code: None for code in beginnings}
-    waiting = list(origins)
     plan = ({}, {})
-    begin = 0
-    while begin < len(waiting):
-        part = waiting[begin:begin + _PART]
-        waiting.extend(_following(codes, origins, plan, part))
-        begin = begin + len(part)
-        if len(waiting) - kinds > most:
-            raise TooMany(most)
+    level = list(origins)
+    while len(level) > 0 and not any([code in goals for code in level]):
+        level = _level_after(codes, origins, plan, level, most)
+        if level is None:
+            return None
     return (origins, list(plan[0]))
 
 

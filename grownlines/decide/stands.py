@@ -1,6 +1,6 @@
 """Stands: what one visit sees of another one, and what it sees when both are followed."""
 
-from grownlines.base.points import minus, norm_in, plus, times, turned_by
+from grownlines.base.points import minus, norm_in, plus, take_turns, times, turned_by
 from grownlines.base.rules import is_turn
 from grownlines.base.words import is_point
 from grownlines.errors import InvalidOperation, InvalidStand
@@ -89,23 +89,28 @@ def is_shown(scheme, stand, fault):
 def shows(grid, stand, fault):
     """As `is_shown`, of a stand and a fault that are known to be such."""
     kind, other, turn, vector = stand
+    return (turn, vector) in showing(grid, fault) and may_show(grid, kind, other, turn, fault)
+
+
+def showing(grid, fault):
+    """The list of the pairs of a turn and a vector that stands which show a fault have, ascending."""
     if fault == "edge":
-        return _is_one_edge(grid, stand)
-    if vector != (0, 0):
-        return False
+        # The step out of the first visit leads from (0, 0) to the first unit.
+        return [(0, (0, 0)), (grid.half, grid.units[0])]
+    return [(turn, (0, 0)) for turn in range(len(grid.units))]
+
+
+def may_show(grid, kind, other, turn, fault):
+    """Whether a stand with these kinds and one of these pairs shows a fault."""
     if fault == "point":
+        return True
+    if kind[1] == "" or other[1] == "":
+        return False
+    if fault == "edge":
         return True
     ends = ends_of(grid, kind, 0)
     others = ends_of(grid, other, turn)
-    return ends is not None and others is not None and grid.alternate(ends, others)
-
-
-def _is_one_edge(grid, stand):
-    kind, other, turn, vector = stand
-    if kind[1] == "" or other[1] == "":
-        return False
-    # The step out of the first visit leads from (0, 0) to the first unit.
-    return (turn, vector) == (0, (0, 0)) or (turn, vector) == (grid.half, grid.units[0])
+    return ends is not None and others is not None and take_turns(len(grid.units), ends, others)
 
 
 def stands_among(grid, triples):

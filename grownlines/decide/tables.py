@@ -1,13 +1,14 @@
 """The table of a scheme: all stands that are not far of its lines of all orders."""
 
-from grownlines.base.points import minus, norm_in
+from grownlines.base.points import turned_by
 from grownlines.decide.found import Found
-from grownlines.decide.judged import are_kinds, has_all, runs_of
+from grownlines.decide.judged import told_of
 from grownlines.decide.nearness import Nearness
-from grownlines.decide.stands import far_norm, is_stand, reach, seen_from, shows
-from grownlines.errors import InvalidOperation, InvalidStand
-from grownlines.lines.grown import check_scheme
-from grownlines.visits.kinds import visits
+from grownlines.decide.stands import is_stand
+from grownlines.errors import InvalidOperation, InvalidStand, TooMany
+from grownlines.lines.grown import MAX_STEPS, check_order, check_scheme
+from grownlines.lines.pens import Pen
+from grownlines.visits.kinds import many_visits, sights_along
 from grownlines.visits.meetings import FAULTS, check_fault
 
 MAX_TABLE = 20000
@@ -16,13 +17,10 @@ MAX_TABLE = 20000
 def is_closed_under(scheme, kinds, stands):
     """Whether two tuples, of kinds and of stands, have all that must be there."""
     check_scheme(scheme)
-    if not are_kinds(scheme, kinds):
-        raise InvalidOperation("an ascending tuple of kinds is asked for")
-    nearness = Nearness(scheme)
-    runs = runs_of(scheme, nearness, stands)
-    if runs is None:
-        raise InvalidOperation("an ascending tuple of stands that are not far is asked for")
-    return has_all(scheme, nearness, kinds, runs)
+    told = told_of(scheme, kinds, stands)
+    if told is None:
+        raise InvalidOperation("ascending tuples of kinds and of stands that are not far are asked for")
+    return told.is_complete()
 
 
 def _first_order_text(order):
@@ -39,8 +37,9 @@ class Table:
         self.scheme = scheme
         self.kinds = found.codes.kinds
         self.stands = found.all_stands()
-        self._wrong = {fault: tuple(found.codes.stands_of(found.wrong(fault), found.pairs)) for fault in FAULTS}
-        self._first_orders = {fault: found.order_with(fault) for fault in FAULTS}
+        wrong = {fault: found.wrong(fault) for fault in FAULTS}
+        self._wrong = {fault: tuple([found.codes.seen(code) for code in wrong[fault]]) for fault in FAULTS}
+        self._first_orders = {fault: found.first_of(wrong[fault])[0] for fault in FAULTS}
 
     def _code(self, stand):
         """The number of a stand of the table."""
@@ -83,25 +82,43 @@ class Table:
         return f"table of {len(self.stands)} stands, first orders {', '.join(orders)}"
 
 
-def _cell_of(width, point):
-    return (point[0] // width, point[1] // width)
+def _turned_vectors(pen, nearness, direction):
+    """The dict from near vectors, as the pen tells them, to the vectors turned by a direction backward."""
+    grid = nearness.grid
+    return {pen.place_of(point): turned_by(grid, point, -direction) for point in nearness.points}
 
 
-def _around(cell):
-    return [(cell[0] + right, cell[1] + up) for right in (-1, 0, 1) for up in (-1, 0, 1)]
+def _near_visits(vectors, left, place):
+    """The dict from the numbers of the visits that are left and near a place to the vectors to them."""
+    # Either all near places are looked at, or all where visits are left.
+    if len(vectors) < len(left):
+        return {later: vectors[more] for more in vectors if place + more in left for later in left[place + more]}
+    return {later: vectors[other - place] for other in left if other - place in vectors for later in left[other]}
 
 
 def pairs_to(scheme, order):
     """The triples (number, number, stand) of all pairs of visits of an order, far stands left out."""
-    along = visits(scheme, order)
-    bound = far_norm(scheme)
-    # The parts of a vector that is not far are less than 6 / 5 of the reach, in both grids.
-    width = reach(scheme) + reach(scheme) // 5 + 1
-    cells = {}
-    for number, visit in enumerate(along):
-        cells.setdefault(_cell_of(width, visit[2]), []).append(number)
-    for number, visit in enumerate(along):
-        around = [own for cell in _around(_cell_of(width, visit[2])) for own in cells.get(cell, []) if own > number]
-        near = [own for own in around if norm_in(scheme.grid, minus(along[own][2], visit[2])) <= bound]
-        for later in sorted(near):
-            yield (number, later, seen_from(scheme.grid, visit, along[later]))
+    check_scheme(scheme)
+    check_order(order)
+    if many_visits(scheme, order) > MAX_STEPS:
+        raise TooMany(MAX_STEPS)
+    nearness = Nearness(scheme)
+    pen = Pen(scheme)
+    line = pen.line_of(order)
+    places = pen.visits_of(pen.places_of(line))
+    kinds, directions = sights_along(scheme, pen, line)
+    many = len(scheme.grid.units)
+    vectors = {direction: _turned_vectors(pen, nearness, direction) for direction in sorted(set(directions))}
+    left = {}
+    for number, place in enumerate(places):
+        left.setdefault(place, []).append(number)
+    for number, place in enumerate(places):
+        # The first number that is left here is this one.
+        left[place] = left[place][1:]
+        if len(left[place]) == 0:
+            del left[place]
+        direction = directions[number]
+        kind = kinds[number]
+        near = _near_visits(vectors[direction], left, place)
+        for later in sorted(list(near)):
+            yield (number, later, (kind, kinds[later], (directions[later] - direction) % many, near[later]))

@@ -92,7 +92,9 @@ def _grown_by(scheme, steps, order):
 
 
 def _replaced(scheme, steps):
-    return tuple([new for letter, direction in steps for new in scheme[letter].drawn(direction)])
+    # Each of the few different steps is replaced once only.
+    rows = {(letter, direction): scheme[letter].drawn(direction) for letter, direction in sorted(set(steps))}
+    return tuple([new for step in steps for new in rows[step]])
 
 
 def each_step(scheme, order):

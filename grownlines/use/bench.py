@@ -46,7 +46,7 @@ def _news(before, after):
 def _is_clear_if_known(scheme, fault):
     """Whether a scheme is clear of a fault; False if it has too many stands."""
     try:
-        return Found(scheme, MAX_TABLE).order_with(fault) is None
+        return Found(scheme, MAX_TABLE, fault).order_with(fault) is None
     except TooMany:
         return False
 

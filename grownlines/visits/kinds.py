@@ -87,6 +87,22 @@ def visits_along(scheme, steps):
     return _along(grid, None, steps, points) + [last]
 
 
+def sights_along(scheme, pen, line):
+    """The lists of the kinds and of the directions of the visits of a line that a pen has drawn."""
+    grid = scheme.grid
+    steps = pen.steps
+    befores = ([line[-1]] if scheme.is_closed else []) + line[:-1]
+    pairs = list(zip(befores, line[-len(befores):]))
+    known = {pair: kind_between(grid, steps[pair[0]], steps[pair[1]]) for pair in {pair: True for pair in pairs}}
+    kinds = [known[pair] for pair in pairs]
+    directions = [step % pen.many for step in line]
+    if scheme.is_closed:
+        return (kinds, directions)
+    first = kind_between(grid, None, steps[line[0]])
+    last = kind_between(grid, steps[line[-1]], None)
+    return ([first] + kinds + [last], directions + directions[-1:])
+
+
 def first_visits(scheme):
     """The list of the visits of the line of order 0."""
     return visits_along(scheme, scheme.axiom)
