@@ -1,10 +1,9 @@
 """The table of a scheme: all stands that are not far of its lines of all orders."""
 
-from grownlines.base.points import turned_by
 from grownlines.decide.found import Found
 from grownlines.decide.judged import told_of
 from grownlines.decide.nearness import Nearness
-from grownlines.decide.stands import is_stand
+from grownlines.decide.stands import is_stand, seen_from
 from grownlines.errors import InvalidOperation, InvalidStand, TooMany
 from grownlines.lines.grown import MAX_STEPS, check_order, check_scheme
 from grownlines.lines.pens import Pen
@@ -82,18 +81,12 @@ class Table:
         return f"table of {len(self.stands)} stands, first orders {', '.join(orders)}"
 
 
-def _turned_vectors(pen, nearness, direction):
-    """The dict from near vectors, as the pen tells them, to the vectors turned by a direction backward."""
-    grid = nearness.grid
-    return {pen.place_of(point): turned_by(grid, point, -direction) for point in nearness.points}
-
-
-def _near_visits(vectors, left, place):
-    """The dict from the numbers of the visits that are left and near a place to the vectors to them."""
+def _near_visits(steps, left, place):
+    """The dict from the numbers of the visits that are left and near a place to what is told of the step to them."""
     # Either all near places are looked at, or all where visits are left.
-    if len(vectors) < len(left):
-        return {later: vectors[more] for more in vectors if place + more in left for later in left[place + more]}
-    return {later: vectors[other - place] for other in left if other - place in vectors for later in left[other]}
+    if len(steps) < len(left):
+        return {later: steps[more] for more in steps if place + more in left for later in left[place + more]}
+    return {later: steps[other - place] for other in left if other - place in steps for later in left[other]}
 
 
 def pairs_to(scheme, order):
@@ -106,9 +99,10 @@ def pairs_to(scheme, order):
     pen = Pen(scheme)
     line = pen.line_of(order)
     places = pen.visits_of(pen.places_of(line))
-    kinds, directions = sights_along(scheme, pen, line)
-    many = len(scheme.grid.units)
-    vectors = {direction: _turned_vectors(pen, nearness, direction) for direction in sorted(set(directions))}
+    sights, sight_of = sights_along(scheme, pen, line)
+    # What one visit sees of another one is told by the index of the vector and by what the other one is.
+    steps = {pen.place_of(point): at * len(sights) for at, point in enumerate(nearness.points)}
+    seen = [{} for _ in sights]
     left = {}
     for number, place in enumerate(places):
         left.setdefault(place, []).append(number)
@@ -117,8 +111,17 @@ def pairs_to(scheme, order):
         left[place] = left[place][1:]
         if len(left[place]) == 0:
             del left[place]
-        direction = directions[number]
-        kind = kinds[number]
-        near = _near_visits(vectors[direction], left, place)
+        one = sight_of[number]
+        near = _near_visits(steps, left, place)
+        stands = seen[one]
         for later in sorted(list(near)):
-            yield (number, later, (kind, kinds[later], (directions[later] - direction) % many, near[later]))
+            told = near[later] + sight_of[later]
+            if told not in stands:
+                at, other = divmod(told, len(sights))
+                stands[told] = _stand_between(scheme.grid, sights[one], sights[other], nearness.points[at])
+            yield (number, later, stands[told])
+
+
+def _stand_between(grid, sight, other, vector):
+    """The stand of two visits, each told by its kind and its direction, with the vector between them."""
+    return seen_from(grid, (*sight, (0, 0)), (*other, vector))

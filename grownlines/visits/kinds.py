@@ -88,19 +88,25 @@ def visits_along(scheme, steps):
 
 
 def sights_along(scheme, pen, line):
-    """The lists of the kinds and of the directions of the visits of a line that a pen has drawn."""
-    grid = scheme.grid
+    """The list of the pairs of a kind and a direction that visits of a line have, and the list of which ones they have.
+
+    The line has been drawn by a pen.
+    """
     steps = pen.steps
-    befores = ([line[-1]] if scheme.is_closed else []) + line[:-1]
-    pairs = list(zip(befores, line[-len(befores):]))
-    known = {pair: kind_between(grid, steps[pair[0]], steps[pair[1]]) for pair in {pair: True for pair in pairs}}
-    kinds = [known[pair] for pair in pairs]
-    directions = [step % pen.many for step in line]
-    if scheme.is_closed:
-        return (kinds, directions)
-    first = kind_between(grid, None, steps[line[0]])
-    last = kind_between(grid, steps[line[-1]], None)
-    return ([first] + kinds + [last], directions + directions[-1:])
+    # Behind all steps stands what is beside the first and the last visit of an open line.
+    none = len(steps)
+    befores = line[-1:] + line[:-1] if scheme.is_closed else [none] + line
+    afters = line if scheme.is_closed else line + [none]
+    pairs = [before * (none + 1) + after for before, after in zip(befores, afters)]
+    beside = steps + [None]
+    known = {}
+    sights = []
+    for pair in sorted(set(pairs)):
+        before, after = divmod(pair, none + 1)
+        known[pair] = len(sights)
+        own = beside[before] if after == none else beside[after]
+        sights.append((kind_between(scheme.grid, beside[before], beside[after]), own[1]))
+    return (sights, [known[pair] for pair in pairs])
 
 
 def first_visits(scheme):
