@@ -7,6 +7,14 @@ from grownlines.errors import TooMany
 from grownlines.visits.kinds import first_visits, kinds_of
 
 
+def _goals(codes, possible, most, fault):
+    """The dict of the numbers of all stands that show a fault, if a search may end with the first of them."""
+    # Only if there cannot be too many stands, the last ones need not be counted.
+    if fault is None or len(possible) * codes.size > most:
+        return {}
+    return {code: True for code in codes.close_codes(possible, fault) if codes.shows(code, fault)}
+
+
 class Found:
     """The numbers of all kinds and stands of the table of a scheme; `firsts` are those of order 0, as often as there.
 
@@ -17,11 +25,8 @@ class Found:
     def __init__(self, scheme, most, fault=None):
         codes = Codes(scheme, Nearness(scheme), kinds_of(scheme))
         firsts = codes.first_codes(first_visits(scheme))
-        possible = codes.possible_pairs()
-        goals = {}
-        # Only if there cannot be too many stands, the last ones need not be counted.
-        if fault is not None and len(possible) * codes.size <= most:
-            goals = {code: True for code in codes.close_codes(possible, fault) if codes.shows(code, fault)}
+        possible = [] if fault is None else codes.possible_pairs()
+        goals = _goals(codes, possible, most, fault)
         found = search(codes, firsts, most + len(codes.kinds), goals)
         if found is None:
             raise TooMany(most)
