@@ -62,7 +62,7 @@ def search(codes, beginnings, most, goals):
     origins = {code: None for code in beginnings}
     plan = ({}, {})
     level = list(origins)
-    while len(level) > 0 and not any([code in goals for code in level]):
+    while len(level) > 0 and (len(goals) == 0 or not any([code in goals for code in level])):
         level = _level_after(codes, origins, plan, level, most)
         if level is None:
             return None
