@@ -22,6 +22,19 @@ def is_closed_under(scheme, kinds, stands):
     return told.is_complete()
 
 
+def _is_among(stands, stand):
+    """Whether a stand is one of these, which ascend."""
+    low = 0
+    high = len(stands)
+    while low < high:
+        middle = (low + high) // 2
+        if stands[middle] < stand:
+            low = middle + 1
+        else:
+            high = middle
+    return low < len(stands) and stands[low] == stand
+
+
 def _first_order_text(order):
     return "none" if order is None else str(order)
 
@@ -65,7 +78,7 @@ class Table:
         return self._first_orders[fault]
 
     def __contains__(self, value):
-        return is_stand(self.scheme, value) and self._found.codes.code_of(value) in self._found.origins
+        return is_stand(self.scheme, value) and _is_among(self.stands, value)
 
     def __len__(self):
         return len(self.stands)
