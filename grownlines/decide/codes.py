@@ -86,7 +86,7 @@ class Codes:
                 found.append((there - place, (0 if first > 0 else 2) + (0 if second > 0 else 1), rest, turned))
         return found
 
-    def row(self, number):
+    def row_at(self, number):
         """What comes from two families at a turn and a vector: pairs of which sum of a pair is added to a number.
 
         It stands in the order of the visits that come, and has no far stands.
@@ -120,7 +120,7 @@ class Codes:
                 pairs[pair] = self.pair(pair)
             lead, sums = pairs[pair]
             if code + lead not in rows:
-                rows[code + lead] = self.row(code + lead)
+                rows[code + lead] = self.row_at(code + lead)
             found.append([own + sums[which] for which, own in rows[code + lead]])
         return found
 

@@ -32,7 +32,7 @@ def _following(codes, origins, plan, part):
             if number in rows:
                 row = rows[number]
             else:
-                row = codes.row(number)
+                row = codes.row_at(number)
                 rows[number] = [(which, own) for which, own in row if which > 0]
         for which, own in row:
             new = own + sums[which]
