@@ -15,37 +15,40 @@ def _are_kinds(scheme, value):
     return isinstance(value, tuple) and all([is_kind(scheme, kind) for kind in value]) and _ascends(value)
 
 
-def _is_flag(value):
-    """Whether the value is True or False, which are integers for Python, equal to 1 and 0, but not here."""
-    return value is True or value is False
+def _tails_of(nearness, pairs):
+    """The numbers of pairs of a turn and a vector that is not far, of any values; None if they are none.
 
-
-def _tail_of(nearness, turn, vector):
-    """The number of a turn and a vector that is not far, of any values; None if they are none.
-
-    These numbers ascend as the pairs do.
+    Such a number is the less, the less the pair is, and they must ascend.
     """
-    if not isinstance(turn, int) or not isinstance(vector, tuple) or len(vector) != 2:
-        return None
-    x, y = vector
-    if not isinstance(x, int) or not isinstance(y, int) or turn < 0 or turn >= len(nearness.grid.units):
-        return None
-    if turn is True or turn is False or x is True or x is False or y is True or y is False:
-        return None
-    if vector not in nearness.spots:
-        return None
-    return turn * len(nearness.points) + nearness.spots[vector]
+    many = len(nearness.grid.units)
+    span = len(nearness.points)
+    spots = nearness.spots
+    last = -1
+    tails = []
+    for turn, vector in pairs:
+        if not isinstance(turn, int) or not isinstance(vector, tuple) or len(vector) != 2:
+            return None
+        x, y = vector
+        if not isinstance(x, int) or not isinstance(y, int) or turn < 0 or turn >= many or vector not in spots:
+            return None
+        # True and False are integers for Python, but not here.
+        if turn is True or turn is False or x is True or x is False or y is True or y is False:
+            return None
+        tail = turn * span + spots[vector]
+        if tail <= last:
+            return None
+        last = tail
+        tails.append(tail)
+    return tails
 
 
-def _runs_of(scheme, nearness, value):
-    """An ascending tuple of stands that are not far, by their kinds: triples of two kinds and of the list of the rest.
+def _parted(scheme, value):
+    """The members of a tuple, by their kinds: triples of two kinds and of the list of the rest of each.
 
-    It is None for every other value.
+    It is None if one of them does not begin with two kinds, or has not the number of parts of a stand.
     """
-    if not isinstance(value, tuple):
-        return None
     runs = []
-    kind = other = tails = None
+    kind = other = rest = None
     for stand in value:
         if not isinstance(stand, tuple) or len(stand) != 4:
             return None
@@ -55,15 +58,27 @@ def _runs_of(scheme, nearness, value):
                 return None
             kind = first
             other = second
-            tails = []
-            runs.append((kind, other, tails))
-        elif _is_flag(first[2]) or _is_flag(second[2]):
+            rest = []
+            runs.append((kind, other, rest))
+        # What is equal to a kind may have True or False as its turn.
+        elif first[2] is True or first[2] is False or second[2] is True or second[2] is False:
             return None
-        tail = _tail_of(nearness, turn, vector)
-        if tail is None or len(tails) > 0 and tail <= tails[-1]:
-            return None
-        tails.append(tail)
-    return runs if _ascends([(kind, other) for kind, other, tails in runs]) else None
+        rest.append((turn, vector))
+    return runs
+
+
+def _runs_of(scheme, nearness, value):
+    """An ascending tuple of stands that are not far, by their kinds: triples of two kinds and of the list of the rest.
+
+    It is None for every other value.
+    """
+    parted = _parted(scheme, value) if isinstance(value, tuple) else None
+    if parted is None:
+        return None
+    runs = [(kind, other, _tails_of(nearness, rest)) for kind, other, rest in parted]
+    if any([tails is None for _, _, tails in runs]) or not _ascends([(kind, other) for kind, other, _ in runs]):
+        return None
+    return runs
 
 
 class Told:
