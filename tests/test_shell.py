@@ -121,7 +121,7 @@ class Commands(unittest.TestCase):
                 ("waive late edge 201", "operation"), ("waive late edge 199", "operation"),
                 ("demand clear point", "refused clear point"), ("demand late point 5", "refused late point 5"),
                 ("demand draws x", "line"), ("demand draws ", "line"), ("demand draws " + DRAGON_LINES + ", ", "line"),
-                ("demand draws " + DRAGON_LINES.replace(", ", ","), "line"), ("demand draws grid square", "line"),
+                ("demand draws " + DRAGON_LINES.replace(", ", ","), "line"), ("demand draws grid square", "scheme"),
                 ("waive draws x", "line"), ("waive draws " + DRAGON_LINES, "operation"),
                 ("demand draws " + ", ".join(LEVY.lines), "refused draws " + ", ".join(LEVY.lines)),
                 ("demand draws " + ", ".join(DRAGON.lines[::-1]), "nothing"), ("waive late edge 200", "nothing")]:
@@ -129,6 +129,32 @@ class Commands(unittest.TestCase):
             self.assertEqual(shell(command), expected, command)
             wrong = expected.split(" ")[0] in [*WORDS.values(), "many", "refused"]
             self.assertEqual(len(shell) - before, 0 if wrong else 1, command)
+
+    def test_lines_that_are_none_and_lines_without_a_scheme(self):
+        shell = Shell(write_scheme(DRAGON))
+        shell("demand clear edge")
+        rules = [f"rule {letter} {letter}0 {letter}0" for letter in "abcdefg"]
+        for texts, expected in [
+                ("a", "line"), ("", "line"), ("grid square, axiom a", "line"), ("grid square, grid square", "line"),
+                ("axiom a0, axiom a0, rule a a0 b1", "line"), ("rule a a0 b1, rule a a0 b1", "line"),
+                ("grid square, axiom a0, ", "line"), ("grid square,axiom a0", "line"), ("axiom a0, rule a a0", "line"),
+                ("grid square", "scheme"), ("axiom a0", "scheme"), ("rule a a0 a1", "scheme"),
+                ("grid square, axiom a0", "scheme"), ("axiom a0, rule a a0 a1", "scheme"),
+                ("grid square, axiom a0, rule a a0 b1", "scheme"), ("grid square, axiom a0, rule b b0 b1", "scheme"),
+                ("grid square, axiom a0, rule a a0 a2", "scheme"), ("grid square, axiom a0, rule a a0 a4", "scheme"),
+                ("grid square, axiom a5, rule a a0 a0", "scheme"),
+                ("grid triangle, axiom a0, rule a a0 a2", "scheme"),
+                ("grid square, axiom a0, rule a a0 b1, rule b b0 b0", "scheme"),
+                (", ".join(["grid square", "axiom a0"] + rules), "scheme"),
+                (", ".join(["grid square", "axiom a0"] + rules + ["x"]), "line")]:
+            with self.assertRaises({"line": ParseError, "scheme": InvalidScheme}[expected]):
+                Scheme.from_lines(*texts.split(", "))
+            for word in ("demand", "waive"):
+                self.assertEqual(shell(f"{word} draws {texts}"), expected, texts)
+        self.assertEqual(len(shell), 1)
+        self.assertEqual(shell("pledges"), "clear edge")
+        self.assertEqual(shell("undo"), "nothing")
+        self.assertEqual([shell("undo"), shell("pledges")], ["undo", "nothing"])
 
     def test_too_many(self):
         shell = Shell(write_scheme(DRAGON))

@@ -28,10 +28,7 @@ def _news_text(news):
 def _scheme_of(text):
     """The scheme of which these are the lines, with commas between them."""
     lines = text.split(", ")
-    try:
-        return Scheme.from_lines(*lines)
-    except InvalidScheme:
-        raise ParseError(None) from None
+    return Scheme.from_lines(*lines)
 
 
 def _pledge_text(pledge):
