@@ -7,9 +7,15 @@ Kinds from which the same comes, but for the visit number 0, are one family. Wha
 stand is the same for all stands with equal families, turns and vectors, but for the ranks of the visits number 0.
 """
 
-from grownlines.base.points import turned_by
+from math import isqrt
+
+from grownlines.base.points import norm_in, times, turned_by
 from grownlines.decide.stands import may_show, showing
-from grownlines.visits.kinds import what_comes
+
+
+def twice_dot(grid, one, other):
+    """What the norm of the sum of two points has more than both norms."""
+    return (2 * one[0] * other[0] + grid.slant * (one[0] * other[1] + one[1] * other[0]) + 2 * one[1] * other[1])
 
 
 def kind_code(rank):
@@ -25,10 +31,11 @@ def _families(children):
 
 
 class Codes:
-    """The numbers of kinds, of which only kinds among them come, and of the stands between them."""
+    """The numbers of kinds, which are told with what comes from each, and of the stands between them."""
 
-    def __init__(self, scheme, nearness, kinds):
-        children = [what_comes(scheme, kind) for kind in kinds]
+    def __init__(self, scheme, nearness, coming):
+        kinds = tuple(sorted(list(coming)))
+        children = [coming[kind] for kind in kinds]
         self.nearness = nearness
         self.kinds = kinds
         self.ranks = {kind: rank for rank, kind in enumerate(kinds)}
@@ -36,20 +43,24 @@ class Codes:
         self.span = len(nearness.points)
         self.size = self.span * len(scheme.grid.units)
         self._many = len(scheme.grid.units)
+        # The ranks of the kinds of what comes with the number 0.
+        self._heirs = [self.ranks[own[0][0]] for own in children]
         self._families, self._rows = _families(children)
-        self._blocks = {}
+        self._firsts = {}
+        self._circles = {}
 
     def among(self, triples):
         """The list of the numbers of the stands of all pairs of these visits, in their order, far ones left out."""
         nearness = self.nearness
-        seen = [(self.ranks[kind], turn, nearness.wide(point)) for kind, turn, point in triples]
+        high = len(self.kinds) * self.size
+        spans = [turn * self.span for turn in range(self._many)]
+        seen = [(self.ranks[kind], turn % self._many, nearness.wide(point)) for kind, turn, point in triples]
         found = []
         for at, (rank, turn, place) in enumerate(seen):
             turned = nearness.turned(turn)
-            for other, more, there in seen[at + 1:]:
-                if there - place in turned:
-                    pair = rank * len(self.kinds) + other
-                    found.append(pair * self.size + (more - turn) % self._many * self.span + turned[there - place])
+            # A place before the first one of a list is counted from its end.
+            found.extend([rank * high + other * self.size + spans[more - turn] + turned[there - place]
+                          for other, more, there in seen[at + 1:] if there - place in turned])
         return found
 
     def first_codes(self, triples):
@@ -57,72 +68,118 @@ class Codes:
         return [kind_code(self.ranks[kind]) for kind, turn, point in triples] + self.among(triples)
 
     def pair(self, number):
-        """What leads from the numbers of stands with two kinds to their rows, and what is added to those in a row."""
-        one, other = divmod(number, len(self.kinds))
-        families = self._families[one] * len(self._rows) + self._families[other]
-        high = self.ranks[self.children[one][0][0]] * len(self.kinds) * self.size
-        low = self.ranks[self.children[other][0][0]] * self.size
-        return ((families - number) * self.size, (0, low, high, high + low))
+        """The number of the families of a pair of kinds, and what is added to what stands in a row of theirs."""
+        many = len(self.kinds)
+        one = number // many
+        other = number % many
+        high = self._heirs[one] * many * self.size
+        low = self._heirs[other] * self.size
+        return (self._families[one] * len(self._rows) + self._families[other], (0, low, high, high + low))
 
-    def _block(self, number):
+    def most_pairs(self):
+        """How many pairs of visits come at most from two families."""
+        return max([len(row) for row in self._rows]) ** 2
+
+    def block(self, families, turn):
         """What comes from two families at a turn, by pairs of a visit from the first and of one from the other.
 
-        That is the vector between them as an integer, if the families are at one point, which of the sums of a pair
-        is added, the rest of the number without its place, and the places of near points, turned backward.
+        That is the vector between them as an integer, if the families are at one point, the places of near points,
+        turned backward, which of the sums of a pair is added, and the rest of the number without its place.
         """
-        families, turn = divmod(number, self._many)
         one, other = divmod(families, len(self._rows))
-        nearness = self.nearness
-        seconds = [(second, self.ranks[kind] * self.size, turn + more,
-                    nearness.wide(turned_by(nearness.grid, start, turn)))
-                   for second, (kind, more, start) in enumerate(self._rows[other])]
-        found = []
-        for first, (kind, back, start) in enumerate(self._rows[one]):
-            high = self.ranks[kind] * len(self.kinds) * self.size
-            place = nearness.wide(start)
-            turned = nearness.turned(back)
-            for second, low, own, there in seconds:
-                rest = (high if first > 0 else 0) + (low if second > 0 else 0) + (own - back) % self._many * self.span
-                found.append((there - place, (0 if first > 0 else 2) + (0 if second > 0 else 1), rest, turned))
-        return found
+        spans = [more * self.span for more in range(self._many)]
+        seconds = self._seconds_of(other, turn)
+        # A place before the first one of a list is counted from its end.
+        return [(there - place, turned, sums - inner, high + low + spans[own - back])
+                for sums, high, back, place, turned in self._firsts_of(one) for inner, low, own, there in seconds]
 
-    def row_at(self, number):
+    def steps_in(self, families, turn):
+        """As `block`, but for all vectors with the places to which they lead, instead of what is told of vectors."""
+        one, other = divmod(families, len(self._rows))
+        spans = [more * self.span for more in range(self._many)]
+        seconds = self._seconds_of(other, turn)
+        return [(self.nearness.steps(there - place, back), sums - inner, high + low + spans[own - back])
+                for sums, high, back, place, _ in self._firsts_of(one) for inner, low, own, there in seconds]
+
+    def _seconds_of(self, family, turn):
+        """What is told of the visits that come from a family at a turn, as of the other one of a pair."""
+        right, up = self.nearness.axes(turn)
+        return [(1 if second > 0 else 0, self.ranks[kind] * self.size if second > 0 else 0,
+                 (turn + more) % self._many, x * right + y * up)
+                for second, (kind, more, (x, y)) in enumerate(self._rows[family])]
+
+    def _firsts_of(self, family):
+        """What is told of the visits that come from a family, as of the first one of a pair."""
+        if family not in self._firsts:
+            nearness = self.nearness
+            high = len(self.kinds) * self.size
+            self._firsts[family] = [
+                (1 if first > 0 else 3, self.ranks[kind] * high if first > 0 else 0, back, nearness.wide(start),
+                 nearness.turned(back)) for first, (kind, back, start) in enumerate(self._rows[family])]
+        return self._firsts[family]
+
+    def row_in(self, block, place):
         """What comes from two families at a turn and a vector: pairs of which sum of a pair is added to a number.
 
         It stands in the order of the visits that come, and has no far stands.
         """
-        block, place = divmod(number, self.span)
-        nearness = self.nearness
-        base = nearness.bases[place]
-        if base is None:
-            return []
-        if block not in self._blocks:
-            self._blocks[block] = self._block(block)
-        near = nearness.places
-        return [(which, rest + turned[base + more]) for more, which, rest, turned in self._blocks[block]
-                if base + more in near]
+        base = self.nearness.bases[place]
+        near = self.nearness.places
+        return [(which, rest + turned[base + more]) for more, turned, which, rest in block if base + more in near]
+
+    def block_of(self, code):
+        """The block of a stand, and what is added to what stands in its rows."""
+        families, sums = self.pair(code // self.size)
+        return (self.block(families, code % self.size // self.span), sums)
+
+    def numbers_to(self, code, own):
+        """The pair of numbers with which one stand comes from another one."""
+        block, sums = self.block_of(code)
+        base = self.nearness.bases[code % self.span]
+        near = self.nearness.places
+        found = [at for at, (more, turned, which, rest) in enumerate(block)
+                 if base + more in near and rest + turned[base + more] + sums[which] == own]
+        many = len(self.children[code // self.size % len(self.kinds)])
+        return divmod(found[0], many)
+
+    def _circle_of(self, family):
+        """A circle around all points at which visits come from a family: how many, their sum, and a greatest norm.
+
+        That is the norm of a point, taken so many times, less the sum: all points are at most so far from their mean.
+        """
+        if family not in self._circles:
+            grid = self.nearness.grid
+            starts = [start for kind, turn, start in self._rows[family]]
+            many = len(starts)
+            x = sum([start[0] for start in starts])
+            y = sum([start[1] for start in starts])
+            norm = max([norm_in(grid, (many * start[0] - x, many * start[1] - y)) for start in starts])
+            self._circles[family] = (many, (x, y), norm)
+        return self._circles[family]
+
+    def bounds(self, families, turn):
+        """What tells that vectors are so great that nothing comes from two families at a turn.
+
+        That are four integers: if the norm of the product of a vector with the growth, taken so many times as the first
+        one tells, plus the parts of the vector, times the next two, is above the last one, nothing near comes.
+        """
+        grid = self.nearness.grid
+        growth = self.nearness.growth
+        one, other = divmod(families, len(self._rows))
+        few, mean, norm = self._circle_of(one)
+        many, middle, most = self._circle_of(other)
+        # All is taken so often that both means are points of the grid. Roots are rounded up.
+        often = few * many
+        reach = often * self.nearness.reach + isqrt(many * many * norm) + isqrt(few * few * most) + 2
+        x, y = turned_by(grid, middle, turn)
+        center = (few * x - many * mean[0], few * y - many * mean[1])
+        right = twice_dot(grid, growth, center)
+        up = twice_dot(grid, times(grid, (0, 1), growth), center)
+        return (often, right, up, (reach * reach - norm_in(grid, center)) // often)
 
     def coming_kinds(self, rank):
         """The list of the numbers of all kinds and stands that come from a visit of the kind with this rank."""
         return self.first_codes(self.children[rank])
-
-    def all_coming(self, codes):
-        """The list of the lists of the numbers of all that comes from these ones, far stands left out."""
-        rows = {}
-        pairs = {}
-        found = []
-        for code in codes:
-            if code < 0:
-                found.append(self.coming_kinds(kind_code(code)))
-                continue
-            pair = code // self.size
-            if pair not in pairs:
-                pairs[pair] = self.pair(pair)
-            lead, sums = pairs[pair]
-            if code + lead not in rows:
-                rows[code + lead] = self.row_at(code + lead)
-            found.append([own + sums[which] for which, own in rows[code + lead]])
-        return found
 
     def seen(self, code):
         """The kind or the stand with a number."""
@@ -158,11 +215,28 @@ class Codes:
         kind, other, turn, _ = self.seen(code)
         return may_show(self.nearness.grid, kind, other, turn, fault)
 
-    def code_of(self, stand):
-        """The number of a tuple that has the form of a stand; None if it is far, or its kinds are none of these."""
-        kind, other, turn, vector = stand
-        nearness = self.nearness
-        if kind not in self.ranks or other not in self.ranks or not nearness.is_near(vector):
+    def code_of(self, value):
+        """The number of a stand that is not far and has kinds among these; None for every other value."""
+        if not isinstance(value, tuple) or len(value) != 4:
             return None
-        pair = self.ranks[kind] * len(self.kinds) + self.ranks[other]
-        return pair * self.size + turn * self.span + nearness.places[nearness.wide(vector)]
+        kind, other, turn, vector = value
+        if not isinstance(kind, tuple) or not isinstance(other, tuple) or not isinstance(vector, tuple):
+            return None
+        if len(kind) != 3 or len(other) != 3 or len(vector) != 2:
+            return None
+        before, after, bend = kind
+        last, following, angle = other
+        x, y = vector
+        if (not isinstance(before, str) or not isinstance(after, str) or not isinstance(last, str)
+                or not isinstance(following, str) or not isinstance(bend, int) or not isinstance(angle, int)
+                or not isinstance(turn, int) or not isinstance(x, int) or not isinstance(y, int)):
+            return None
+        # True and False are integers for Python, but not here.
+        if (bend is True or bend is False or angle is True or angle is False or turn is True or turn is False
+                or x is True or x is False or y is True or y is False or not 0 <= turn < self._many):
+            return None
+        try:
+            return ((self.ranks[kind] * len(self.kinds) + self.ranks[other]) * self.size + turn * self.span
+                    + self.nearness.spots[vector])
+        except KeyError:
+            return None

@@ -2,17 +2,17 @@
 
 from grownlines.decide.codes import Codes
 from grownlines.decide.nearness import Nearness
-from grownlines.decide.searches import chain_of, first_numbers, numbers_along, search
+from grownlines.decide.searches import all_coming, chain_of, first_numbers, numbers_along, search
 from grownlines.errors import TooMany
-from grownlines.visits.kinds import first_visits, kinds_of
+from grownlines.visits.kinds import children_from, first_visits
 
 
 def _goals(codes, possible, most, fault):
-    """The dict of the numbers of all stands that show a fault, if a search may end with the first of them."""
+    """The dict of the numbers of all stands that may show a fault, if a search may end with the first that does."""
     # Only if there cannot be too many stands, the last ones need not be counted.
     if fault is None or len(possible) * codes.size > most:
         return {}
-    return {code: True for code in codes.close_codes(possible, fault) if codes.shows(code, fault)}
+    return {code: True for code in codes.close_codes(possible, fault)}
 
 
 class Found:
@@ -23,17 +23,18 @@ class Found:
     """
 
     def __init__(self, scheme, most, fault=None):
-        codes = Codes(scheme, Nearness(scheme), kinds_of(scheme))
-        firsts = codes.first_codes(first_visits(scheme))
+        visits = first_visits(scheme)
+        codes = Codes(scheme, Nearness(scheme), children_from(scheme, [kind for kind, _, _ in visits]))
+        firsts = codes.first_codes(visits)
         possible = [] if fault is None else codes.possible_pairs()
         goals = _goals(codes, possible, most, fault)
-        found = search(codes, firsts, most + len(codes.kinds), goals)
+        found = search(codes, firsts, most + len(codes.kinds), goals, fault)
         if found is None:
             raise TooMany(most)
         self.codes = codes
         self.firsts = firsts
-        self.origins = found[0]
-        self._pairs = found[1] if len(goals) == 0 else possible
+        self.origins, self.levels, pairs = found
+        self._pairs = pairs if len(goals) == 0 else possible
 
     def wrong(self, fault):
         """The ascending list of the numbers of the stands that show a fault."""
@@ -60,8 +61,8 @@ class Found:
 
     def pair_of(self, scheme, code):
         """The addresses of two visits of this order with this stand."""
-        chain = [self.codes.seen(own) for own in chain_of(self.origins, code)]
-        pairs = [first_numbers(scheme, chain[0])] + numbers_along(scheme, chain)
+        chain = chain_of(self.origins, code)
+        pairs = [first_numbers(scheme, self.codes.seen(chain[0]))] + numbers_along(self.codes, scheme, chain)
         return (tuple([one for one, other in pairs]), tuple([other for one, other in pairs]))
 
     def indexes(self):
@@ -71,4 +72,4 @@ class Found:
     def rows(self):
         """For each place the list of the places of what comes from it."""
         places = self.indexes()
-        return [[places[own] for own in row] for row in self.codes.all_coming(self.origins)]
+        return [[places[own] for own in row] for row in all_coming(self.codes, self.origins)]

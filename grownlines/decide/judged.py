@@ -1,9 +1,10 @@
 """Kinds and stands that are passed: whether they have the right forms, and all that they must have."""
 
+from grownlines.base.rules import is_turn
+from grownlines.decide.closed import is_complete
 from grownlines.decide.codes import Codes, kind_code
 from grownlines.decide.nearness import Nearness
-from grownlines.decide.searches import is_complete
-from grownlines.visits.kinds import first_visits, is_kind, kinds_from
+from grownlines.visits.kinds import children_from, first_visits, is_kind
 
 
 def _ascends(values):
@@ -15,69 +16,49 @@ def _are_kinds(scheme, value):
     return isinstance(value, tuple) and all([is_kind(scheme, kind) for kind in value]) and _ascends(value)
 
 
-def _tails_of(nearness, pairs):
-    """The numbers of pairs of a turn and a vector that is not far, of any values; None if they are none.
+def _runs_of(scheme, nearness, value):
+    """An ascending tuple of stands that are not far, by their kinds and turns; None for every other value.
 
-    Such a number is the less, the less the pair is, and they must ascend.
+    That is the list of the quadruples of two kinds, a turn, and the list of the places of all vectors with these.
     """
-    many = len(nearness.grid.units)
-    span = len(nearness.points)
     spots = nearness.spots
-    last = -1
-    tails = []
-    for turn, vector in pairs:
-        if not isinstance(turn, int) or not isinstance(vector, tuple) or len(vector) != 2:
-            return None
-        x, y = vector
-        if not isinstance(x, int) or not isinstance(y, int) or turn < 0 or turn >= many or vector not in spots:
-            return None
-        # True and False are integers for Python, but not here.
-        if turn is True or turn is False or x is True or x is False or y is True or y is False:
-            return None
-        tail = turn * span + spots[vector]
-        if tail <= last:
-            return None
-        last = tail
-        tails.append(tail)
-    return tails
-
-
-def _parted(scheme, value):
-    """The members of a tuple, by their kinds: triples of two kinds and of the list of the rest of each.
-
-    It is None if one of them does not begin with two kinds, or has not the number of parts of a stand.
-    """
     runs = []
-    kind = other = rest = None
+    kind = other = own = places = None
+    last = -1
     for stand in value:
         if not isinstance(stand, tuple) or len(stand) != 4:
             return None
         first, second, turn, vector = stand
-        if len(runs) == 0 or first != kind or second != other:
+        if first != kind or second != other:
             if not is_kind(scheme, first) or not is_kind(scheme, second):
+                return None
+            if len(runs) > 0 and (kind, other) > (first, second):
                 return None
             kind = first
             other = second
-            rest = []
-            runs.append((kind, other, rest))
-        # What is equal to a kind may have True or False as its turn.
+            own = -1
+        # What is equal to a kind or a turn may have True or False in it.
         elif first[2] is True or first[2] is False or second[2] is True or second[2] is False:
             return None
-        rest.append((turn, vector))
-    return runs
-
-
-def _runs_of(scheme, nearness, value):
-    """An ascending tuple of stands that are not far, by their kinds: triples of two kinds and of the list of the rest.
-
-    It is None for every other value.
-    """
-    parted = _parted(scheme, value) if isinstance(value, tuple) else None
-    if parted is None:
-        return None
-    runs = [(kind, other, _tails_of(nearness, rest)) for kind, other, rest in parted]
-    if any([tails is None for _, _, tails in runs]) or not _ascends([(kind, other) for kind, other, _ in runs]):
-        return None
+        if turn != own:
+            if not is_turn(scheme.grid, turn) or turn < own:
+                return None
+            own = turn
+            places = []
+            last = -1
+            runs.append((kind, other, own, places))
+        elif turn is True or turn is False:
+            return None
+        if not isinstance(vector, tuple) or len(vector) != 2:
+            return None
+        x, y = vector
+        if not isinstance(x, int) or not isinstance(y, int) or x is True or x is False or y is True or y is False:
+            return None
+        place = spots.get(vector, -1)
+        if place <= last:
+            return None
+        last = place
+        places.append(place)
     return runs
 
 
@@ -87,25 +68,25 @@ class Told:
     def __init__(self, scheme, nearness, kinds, runs):
         first = first_visits(scheme)
         met = [kind for kind, turn, point in first] + [kind for run in runs for kind in run[:2]]
-        codes = Codes(scheme, nearness, kinds_from(scheme, list(kinds) + met))
-        pairs = [codes.ranks[kind] * len(codes.kinds) + codes.ranks[other] for kind, other, tails in runs]
-        known = [kind_code(codes.ranks[kind]) for kind in kinds]
-        for pair, (kind, other, tails) in zip(pairs, runs):
-            known.extend([pair * codes.size + tail for tail in tails])
+        codes = Codes(scheme, nearness, children_from(scheme, list(kinds) + met))
+        ranks = codes.ranks
+        turns = len(scheme.grid.units)
         self._codes = codes
         self._firsts = codes.first_codes(first)
-        self._known = known
-        self._pairs = pairs
+        self._kinds = [kind_code(ranks[kind]) for kind in kinds]
+        self._runs = {(ranks[kind] * len(ranks) + ranks[other]) * turns + turn: places
+                      for kind, other, turn, places in runs}
 
     def shows(self, fault):
         """Whether one of the stands shows a fault."""
-        known = {code: True for code in self._known}
-        return any([code in known and self._codes.shows(code, fault)
-                    for code in self._codes.close_codes(self._pairs, fault)])
+        codes = self._codes
+        pairs = list({head * codes.span // codes.size: True for head in self._runs})
+        return any([code % codes.span in self._runs.get(code // codes.span, ()) and codes.shows(code, fault)
+                    for code in codes.close_codes(pairs, fault)])
 
     def is_complete(self):
         """Whether they have all kinds and stands of order 0, and all that come from them."""
-        return is_complete(self._codes, self._firsts, self._known)
+        return is_complete(self._codes, self._firsts, self._kinds, self._runs)
 
 
 def told_of(scheme, kinds, stands):
@@ -113,5 +94,5 @@ def told_of(scheme, kinds, stands):
     if not _are_kinds(scheme, kinds):
         return None
     nearness = Nearness(scheme)
-    runs = _runs_of(scheme, nearness, stands)
+    runs = _runs_of(scheme, nearness, stands) if isinstance(stands, tuple) else None
     return None if runs is None else Told(scheme, nearness, kinds, runs)

@@ -10,7 +10,7 @@ from grownlines.decide.tables import MAX_TABLE
 from grownlines.errors import InvalidOperation, TooMany
 from grownlines.lines.grown import MAX_ORDER, check_scheme
 from grownlines.lines.places import leads_to_visit
-from grownlines.visits.kinds import MAX_ADDRESS_ORDER, kinds_from, many_visits, visit_by
+from grownlines.visits.kinds import MAX_ADDRESS_ORDER, children_from, many_visits, visit_by
 from grownlines.visits.meetings import MAX_FORCE, check_fault, meetings
 
 
@@ -95,15 +95,15 @@ def lift(scheme, one, other):
     nearness = Nearness(scheme)
     if not nearness.is_near(start[3]):
         return None
-    codes = Codes(scheme, nearness, kinds_from(scheme, start[:2]))
-    found = search(codes, [codes.code_of(start)], MAX_TABLE, {})
+    codes = Codes(scheme, nearness, children_from(scheme, start[:2]))
+    found = search(codes, [codes.code_of(start)], MAX_TABLE, {}, "point")
     if found is None:
         raise TooMany(MAX_TABLE)
-    origins, pairs = found
+    origins, _, pairs = found
     met = [(len(chain_of(origins, code)), code) for code in codes.close_codes(pairs, "point") if code in origins]
     if len(met) == 0:
         return None
     _, code = min(met)
-    pairs = numbers_along(scheme, [codes.seen(own) for own in chain_of(origins, code)])
+    pairs = numbers_along(codes, scheme, chain_of(origins, code))
     return (len(one) - 1 + len(pairs), one + tuple([number for number, _ in pairs]),
             other + tuple([number for _, number in pairs]))

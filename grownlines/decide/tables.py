@@ -3,7 +3,7 @@
 from grownlines.decide.found import Found
 from grownlines.decide.judged import told_of
 from grownlines.decide.nearness import Nearness
-from grownlines.decide.stands import is_stand, seen_from
+from grownlines.decide.stands import seen_from
 from grownlines.errors import InvalidOperation, InvalidStand, TooMany
 from grownlines.lines.grown import MAX_STEPS, check_order, check_scheme
 from grownlines.lines.pens import Pen
@@ -22,19 +22,6 @@ def is_closed_under(scheme, kinds, stands):
     return told.is_complete()
 
 
-def _is_among(stands, stand):
-    """Whether a stand is one of these, which ascend."""
-    low = 0
-    high = len(stands)
-    while low < high:
-        middle = (low + high) // 2
-        if stands[middle] < stand:
-            low = middle + 1
-        else:
-            high = middle
-    return low < len(stands) and stands[low] == stand
-
-
 def _first_order_text(order):
     return "none" if order is None else str(order)
 
@@ -46,22 +33,25 @@ class Table:
         check_scheme(scheme)
         found = Found(scheme, MAX_TABLE)
         self._found = found
+        self._orders = {code: order for order, level in enumerate(found.levels) for code in level}
         self.scheme = scheme
         self.kinds = found.codes.kinds
         self.stands = found.all_stands()
         wrong = {fault: found.wrong(fault) for fault in FAULTS}
         self._wrong = {fault: tuple([found.codes.seen(code) for code in wrong[fault]]) for fault in FAULTS}
-        self._first_orders = {fault: found.first_of(wrong[fault])[0] for fault in FAULTS}
+        self._first_orders = {fault: min([self._orders[code] for code in wrong[fault]], default=None)
+                              for fault in FAULTS}
 
     def _code(self, stand):
         """The number of a stand of the table."""
-        if stand not in self:
+        code = self._found.codes.code_of(stand)
+        if code not in self._orders:
             raise InvalidStand("a stand of the table is asked for")
-        return self._found.codes.code_of(stand)
+        return code
 
     def order_of(self, stand):
         """The least order at which two visits of a line have this stand."""
-        return self._found.order_of(self._code(stand))
+        return self._orders[self._code(stand)]
 
     def pair_of(self, stand):
         """The addresses of two visits of this order with this stand."""
@@ -78,7 +68,7 @@ class Table:
         return self._first_orders[fault]
 
     def __contains__(self, value):
-        return is_stand(self.scheme, value) and _is_among(self.stands, value)
+        return self._found.codes.code_of(value) in self._orders
 
     def __len__(self):
         return len(self.stands)

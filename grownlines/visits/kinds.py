@@ -43,14 +43,19 @@ def kinds_of(scheme):
 
 def kinds_from(scheme, kinds):
     """The ascending tuple of these kinds and of those that come from them, by any number of orders."""
-    met = {kind: True for kind in kinds}
-    waiting = list(met)
+    return tuple(sorted(list(children_from(scheme, kinds))))
+
+
+def children_from(scheme, kinds):
+    """The dict from these kinds, and from those that come from them by any number of orders, to what comes from each."""
+    children = {}
+    waiting = list({kind: True for kind in kinds})
     while waiting:
-        for kind, _, _ in what_comes(scheme, waiting.pop()):
-            if kind not in met:
-                met[kind] = True
-                waiting.append(kind)
-    return tuple(sorted(list(met)))
+        kind = waiting.pop()
+        if kind not in children:
+            children[kind] = what_comes(scheme, kind)
+            waiting.extend([own for own, _, _ in children[kind]])
+    return children
 
 
 def coming(scheme, kind):

@@ -1,0 +1,136 @@
+"""How a search goes on: what comes from numbers of kinds and stands, and what of that is used again."""
+
+from grownlines.decide.codes import kind_code
+
+# How many pairs a row has at most that is kept as it is for what comes later.
+_SHORT = 4
+
+
+def plan_of(codes):
+    """The plan with which a search takes the least time."""
+    most = codes.most_pairs()
+    return Steps(codes) if most <= 4 or most <= 9 and len(codes.kinds) <= 20 else Rows(codes)
+
+
+class Rows:
+    """A plan for rules with many items: what comes from two families at a turn and a vector is told in a row.
+
+    For pairs of kinds, it keeps the rows by the rest of a number, what is added to them, and the blocks by turns. All
+    that comes with numbers of visits above 0 is found when a row is told for the first time: of long rows, only the
+    rest is kept.
+    """
+
+    def __init__(self, codes):
+        self._codes = codes
+        self._pairs = {}
+        self._families = {}
+        # Nothing near comes from places that lead far away.
+        self._shapes = codes.nearness.shapes()
+        self._blank = [None if is_low else [] for is_low in codes.nearness.low_places()]
+
+    def pairs(self):
+        """The list of the pairs of kinds of the stands that were followed."""
+        return list(self._pairs)
+
+    def following(self, origins, part):
+        """The list of what comes from a part of what was found, and was not found before; its origins are kept."""
+        pairs = self._pairs
+        size = self._codes.size
+        span = self._codes.span
+        shapes = self._shapes
+        near = self._codes.nearness.places
+        found = []
+        for code in part:
+            try:
+                rows, sums, blocks = pairs[code // size]
+            except KeyError:
+                rows, sums, blocks = self._meet(code)
+            tail = code % size
+            row = rows[tail]
+            if row is None:
+                block, often, right, up, most = blocks[tail // span] or self._begin(blocks, code)
+                x, y, norm, base = shapes[tail % span]
+                row = []
+                if often * norm + right * x + up * y <= most:
+                    row = [(which, rest + turned[base + more]) for more, turned, which, rest in block
+                           if base + more in near]
+                rows[tail] = row if len(row) <= _SHORT else [(which, own) for which, own in row if which > 0]
+            for which, own in row:
+                new = own + sums[which]
+                if new not in origins:
+                    origins[new] = code
+                    found.append(new)
+        return found
+
+    def _meet(self, code):
+        """What is kept of a pair of kinds that was not met before; of a kind, the row of this kind alone."""
+        codes = self._codes
+        size = codes.size
+        if code < 0:
+            return ({code % size: [(0, own) for own in codes.coming_kinds(kind_code(code))]}, (0,), None)
+        families, sums = codes.pair(code // size)
+        if families not in self._families:
+            turns = size // codes.span
+            self._families[families] = (self._blank * turns, [None] * turns)
+        rows, blocks = self._families[families]
+        self._pairs[code // size] = (rows, sums, blocks)
+        return (rows, sums, blocks)
+
+    def _begin(self, blocks, code):
+        """Keep the block of a stand."""
+        codes = self._codes
+        families, _ = codes.pair(code // codes.size)
+        turn = code % codes.size // codes.span
+        block = codes.block(families, turn)
+        blocks[turn] = (block, *(codes.bounds(families, turn) if len(block) > 24 else (0, 0, 0, 0)))
+        return blocks[turn]
+
+
+class Steps:
+    """A plan for rules with few items: for all pairs of visits it is told where each vector leads.
+
+    By the parts of numbers without the place of the vector, it keeps the pairs of such a list and of what is added.
+    """
+
+    def __init__(self, codes):
+        self._codes = codes
+        self._heads = {}
+        self._blocks = {}
+
+    def pairs(self):
+        """The list of the pairs of kinds of the stands that were followed."""
+        turns = self._codes.size // self._codes.span
+        return list({head // turns: True for head in self._heads})
+
+    def following(self, origins, part):
+        """The list of what comes from a part of what was found, and was not found before; its origins are kept."""
+        heads = self._heads
+        span = self._codes.span
+        found = []
+        for code in part:
+            try:
+                pairs = heads[code // span]
+            except KeyError:
+                pairs = self._meet(code)
+            place = code % span
+            for steps, rest in pairs:
+                there = steps[place]
+                if there is not None:
+                    new = rest + there
+                    if new not in origins:
+                        origins[new] = code
+                        found.append(new)
+        return found
+
+    def _meet(self, code):
+        """What is kept of two kinds at a turn that were not met before; of a kind, what comes from this kind alone."""
+        codes = self._codes
+        if code < 0:
+            return [({code % codes.span: own}, 0) for own in codes.coming_kinds(kind_code(code))]
+        head = code // codes.span
+        families, sums = codes.pair(code // codes.size)
+        turn = code % codes.size // codes.span
+        if (families, turn) not in self._blocks:
+            self._blocks[(families, turn)] = codes.steps_in(families, turn)
+        self._heads[head] = [(steps, rest + sums[which]) for steps, which, rest in self._blocks[(families, turn)]]
+        return self._heads[head]
