@@ -20,7 +20,7 @@ def is_complete(codes, beginnings, kinds, runs):
         turn = head % (codes.size // codes.span)
         groups.setdefault((families, turn), []).append((sums, runs[head]))
     if codes.most_pairs() <= _FEW and sum([len(runs[head]) for head in runs]) >= _MANY:
-        return _has_places(codes, needed, kinds, runs) and _has_steps(codes, runs, groups)
+        return _has_places(codes, needed, kinds, runs) and _has_landings(codes, runs, groups)
     known = {head * codes.span + place: True for head in runs for place in runs[head]}
     known.update({code: True for code in kinds})
     return all([code in known for code in needed]) and _has_rows(codes, known, groups)
@@ -37,7 +37,7 @@ def _has_places(codes, needed, kinds, runs):
     return True
 
 
-def _has_steps(codes, runs, groups):
+def _has_landings(codes, runs, groups):
     """Whether all that comes is there, where few pairs of visits come from two: they are looked at one by one."""
     span = codes.span
     # Beside the places stands what leads to no near point.
@@ -47,10 +47,10 @@ def _has_steps(codes, runs, groups):
         group = groups[(families, turn)]
         # What comes with numbers of visits above 0 is the same for all kinds.
         whole = [((0,), list({place: True for _, places in group for place in places}))]
-        for steps, which, rest in codes.steps_in(families, turn):
+        for landings, which, rest in codes.landings(families, turn):
             for sums, places in group if which > 0 else whole:
                 there = known.get((rest + sums[which]) // span, nothing)
-                if not all([steps[place] in there for place in places]):
+                if not all([landings[place] in there for place in places]):
                     return False
     return True
 

@@ -7,15 +7,8 @@ Kinds from which the same comes, but for the visit number 0, are one family. Wha
 stand is the same for all stands with equal families, turns and vectors, but for the ranks of the visits number 0.
 """
 
-from math import isqrt
-
-from grownlines.base.points import norm_in, times, turned_by
+from grownlines.decide.circles import bounds_of, circle_of
 from grownlines.decide.stands import may_show, showing
-
-
-def twice_dot(grid, one, other):
-    """What the norm of the sum of two points has more than both norms."""
-    return (2 * one[0] * other[0] + grid.slant * (one[0] * other[1] + one[1] * other[0]) + 2 * one[1] * other[1])
 
 
 def kind_code(rank):
@@ -93,12 +86,12 @@ class Codes:
         return [(there - place, turned, sums - inner, high + low + spans[own - back])
                 for sums, high, back, place, turned in self._firsts_of(one) for inner, low, own, there in seconds]
 
-    def steps_in(self, families, turn):
-        """As `block`, but for all vectors with the places to which they lead, instead of what is told of vectors."""
+    def landings(self, families, turn):
+        """As `block`, but with the list of where each vector lands, instead of what is told of vectors."""
         one, other = divmod(families, len(self._rows))
         spans = [more * self.span for more in range(self._many)]
         seconds = self._seconds_of(other, turn)
-        return [(self.nearness.steps(there - place, back), sums - inner, high + low + spans[own - back])
+        return [(self.nearness.landings(there - place, back), sums - inner, high + low + spans[own - back])
                 for sums, high, back, place, _ in self._firsts_of(one) for inner, low, own, there in seconds]
 
     def _seconds_of(self, family, turn):
@@ -127,55 +120,29 @@ class Codes:
         near = self.nearness.places
         return [(which, rest + turned[base + more]) for more, turned, which, rest in block if base + more in near]
 
-    def block_of(self, code):
-        """The block of a stand, and what is added to what stands in its rows."""
+    def head_of(self, code):
+        """The families of a stand, its turn, and what is added to what stands in its rows."""
         families, sums = self.pair(code // self.size)
-        return (self.block(families, code % self.size // self.span), sums)
+        return (families, code % self.size // self.span, sums)
 
     def numbers_to(self, code, own):
-        """The pair of numbers with which one stand comes from another one."""
-        block, sums = self.block_of(code)
+        """The first pair of numbers with which one stand comes from another one."""
+        families, turn, sums = self.head_of(code)
         base = self.nearness.bases[code % self.span]
         near = self.nearness.places
-        found = [at for at, (more, turned, which, rest) in enumerate(block)
+        found = [at for at, (more, turned, which, rest) in enumerate(self.block(families, turn))
                  if base + more in near and rest + turned[base + more] + sums[which] == own]
-        many = len(self.children[code // self.size % len(self.kinds)])
-        return divmod(found[0], many)
-
-    def _circle_of(self, family):
-        """A circle around all points at which visits come from a family: how many, their sum, and a greatest norm.
-
-        That is the norm of a point, taken so many times, less the sum: all points are at most so far from their mean.
-        """
-        if family not in self._circles:
-            grid = self.nearness.grid
-            starts = [start for kind, turn, start in self._rows[family]]
-            many = len(starts)
-            x = sum([start[0] for start in starts])
-            y = sum([start[1] for start in starts])
-            norm = max([norm_in(grid, (many * start[0] - x, many * start[1] - y)) for start in starts])
-            self._circles[family] = (many, (x, y), norm)
-        return self._circles[family]
+        return divmod(found[0], len(self.children[code // self.size % len(self.kinds)]))
 
     def bounds(self, families, turn):
-        """What tells that vectors are so great that nothing comes from two families at a turn.
-
-        That are four integers: if the norm of the product of a vector with the growth, taken so many times as the first
-        one tells, plus the parts of the vector, times the next two, is above the last one, nothing near comes.
-        """
-        grid = self.nearness.grid
-        growth = self.nearness.growth
+        """The bounds of the vectors of which something near comes from two families at a turn."""
+        nearness = self.nearness
         one, other = divmod(families, len(self._rows))
-        few, mean, norm = self._circle_of(one)
-        many, middle, most = self._circle_of(other)
-        # All is taken so often that both means are points of the grid. Roots are rounded up.
-        often = few * many
-        reach = often * self.nearness.reach + isqrt(many * many * norm) + isqrt(few * few * most) + 2
-        x, y = turned_by(grid, middle, turn)
-        center = (few * x - many * mean[0], few * y - many * mean[1])
-        right = twice_dot(grid, growth, center)
-        up = twice_dot(grid, times(grid, (0, 1), growth), center)
-        return (often, right, up, (reach * reach - norm_in(grid, center)) // often)
+        for family in (one, other):
+            if family not in self._circles:
+                starts = [start for kind, turn, start in self._rows[family]]
+                self._circles[family] = circle_of(nearness.grid, starts)
+        return bounds_of(nearness.grid, nearness.growth, nearness.reach, self._circles[one], self._circles[other], turn)
 
     def coming_kinds(self, rank):
         """The list of the numbers of all kinds and stands that come from a visit of the kind with this rank."""
@@ -215,28 +182,30 @@ class Codes:
         kind, other, turn, _ = self.seen(code)
         return may_show(self.nearness.grid, kind, other, turn, fault)
 
-    def code_of(self, value):
-        """The number of a stand that is not far and has kinds among these; None for every other value."""
-        if not isinstance(value, tuple) or len(value) != 4:
-            return None
-        kind, other, turn, vector = value
-        if not isinstance(kind, tuple) or not isinstance(other, tuple) or not isinstance(vector, tuple):
-            return None
-        if len(kind) != 3 or len(other) != 3 or len(vector) != 2:
-            return None
-        before, after, bend = kind
-        last, following, angle = other
-        x, y = vector
-        if (not isinstance(before, str) or not isinstance(after, str) or not isinstance(last, str)
-                or not isinstance(following, str) or not isinstance(bend, int) or not isinstance(angle, int)
-                or not isinstance(turn, int) or not isinstance(x, int) or not isinstance(y, int)):
-            return None
-        # True and False are integers for Python, but not here.
-        if (bend is True or bend is False or angle is True or angle is False or turn is True or turn is False
-                or x is True or x is False or y is True or y is False or not 0 <= turn < self._many):
-            return None
-        try:
-            return ((self.ranks[kind] * len(self.kinds) + self.ranks[other]) * self.size + turn * self.span
-                    + self.nearness.spots[vector])
-        except KeyError:
-            return None
+
+def code_of(codes, value):
+    """The number of a stand that is not far and has kinds among these; None for every other value."""
+    if not isinstance(value, tuple) or len(value) != 4:
+        return None
+    kind, other, turn, vector = value
+    if not isinstance(kind, tuple) or not isinstance(other, tuple) or not isinstance(vector, tuple):
+        return None
+    if len(kind) != 3 or len(other) != 3 or len(vector) != 2:
+        return None
+    before, after, bend = kind
+    last, following, angle = other
+    x, y = vector
+    # What is looked up among kinds and vectors must be strings and integers.
+    if (not isinstance(before, str) or not isinstance(after, str) or not isinstance(last, str)
+            or not isinstance(following, str) or not isinstance(bend, int) or not isinstance(angle, int)
+            or not isinstance(turn, int) or not isinstance(x, int) or not isinstance(y, int)):
+        return None
+    # True and False are integers for Python, but not here.
+    if (bend is True or bend is False or angle is True or angle is False or turn is True or turn is False
+            or x is True or x is False or y is True or y is False or turn < 0 or turn * codes.span >= codes.size):
+        return None
+    try:
+        pair = codes.ranks[kind] * len(codes.kinds) + codes.ranks[other]
+        return pair * codes.size + turn * codes.span + codes.nearness.spots[vector]
+    except KeyError:
+        return None

@@ -4,6 +4,7 @@ from grownlines.base.rules import is_turn
 from grownlines.decide.closed import is_complete
 from grownlines.decide.codes import Codes, kind_code
 from grownlines.decide.nearness import Nearness
+from grownlines.decide.stands import is_stand
 from grownlines.visits.kinds import children_from, first_visits, is_kind
 
 
@@ -16,36 +17,38 @@ def _are_kinds(scheme, value):
     return isinstance(value, tuple) and all([is_kind(scheme, kind) for kind in value]) and _ascends(value)
 
 
-def _runs_of(scheme, nearness, value):
-    """An ascending tuple of stands that are not far, by their kinds and turns; None for every other value.
+def _are_next(scheme, runs, kind, other):
+    """Whether these are kinds that follow those of the last run, if there is one."""
+    if not is_kind(scheme, kind) or not is_kind(scheme, other):
+        return False
+    return len(runs) == 0 or runs[-1][:2] < (kind, other)
 
-    That is the list of the quadruples of two kinds, a turn, and the list of the places of all vectors with these.
+
+def _runs_of(scheme, nearness, value):
+    """An ascending tuple of stands that are not far, by their kinds and turns; None for every other tuple.
+
+    That is the list of the quadruples of two kinds, a turn, and the list of the places of all vectors with these. The
+    first member of the tuple, if there is one, has the form of a stand.
     """
     spots = nearness.spots
     runs = []
-    kind = other = own = places = None
-    last = -1
+    kind = other = own = places = last = None
     for stand in value:
         if not isinstance(stand, tuple) or len(stand) != 4:
             return None
         first, second, turn, vector = stand
-        if first != kind or second != other:
-            if not is_kind(scheme, first) or not is_kind(scheme, second):
+        is_new = first != kind or second != other
+        if is_new:
+            if not _are_next(scheme, runs, first, second):
                 return None
-            if len(runs) > 0 and (kind, other) > (first, second):
-                return None
-            kind = first
-            other = second
-            own = -1
+            kind, other = first, second
         # What is equal to a kind or a turn may have True or False in it.
         elif first[2] is True or first[2] is False or second[2] is True or second[2] is False:
             return None
-        if turn != own:
-            if not is_turn(scheme.grid, turn) or turn < own:
+        if is_new or turn != own:
+            if not is_turn(scheme.grid, turn) or not is_new and turn < own:
                 return None
-            own = turn
-            places = []
-            last = -1
+            own, places, last = turn, [], -1
             runs.append((kind, other, own, places))
         elif turn is True or turn is False:
             return None
@@ -91,8 +94,10 @@ class Told:
 
 def told_of(scheme, kinds, stands):
     """What is told by an ascending tuple of kinds and one of stands that are not far, None if they are none."""
-    if not _are_kinds(scheme, kinds):
+    if not _are_kinds(scheme, kinds) or not isinstance(stands, tuple):
+        return None
+    if len(stands) > 0 and not is_stand(scheme, stands[0]):
         return None
     nearness = Nearness(scheme)
-    runs = _runs_of(scheme, nearness, stands) if isinstance(stands, tuple) else None
+    runs = _runs_of(scheme, nearness, stands)
     return None if runs is None else Told(scheme, nearness, kinds, runs)

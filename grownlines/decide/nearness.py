@@ -45,7 +45,7 @@ class Nearness:
         self.places = {x * side + y: place for place, (x, y) in enumerate(self.points)}
         self.bases = self._bases(scheme)
         self._turned = {0: self.places}
-        self._steps = {}
+        self._landings = {}
 
     def wide(self, point):
         """A point as an integer: sums of points are sums of these."""
@@ -90,12 +90,12 @@ class Nearness:
             self._turned[turn] = {wide: places[x * right + y * up] for wide, (x, y) in zip(places, self.points)}
         return self._turned[turn]
 
-    def steps(self, more, turn):
+    def landings(self, more, turn):
         """For each vector the place of the point to which it leads, if this is added and all is turned backward.
 
         It is None if the point is not near.
         """
-        if (more, turn) not in self._steps:
+        if (more, turn) not in self._landings:
             near = self.turned(turn)
-            self._steps[(more, turn)] = [near.get(base + more) for base in self.bases]
-        return self._steps[(more, turn)]
+            self._landings[(more, turn)] = [near.get(base + more) for base in self.bases]
+        return self._landings[(more, turn)]

@@ -1,6 +1,6 @@
 """Papers: what shows that a scheme is clear of a fault, or that it meets it."""
 
-from grownlines.decide.codes import Codes
+from grownlines.decide.codes import Codes, code_of
 from grownlines.decide.found import Found
 from grownlines.decide.judged import told_of
 from grownlines.decide.nearness import Nearness
@@ -96,7 +96,7 @@ def lift(scheme, one, other):
     if not nearness.is_near(start[3]):
         return None
     codes = Codes(scheme, nearness, children_from(scheme, start[:2]))
-    found = search(codes, [codes.code_of(start)], MAX_TABLE, {}, "point")
+    found = search(codes, [code_of(codes, start)], MAX_TABLE, {}, "point")
     if found is None:
         raise TooMany(MAX_TABLE)
     origins, _, pairs = found

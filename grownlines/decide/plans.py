@@ -5,27 +5,30 @@ from grownlines.decide.codes import kind_code
 # How many pairs a row has at most that is kept as it is for what comes later.
 _SHORT = 4
 
+# Where two families have more pairs of visits than this, it is looked ahead whether anything near comes from vectors.
+_FEW = 24
+
 
 def plan_of(codes):
     """The plan with which a search takes the least time."""
     most = codes.most_pairs()
-    return Steps(codes) if most <= 4 or most <= 9 and len(codes.kinds) <= 20 else Rows(codes)
+    return LandingPlan(codes) if most <= 4 or most <= 9 and len(codes.kinds) <= 20 else RowPlan(codes)
 
 
-class Rows:
+class RowPlan:
     """A plan for rules with many items: what comes from two families at a turn and a vector is told in a row.
 
-    For pairs of kinds, it keeps the rows by the rest of a number, what is added to them, and the blocks by turns. All
-    that comes with numbers of visits above 0 is found when a row is told for the first time: of long rows, only the
-    rest is kept.
+    For pairs of kinds, it keeps the rows by the rest of a number, what is added to them, and the blocks by turns, with
+    their bounds. All that comes with numbers of visits above 0 is found when a row is told for the first time: of long
+    rows, only the rest is kept.
     """
 
     def __init__(self, codes):
         self._codes = codes
         self._pairs = {}
         self._families = {}
-        # Nothing near comes from places that lead far away.
         self._shapes = codes.nearness.shapes()
+        # Nothing near comes from vectors that lead far away.
         self._blank = [None if is_low else [] for is_low in codes.nearness.low_places()]
 
     def pairs(self):
@@ -77,19 +80,19 @@ class Rows:
         return (rows, sums, blocks)
 
     def _begin(self, blocks, code):
-        """Keep the block of a stand."""
-        codes = self._codes
-        families, _ = codes.pair(code // codes.size)
-        turn = code % codes.size // codes.span
-        block = codes.block(families, turn)
-        blocks[turn] = (block, *(codes.bounds(families, turn) if len(block) > 24 else (0, 0, 0, 0)))
+        """Keep the block of a stand, with its bounds."""
+        families, turn, _ = self._codes.head_of(code)
+        block = self._codes.block(families, turn)
+        bounds = self._codes.bounds(families, turn) if len(block) > _FEW else (0, 0, 0, 0)
+        blocks[turn] = (block, *bounds)
         return blocks[turn]
 
 
-class Steps:
-    """A plan for rules with few items: for all pairs of visits it is told where each vector leads.
+class LandingPlan:
+    """A plan for rules with few items: for each pair of visits it is told where all vectors land.
 
-    By the parts of numbers without the place of the vector, it keeps the pairs of such a list and of what is added.
+    By heads, the parts of numbers without the place of the vector, it keeps the pairs of such a list and of what is
+    added.
     """
 
     def __init__(self, codes):
@@ -113,8 +116,8 @@ class Steps:
             except KeyError:
                 pairs = self._meet(code)
             place = code % span
-            for steps, rest in pairs:
-                there = steps[place]
+            for landings, rest in pairs:
+                there = landings[place]
                 if there is not None:
                     new = rest + there
                     if new not in origins:
@@ -127,10 +130,9 @@ class Steps:
         codes = self._codes
         if code < 0:
             return [({code % codes.span: own}, 0) for own in codes.coming_kinds(kind_code(code))]
-        head = code // codes.span
-        families, sums = codes.pair(code // codes.size)
-        turn = code % codes.size // codes.span
+        families, turn, sums = codes.head_of(code)
         if (families, turn) not in self._blocks:
-            self._blocks[(families, turn)] = codes.steps_in(families, turn)
-        self._heads[head] = [(steps, rest + sums[which]) for steps, which, rest in self._blocks[(families, turn)]]
-        return self._heads[head]
+            self._blocks[(families, turn)] = codes.landings(families, turn)
+        pairs = [(landings, rest + sums[which]) for landings, which, rest in self._blocks[(families, turn)]]
+        self._heads[code // codes.span] = pairs
+        return pairs

@@ -45,18 +45,25 @@ def search(codes, beginnings, most, goals, fault):
 
 def all_coming(codes, numbers):
     """The list of the lists of the numbers of all that comes from these ones, far stands left out."""
+    heads = {}
     blocks = {}
-    rows = {}
     found = []
     for code in numbers:
         if code < 0:
             found.append(codes.coming_kinds(kind_code(code)))
             continue
         head = code // codes.span
-        if head not in blocks:
-            blocks[head] = codes.block_of(code)
-        block, sums = blocks[head]
-        found.append([own + sums[which] for which, own in codes.row_in(block, code % codes.span)])
+        place = code % codes.span
+        if head not in heads:
+            families, turn, sums = codes.head_of(code)
+            if (families, turn) not in blocks:
+                blocks[(families, turn)] = (codes.block(families, turn), {})
+            block, rows = blocks[(families, turn)]
+            heads[head] = (sums, block, rows)
+        sums, block, rows = heads[head]
+        if place not in rows:
+            rows[place] = codes.row_in(block, place)
+        found.append([own + sums[which] for which, own in rows[place]])
     return found
 
 

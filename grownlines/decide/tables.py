@@ -1,5 +1,6 @@
 """The table of a scheme: all stands that are not far of its lines of all orders."""
 
+from grownlines.decide.codes import code_of
 from grownlines.decide.found import Found
 from grownlines.decide.judged import told_of
 from grownlines.decide.nearness import Nearness
@@ -44,7 +45,7 @@ class Table:
 
     def _code(self, stand):
         """The number of a stand of the table."""
-        code = self._found.codes.code_of(stand)
+        code = code_of(self._found.codes, stand)
         if code not in self._orders:
             raise InvalidStand("a stand of the table is asked for")
         return code
@@ -68,7 +69,7 @@ class Table:
         return self._first_orders[fault]
 
     def __contains__(self, value):
-        return self._found.codes.code_of(value) in self._orders
+        return code_of(self._found.codes, value) in self._orders
 
     def __len__(self):
         return len(self.stands)

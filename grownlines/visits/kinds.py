@@ -47,7 +47,7 @@ def kinds_from(scheme, kinds):
 
 
 def children_from(scheme, kinds):
-    """The dict from these kinds, and from those that come from them by any number of orders, to what comes from each."""
+    """The dict from these kinds, and those that come from them by any number of orders, to what comes from each."""
     children = {}
     waiting = list({kind: True for kind in kinds})
     while waiting:
