@@ -9,10 +9,60 @@ _SHORT = 4
 _FEW = 24
 
 
+def is_light(codes):
+    """Whether few pairs of visits come from two visits, and there are not too many kinds."""
+    most = codes.most_pairs()
+    return most <= 4 or most <= 9 and len(codes.kinds) <= 20
+
+
 def plan_of(codes):
     """The plan with which a search takes the least time."""
-    most = codes.most_pairs()
-    return LandingPlan(codes) if most <= 4 or most <= 9 and len(codes.kinds) <= 20 else RowPlan(codes)
+    return LandingPlan(codes) if is_light(codes) else RowPlan(codes)
+
+
+def _pairs_of(codes, heads):
+    """The list of the pairs of kinds with these heads."""
+    turns = codes.size // codes.span
+    return list({head // turns: True for head in heads})
+
+
+class DirectPlan:
+    """A plan for few numbers: what comes from each of them is told anew.
+
+    By heads, the parts of numbers without the place of the vector, it keeps the blocks and what is added.
+    """
+
+    def __init__(self, codes):
+        self._codes = codes
+        self._heads = {}
+        self._blocks = {}
+
+    def pairs(self):
+        """The list of the pairs of kinds of the stands that were followed."""
+        return _pairs_of(self._codes, self._heads)
+
+    def following(self, origins, part):
+        """The list of what comes from a part of what was found, and was not found before; its origins are kept."""
+        codes = self._codes
+        found = []
+        for code in part:
+            for new in codes.coming_kinds(kind_code(code)) if code < 0 else self._coming(code):
+                if new not in origins:
+                    origins[new] = code
+                    found.append(new)
+        return found
+
+    def _coming(self, code):
+        """The list of the numbers of all that comes from a stand."""
+        codes = self._codes
+        head = code // codes.span
+        if head not in self._heads:
+            families, turn, sums = codes.head_of(code)
+            if (families, turn) not in self._blocks:
+                self._blocks[(families, turn)] = codes.block(families, turn)
+            self._heads[head] = (self._blocks[(families, turn)], sums)
+        block, sums = self._heads[head]
+        return [own + sums[which] for which, own in codes.row_in(block, code % codes.span)]
 
 
 class RowPlan:
@@ -91,8 +141,7 @@ class RowPlan:
 class LandingPlan:
     """A plan for rules with few items: for each pair of visits it is told where all vectors land.
 
-    By heads, the parts of numbers without the place of the vector, it keeps the pairs of such a list and of what is
-    added.
+    By heads, it keeps the pairs of such a list and of what is added.
     """
 
     def __init__(self, codes):
@@ -102,8 +151,7 @@ class LandingPlan:
 
     def pairs(self):
         """The list of the pairs of kinds of the stands that were followed."""
-        turns = self._codes.size // self._codes.span
-        return list({head // turns: True for head in self._heads})
+        return _pairs_of(self._codes, self._heads)
 
     def following(self, origins, part):
         """The list of what comes from a part of what was found, and was not found before; its origins are kept."""

@@ -4,12 +4,15 @@ They go through the numbers of kinds and stands, in the order in which these are
 """
 
 from grownlines.decide.codes import kind_code
-from grownlines.decide.plans import plan_of
+from grownlines.decide.plans import DirectPlan, is_light, plan_of
 from grownlines.decide.stands import first_stands, stands_within
 from grownlines.visits.kinds import first_visits
 
 # How many numbers are followed until it is looked whether there are too many.
 _PART = 256
+
+# How many numbers of one order are followed directly.
+_GREAT = 80
 
 
 def _level_after(plan, origins, level, most):
@@ -31,16 +34,21 @@ def search(codes, beginnings, most, goals, fault):
     fault, if there is one. It is None if more than so many are found.
     """
     origins = {code: None for code in beginnings}
-    plan = plan_of(codes)
     levels = [list(origins)]
+    # A search that may end early begins with the plan that needs the least preparation.
+    is_short = len(goals) > 0 and is_light(codes)
+    plans = [DirectPlan(codes) if is_short else plan_of(codes)]
     while len(levels[-1]) > 0:
         if len(goals) > 0 and any([code in goals and codes.shows(code, fault) for code in levels[-1]]):
             break
-        level = _level_after(plan, origins, levels[-1], most)
+        if is_short and len(levels[-1]) > _GREAT:
+            is_short = False
+            plans.append(plan_of(codes))
+        level = _level_after(plans[-1], origins, levels[-1], most)
         if level is None:
             return None
         levels.append(level)
-    return (origins, levels, plan.pairs())
+    return (origins, levels, list({pair: True for plan in plans for pair in plan.pairs()}))
 
 
 def all_coming(codes, numbers):
