@@ -33,6 +33,24 @@ def drawn(points, edges):
     return "\n".join("".join(row).rstrip(" ") for row in sheet)
 
 
+def read_by_words(text):
+    """The points and the edges of a text, sign by sign, None if it is not what is drawn of them."""
+    rows = text.split("\n")
+    signs = [(at, len(rows) - 1 - down, sign) for down, row in enumerate(rows) for at, sign in enumerate(row)
+             if sign != " "]
+    points = {(at // 2, up // 2) for at, up, sign in signs if sign == "+" and at % 2 == up % 2 == 0}
+    beside = {((at // 2, up // 2), (at // 2 + 1, up // 2)) for at, up, sign in signs
+              if sign == "-" and at % 2 == 1 and up % 2 == 0}
+    upward = {((at // 2, up // 2), (at // 2, up // 2 + 1)) for at, up, sign in signs
+              if sign == "|" and at % 2 == 0 and up % 2 == 1}
+    edges = beside | upward
+    if len(points) + len(edges) < len(signs) or not {point for edge in edges for point in edge} <= points:
+        return None
+    if not points or [min(part) for part in zip(*points)] != [0, 0] or drawn(points, edges) != text:
+        return None
+    return (tuple(sorted(points)), tuple(sorted(edges)))
+
+
 def drawn_sets(draw):
     """Points, some of them with edges between, of which the least parts are 0."""
     width, height = draw.randrange(1, 6), draw.randrange(1, 6)

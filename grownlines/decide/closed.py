@@ -11,8 +11,7 @@ _MANY = 400
 
 
 def is_complete(codes, beginnings, kinds, runs):
-    """Whether these numbers of kinds, and the stands by their heads, have the beginnings and all that comes from them.
-    """
+    """Whether kinds, by numbers, and stands, by heads, have the beginnings among them, and all that comes from them."""
     needed = beginnings + [own for code in kinds for own in codes.coming_kinds(kind_code(code))]
     groups = {}
     for head in runs:
@@ -40,7 +39,7 @@ def _has_places(codes, needed, kinds, runs):
 def _has_landings(codes, runs, groups):
     """Whether all that comes is there, where few pairs of visits come from two: they are looked at one by one."""
     span = codes.span
-    # Beside the places stands what leads to no near point.
+    # Beside the places stands None, where a vector lands if it leads to no near point.
     nothing = {None: True}
     known = {head: {place: True for place in runs[head] + [None]} for head in runs}
     for families, turn in groups:

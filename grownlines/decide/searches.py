@@ -11,7 +11,7 @@ from grownlines.visits.kinds import first_visits
 # How many numbers are followed until it is looked whether there are too many.
 _PART = 256
 
-# How many numbers of one order are followed directly.
+# How many numbers of one order are followed at most by a plan that needs no preparation.
 _GREAT = 80
 
 
